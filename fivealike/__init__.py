@@ -1,0 +1,1 @@
+"""Fivealike: graphs that nothing of a told strength can part."""

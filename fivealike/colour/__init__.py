@@ -1,0 +1,1 @@
+"""Rounds of names for rows, and what is alike by them."""

@@ -1,0 +1,1 @@
+"""The counting game of a keeper and a spoiler."""

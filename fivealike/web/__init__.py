@@ -1,0 +1,1 @@
+"""Webs, their rows and atoms, and the maps between them."""

@@ -1,0 +1,37 @@
+"""Checks of the arguments that are the same everywhere."""
+from fivealike.errors import InvalidNumber, InvalidWeb, TooMany
+from fivealike.plain import is_between, power_up_to
+from fivealike.web.webs import Web
+
+MOST_ROWS = 4096
+MOST_WEBS = 4
+GREATEST_K = 3
+GREATEST_DEPTH = 99
+
+
+def check_webs(webs):
+    """Refuses what is no tuple of one to four webs."""
+    if not isinstance(webs, tuple) or not 1 <= len(webs) <= MOST_WEBS:
+        raise InvalidWeb("a tuple of one to four webs is asked for")
+    for web in webs:
+        if not isinstance(web, Web):
+            raise InvalidWeb("a tuple of one to four webs is asked for")
+
+
+def check_k(k):
+    """Refuses what is not 1, 2 or 3."""
+    if not is_between(k, 1, GREATEST_K):
+        raise InvalidNumber(k)
+
+
+def check_depth(depth):
+    """Refuses what is no integer from 0 to 99."""
+    if not is_between(depth, 0, GREATEST_DEPTH):
+        raise InvalidNumber(depth)
+
+
+def check_rows(webs, k):
+    """Refuses webs with too many rows of k + 1 points."""
+    for web in webs:
+        if power_up_to(len(web), k + 1, MOST_ROWS) > MOST_ROWS:
+            raise TooMany(MOST_ROWS)

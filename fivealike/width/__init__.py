@@ -1,0 +1,1 @@
+"""Bags and brambles, and recipes that count along bags."""
