@@ -1,0 +1,100 @@
+"""All names of the interface exist, where it lists them, and take what it lists."""
+import importlib
+import inspect
+import unittest
+
+import fivealike.errors
+
+LISTED = {
+    "web.webs": "part(web, points) renamed(web, names) recoloured(web, colours) beside(one, other)"
+                " joined(one, other) opposite(web) pieces(web) is_row(web, value) atom_of(web, row)"
+                " are_like(one, row, other, goal)",
+    "web.maps": "is_map(pattern, web, value) is_one_to_one(pattern, web, value) is_same(one, other, value)"
+                " maps_of(pattern, web) map_number(pattern, web) one_to_one_number(pattern, web)"
+                " told_number(pattern, web) times(one, other) behind(first, second)",
+    "width.bags": "is_bags(web, value) bags_width(web, bags) is_bramble(web, k, value) width_answer(web, k)"
+                  " is_width_answer(web, k, value) least_width(web) bags_along(web, order)",
+    "width.recipes": "is_recipe(k, value) is_open(k, value) recipe_places(recipe, k) recipe_depth(recipe, k)"
+                     " recipe_table(recipe, k, web) number_of(recipe, k, web) pattern_of(recipe, k)"
+                     " recipe_of(pattern, bags, k) count_along(pattern, bags, web)",
+    "colour.rounds": "names_at(webs, k, depth) name_number(webs, k, depth) mark_of(webs, k, depth, which, row)"
+                     " type_of(webs, k, depth, which, row) stable_round(webs, k) stable_names(webs, k)"
+                     " is_renaming(webs, k, depth, value)",
+    "colour.alike": "alike_answer(one, other, k, depth) is_alike_answer(one, other, k, depth, value)"
+                    " for_ever(one, other, k) is_for_ever(one, other, k, value)"
+                    " is_ladder(one, other, k, depth, value) is_table(one, other, k, value)"
+                    " least_apart(one, other, k) are_alike(one, other, k, depth) rounds_apart(one, other)",
+    "game.tokens": "is_position(one, other, k, value) is_pairing(one, other, value)"
+                   " pairing_for(one, other, k, ladder, depth, position)"
+                   " is_pairing_for(one, other, k, ladder, depth, position, value)"
+                   " game_answer(one, other, k, depth) is_game_answer(one, other, k, depth, value)"
+                   " is_spoiler_table(one, other, k, value) least_moves(one, other, k)"
+                   " spoiler_take(one, other, k, table, position, pairing)"
+                   " is_spoiler_take(one, other, k, table, position, pairing, value)",
+}
+CLASSES = {
+    ("web.webs", "Web"): "__init__(self, colours, ties) near(self, point) is_tied(self, here, there)"
+                         " __len__(self) __contains__(self, value) __eq__(self, other) __str__(self)",
+    ("game.tokens", "Play"): "__init__(self, one, other, k) offer(self, pairing) take(self, point, place=0)"
+                             " undo(self) twin(self) __len__(self) __eq__(self, other) __str__(self)",
+}
+CONSTANTS = {("width.bags", "MOST_WIDE"): 12, ("width.recipes", "MOST_LINES"): 2000}
+MESSAGES = ("InvalidWeb", "InvalidRow", "InvalidMap", "InvalidBags", "InvalidRecipe", "InvalidSentence",
+            "InvalidTable", "InvalidClaim", "InvalidOperation")
+KEEPING = {"InvalidNumber": "given", "UnknownName": "wanted", "TooMany": "most", "Refused": "reason",
+           "ParseError": "at"}
+
+
+def split_heads(text):
+    """The name and the arguments of each head of a text."""
+    heads = [head + ")" for head in text.split(")")[:-1]]
+    return [(head.strip().split("(")[0], "(" + head.split("(")[1]) for head in heads]
+
+
+class Interface(unittest.TestCase):
+    def test_functions(self):
+        for word, heads in LISTED.items():
+            module = importlib.import_module("fivealike." + word)
+            for name, arguments in split_heads(heads):
+                with self.subTest(name=name):
+                    function = vars(module)[name]
+                    self.assertTrue(inspect.isfunction(function))
+                    self.assertEqual(function.__module__, "fivealike." + word)
+                    self.assertEqual(str(inspect.signature(function)), arguments)
+
+    def test_classes(self):
+        for (word, name), heads in CLASSES.items():
+            kind = vars(importlib.import_module("fivealike." + word))[name]
+            self.assertEqual(kind.__module__, "fivealike." + word)
+            for method, arguments in split_heads(heads):
+                with self.subTest(name=method):
+                    self.assertEqual(str(inspect.signature(vars(kind)[method])), arguments)
+
+    def test_constants(self):
+        for (word, name), value in CONSTANTS.items():
+            self.assertEqual(vars(importlib.import_module("fivealike." + word))[name], value)
+
+
+class Errors(unittest.TestCase):
+    def test_what_they_are_derived_from(self):
+        self.assertEqual(fivealike.errors.FiveError.__bases__, (ValueError,))
+        for name in MESSAGES + tuple(KEEPING):
+            with self.subTest(name=name):
+                error = vars(fivealike.errors)[name]
+                self.assertEqual(error.__bases__, (fivealike.errors.FiveError,))
+
+    def test_messages(self):
+        for name in MESSAGES:
+            self.assertEqual(str(vars(fivealike.errors)[name]("what is wrong")), "what is wrong")
+
+    def test_kept_values(self):
+        for name, kept in KEEPING.items():
+            for value in (None, 7, ("never", 3), "word"):
+                with self.subTest(name=name, value=value):
+                    error = vars(fivealike.errors)[name](value)
+                    self.assertIs(getattr(error, kept), value)
+                    self.assertEqual(list(vars(error)), [kept])
+
+
+if __name__ == "__main__":
+    unittest.main()
