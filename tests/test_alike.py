@@ -264,6 +264,7 @@ class Refusals(unittest.TestCase):
         for function, more in tuple([(function, (None,) + more) for function, more in self.DEEP]) + self.FLAT:
             for web in STRANGE:
                 check_refused(self, InvalidWeb(""), function, web, None, None, *more)
+                check_refused(self, InvalidWeb(""), function, web, FORTY, None, *more)
                 check_refused(self, InvalidWeb(""), function, FORTY, web, None, *more)
             for k in WRONG_K:
                 check_refused(self, InvalidNumber(k), function, FORTY, FORTY, k, *more)

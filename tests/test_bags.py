@@ -86,6 +86,9 @@ class Bags(unittest.TestCase):
         # No bag without one above; two of them; a bag above itself; a ring of bags.
         for above in ((0,), (1, 0), (None, None), (0, None), (None, 1)):
             self.assertFalse(is_bags(DOT, (((0,),) * len(above), above)))
+        # Not as many above as there are bags.
+        for above in ((None,), (None, 0, None), (None, 0, 0), (0, None, None), ()):
+            self.assertFalse(is_bags(DOT, (((0,),) * 2, above)))
 
     def test_any_value(self):
         bags, above = ROUND

@@ -94,6 +94,7 @@ class Errors(unittest.TestCase):
                     error = vars(fivealike.errors)[name](value)
                     self.assertIs(getattr(error, kept), value)
                     self.assertEqual(list(vars(error)), [kept])
+                    self.assertNotEqual(str(error), str(value))
 
 
 if __name__ == "__main__":

@@ -37,9 +37,10 @@ def star(ties):
 
 class Maps(unittest.TestCase):
     def test_told(self):
-        for seed in range(25):
-            pattern = some_web(seed, seed % 4 + 1, 0.5, (-1, 0, 1))
-            web = some_web(seed + 100, seed % 5, 0.5, (-1, 0, 1))
+        for seed in range(40):
+            colours = (-1, 0, 1) if seed % 2 else (-1, 0)
+            pattern = some_web(seed, seed % 4 + 1, 0.5, colours[:seed % 3 + 1])
+            web = some_web(seed + 100, seed % 7 if seed % 4 < 3 else 4, 0.5, colours)
             maps = told_maps(pattern, web)
             unlike = [images for images in maps if len(set(images)) == len(images)]
             pairs = [pair for pair in itertools.combinations(range(len(pattern)), 2) if pair not in pattern.ties]
@@ -51,6 +52,13 @@ class Maps(unittest.TestCase):
             for images in itertools.product(range(len(web) + 1), repeat=len(pattern)):
                 self.assertIs(is_map(pattern, web, images), images in maps)
                 self.assertIs(is_one_to_one(pattern, web, images), images in unlike)
+
+    def test_told_ones(self):
+        # Of the one to one maps of a path into a ring and into a full web: the ends stay untied, or not.
+        self.assertEqual([told_number(path(3), RING), one_to_one_number(path(3), RING)], [12, 12])
+        self.assertEqual([told_number(path(3), full(3)), one_to_one_number(path(3), full(3))], [0, 6])
+        self.assertEqual([told_number(full(3), full(4)), told_number(path(4), RING), told_number(Web((0, 0), ()), RING)],
+                         [24, 12, 18])
 
     def test_colour_below_nought_in_a_web(self):
         web = Web((-1, 0), ())
@@ -74,6 +82,7 @@ class Maps(unittest.TestCase):
             check_refused(self, TooMany(100000), function, Web((1,) * 17, ()), Web((0, 0), ()))
             check_refused(self, TooMany(100000), function, Web((-1,) * 5, ()), full(11))
             check_refused(self, InvalidWeb(""), function, None, None)
+            check_refused(self, InvalidWeb(""), function, None, RING)
             check_refused(self, InvalidWeb(""), function, FORTY, RING.ties)
             self.assertEqual(len(maps_of(Web((1,) * 16, ()), Web((0, 0), ()))), 0)
 

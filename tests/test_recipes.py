@@ -105,7 +105,7 @@ class Judges(unittest.TestCase):
                      ("tie", 1, 0), ("tie", 0, 0), ("tie", 0, 2), ("tie", 0), ("tie", 0, 1, 0), ("tie", False, True),
                      ("tie", 0, True), ("same", 1, 0), ("same", 1, 1), ("same", 0, 2), ("same", False, 1),
                      ("colour", 0, -1), ("colour", 0, 10), ("colour", 2, 0), ("colour", 0), ("colour", 0, True),
-                     ("colour", True, 0), ("glue", 0, 2), ("glue", 3, 0), ("glue", -1, 0), ("glue", 0), ("glue", 0, True),
+                     ("colour", True, 0), ("glue", 0, 2), ("glue", 2, 0), ("glue", 3, 0), ("glue", -1, 0), ("glue", 0), ("glue", 0, True),
                      ("glue", False, 0), ("glue", 0, 1, 1), ("sum", 0, 1), ("sum", 2, 0), ("sum", 0, 2), ("sum", 0, -1),
                      ("sum", True, 0), ("sum", 0, False), ("sum", 0), ("sum", 0, 0, 0), ["one"], ("one",) * 2, "one", None,
                      7, (("one",),), ("glue", 10 ** 99, 0), ("point", 10 ** 99), (1, 0), (None, 0, 1), ({}, 0)):

@@ -546,6 +546,7 @@ class Refusals(unittest.TestCase):
         for function, more in ((is_position, (None,)), (game_answer, (7,)), (is_game_answer, (-1, None)), (least_moves, ()),
                                (is_spoiler_table, (None,))):
             check_refused(self, InvalidWeb(""), function, None, None, None, *more)
+            check_refused(self, InvalidWeb(""), function, None, FORTY, None, *more)
             check_refused(self, InvalidWeb(""), function, FORTY, "web", None, *more)
             for k in WRONG_K:
                 check_refused(self, InvalidNumber(k), function, FORTY, FORTY, k, *more)

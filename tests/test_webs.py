@@ -2,25 +2,13 @@
 import itertools
 import unittest
 
+import told
 from fivealike.errors import InvalidNumber, InvalidOperation, InvalidRow, InvalidWeb, TooMany
 from fivealike.web.webs import (Web, are_like, atom_of, beside, is_row, joined, opposite, part, pieces, recoloured,
                                 renamed)
 from helper import DOT, FORTY, NO_WEB, RING, STRANGE, TWO, check_refused, full, path, some_names, some_web
 
 PATH = Web((2, -1, 2), ((0, 1), (1, 2)))
-
-
-def told_atom(web, row):
-    """The atom of a row by the words of the document."""
-    pairs = list(itertools.combinations(range(len(row)), 2))
-    return (tuple([web.colours[point] for point in row]),
-            tuple([(i, j) for i, j in pairs if row[i] == row[j]]),
-            tuple([(i, j) for i, j in pairs if (min(row[i], row[j]), max(row[i], row[j])) in web.ties]))
-
-
-def rows_of(web, most):
-    for many in range(most + 1):
-        yield from itertools.product(range(len(web)), repeat=many)
 
 
 class Webs(unittest.TestCase):
@@ -192,8 +180,8 @@ class Rows(unittest.TestCase):
 
     def test_atoms(self):
         web = some_web(5, 4, 0.5, (-1, 0, 9))
-        for row in rows_of(web, 4):
-            self.assertEqual(atom_of(web, row), told_atom(web, row))
+        for row in told.rows(web, 4):
+            self.assertEqual(atom_of(web, row), told.atom(web, row))
         self.assertEqual(atom_of(NO_WEB, ()), ((), (), ()))
         self.assertEqual(atom_of(PATH, (1, 1, 1, 1)), ((-1,) * 4, ((0, 1), (0, 2), (0, 3), (1, 2), (1, 3), (2, 3)), ()))
 
@@ -210,14 +198,14 @@ class Rows(unittest.TestCase):
 
     def test_like(self):
         one, other = some_web(1, 3, 0.5, (0, 1)), some_web(2, 3, 0.5, (0, 1))
-        for row in rows_of(one, 3):
-            for goal in rows_of(other, 3):
-                self.assertIs(are_like(one, row, other, goal), told_atom(one, row) == told_atom(other, goal))
+        for row in told.rows(one, 3):
+            for goal in told.rows(other, 3):
+                self.assertIs(are_like(one, row, other, goal), told.atom(one, row) == told.atom(other, goal))
 
     def test_what_becomes_of_atoms(self):
         for seed in range(5):
             web, more, names = some_web(seed, 4, 0.5, (0, 1)), some_web(seed + 9, 3), some_names(seed, 4)
-            for row in rows_of(web, 3):
+            for row in told.rows(web, 3):
                 far = tuple([point + 3 for point in row])
                 self.assertTrue(are_like(web, row, renamed(web, names), tuple([names[point] for point in row])))
                 for function in (beside, joined):

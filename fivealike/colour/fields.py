@@ -69,10 +69,15 @@ def fields_of(webs, k):
             for atom, _ in longer:
                 atoms[atom] = True
     # The numbers have the sequence of the atoms, so that what is counted is sorted alike.
-    ranks = {atom: at for at, atom in enumerate(sorted(atoms))}
+    ranks = {told: at for at, told in enumerate(sorted(atoms))}
     for field in fields:
-        field.behind = [[(ranks[atom], cuts) for atom, cuts in longer] for longer in field.longer]
+        field.behind = [with_ranks(behind, ranks) for behind in field.longer]
     return fields
+
+
+def with_ranks(longer, ranks):
+    """The list of what is told of longer rows, with the numbers of atoms in the place of these."""
+    return [(ranks[atom], cuts) for atom, cuts in longer]
 
 
 def with_cuts(longer, numbers):
@@ -110,8 +115,8 @@ def names_of(marks):
     for own in marks:
         for mark in own:
             known[mark] = True
-    index = {mark: at for at, mark in enumerate(sorted(known))}
-    return [[index[mark] for mark in own] for own in marks]
+    index = {told: at for at, told in enumerate(sorted(known))}
+    return [[index[told] for told in those] for those in marks]
 
 
 def many_names(names):

@@ -10,6 +10,7 @@ class Shape:
 
     def __init__(self, heads, colours, ties, inner, broken):
         # heads: for each place the key of its point. inner: how many points are at no place.
+        # broken: whether the line contradicts itself, though the lines ahead that it has do not.
         self.heads = heads
         self.colours = colours
         self.ties = ties
@@ -55,7 +56,7 @@ def glued_shapes(one, other):
     heads = merged_heads(one, other)
     colours = {}
     ties = {}
-    broken = one.broken or other.broken
+    broken = False
     for shape, shift in ((one, 0), (other, one.inner)):
         for key, colour in shape.colours.items():
             named = key_in(heads, key, shift)
@@ -78,7 +79,7 @@ def summed_shape(shape, place):
     colours = {names.get(here, here): colour for here, colour in shape.colours.items()}
     ties = {pair_of(names.get(here, here), names.get(there, there)): True for here, there in shape.ties}
     inner = shape.inner if left != [] else shape.inner + 1
-    return Shape(heads, colours, ties, inner, shape.broken)
+    return Shape(heads, colours, ties, inner, False)
 
 
 def without_inner(shape):
