@@ -231,7 +231,8 @@ class SpoilerTables(unittest.TestCase):
                 for value in itertools.product(range(-1, 7), range(-1, 4)):
                     judged = is_spoiler_take(RING, TWO, 2, APART, position, pairing, value)
                     self.assertIs(judged, value in right)
-                for value in STRANGE + ([take[0], take[1]], take + (0,), (take[0], bool(take[1])), (take[0], None), take[:1]):
+                wrong = [(bool(point), place) for point, place in right] + [(point, bool(place)) for point, place in right]
+                for value in list(STRANGE) + wrong + [list(take), take + (0,), (take[0], None), take[:1], (None, take[1])]:
                     self.assertIs(is_spoiler_take(RING, TWO, 2, APART, position, pairing, value), False)
 
     def test_take_errors(self):
@@ -247,6 +248,7 @@ class SpoilerTables(unittest.TestCase):
                 check_refused(self, InvalidTable(""), function, FORTY, FORTY, 3, table, None, None, *more)
             for position in (None, (), ((0,), (True,)), ((0, 1), (0, 3)), [(), ()], ((0, 0, 0), (0, 0, 0))):
                 check_refused(self, InvalidOperation(""), function, RING, TWO, 2, APART, position, None, *more)
+                check_refused(self, InvalidOperation(""), function, RING, TWO, 2, APART, position, names, *more)
             for pairing in (None, (), (0,) * 6, list(names), names[:5], (False,) + names[1:]):
                 check_refused(self, InvalidOperation(""), function, RING, TWO, 2, APART, START, pairing, *more)
             check_refused(self, Refused(("lacks",)), function, RING, TWO, 2, APART, ((0, 0), (0, 0)), names, *more)
@@ -501,7 +503,7 @@ class Plays(unittest.TestCase):
     def test_equal(self):
         play, other = Play(RING, TWO, 1), Play(RING, TWO, 1)
         self.assertTrue(play == other and not play != other)
-        for different in (Play(TWO, RING, 1), Play(RING, RING, 1), Play(RING, TWO, 2), Play(RING, TWO, 3)):
+        for different in (Play(TWO, TWO, 1), Play(RING, RING, 1), Play(RING, TWO, 2), Play(RING, TWO, 3)):
             self.assertTrue(play != different and not play == different)
         for value in STRANGE + (RING,):
             self.assertTrue(play != value and not play == value)
@@ -522,6 +524,17 @@ class Plays(unittest.TestCase):
         self.assertFalse(play == other)
         other.take(0)
         self.assertTrue(play == other)
+
+    def test_each_property_counts(self):
+        plays = [Play(RING, TWO, 1) for _ in range(3)]
+        for play, takes in zip(plays, (((0, 0),), ((0, 0), (0, 1)), ((0, 0), (2, 0)))):
+            for point, place in takes:
+                play.offer((0, 1, 2, 3, 4, 5))
+                play.take(point, place)
+        told = [(play.position, play.pairing, play.moves, play.has_ended) for play in plays]
+        self.assertEqual(told, [(((0,), (0,)), None, moves, ended) for moves, ended in ((1, False), (2, False), (2, True))])
+        for one, other in itertools.combinations(plays, 2):
+            self.assertTrue(one != other and not one == other)
 
     def test_whole_games(self):
         """The spoiler wins by its table against all pairings tried; the keeper holds by its ladder."""
