@@ -1,6 +1,7 @@
 """Whether two webs are alike or apart, with ladders and tables that show it."""
-from fivealike.colour.fields import fields_of, rounds_up_to
-from fivealike.colour.ladders import is_ladder_of, is_table_of, ladder_told, least_round, table_told
+from fivealike.colour.fields import fields_of
+from fivealike.colour.ladders import dicts_of, is_ladder_of, is_table_of, ladder_told, least_round
+from fivealike.colour.names import rounds_until_apart
 from fivealike.plain import is_integer, is_told
 from fivealike.web.checks import GREATEST_K, check_depth, check_k, check_rows
 from fivealike.web.webs import check_web
@@ -25,7 +26,7 @@ def check_pair_to(one, other, k, depth):
 
 def first_apart(one, other, k, depth):
     """The least round up to the depth from which on these are apart, None if there is none."""
-    return least_round(rounds_up_to(fields_of((one, other), k), depth))
+    return least_round(rounds_until_apart(fields_of((one, other), k), depth))
 
 
 def is_apart(value, least):
@@ -39,7 +40,7 @@ def alike_answer(one, other, k, depth):
     """A ladder to the depth, or the least round from which on the webs are apart."""
     check_pair_to(one, other, k, depth)
     fields = fields_of((one, other), k)
-    rounds = rounds_up_to(fields, depth)
+    rounds = rounds_until_apart(fields, depth)
     least = least_round(rounds)
     if least is not None:
         return ("apart", least)
@@ -58,11 +59,11 @@ def for_ever(one, other, k):
     """A table, or the least round from which on the webs are apart."""
     check_pair(one, other, k)
     fields = fields_of((one, other), k)
-    rounds = rounds_up_to(fields, None)
+    rounds = rounds_until_apart(fields, None)
     least = least_round(rounds)
     if least is not None:
         return ("apart", least)
-    return ("alike", table_told(fields, rounds[-1]))
+    return ("alike", dicts_of(fields, rounds[-1]))
 
 
 def is_for_ever(one, other, k, value):

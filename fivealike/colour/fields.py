@@ -1,6 +1,9 @@
-"""All rows of at most k points of a web, told by indices, and what stands behind them."""
-from fivealike.plain import counted
-from fivealike.web.webs import atom_at
+"""All rows of at most k points of a web, told by indices, and what counts behind them.
+
+The rows stand in their sequence, shorter ones ahead, then ascending. So behind the row with the
+index i come those with the indices i * many + 1 to i * many + many.
+"""
+from fivealike.colour.patterns import digit_rows, next_behind, next_colours, next_patterns, ranks_of
 
 
 def row_number(many, most):
@@ -14,16 +17,22 @@ def row_number(many, most):
 
 
 def rows_up_to(many, most):
-    """The list of all rows of at most so many points, shorter ones ahead, then ascending.
-
-    So behind the row with the index i come those with i * many + 1 and the next indices.
-    """
+    """The list of all rows of at most so many points, shorter ones ahead, then ascending."""
     rows = [()]
     longest = [()]
+    points = list(range(many))
     for _ in range(most):
-        longest = [row + (point,) for row in longest for point in range(many)]
+        longest = [row + (point,) for row in longest for point in points]
         rows = rows + longest
     return rows
+
+
+def index_of(many, row):
+    """The index of the row, told how many points there are."""
+    at = 0
+    for point in row:
+        at = at * many + 1 + point
+    return at
 
 
 def without_place(row, place):
@@ -37,114 +46,133 @@ def cuts_of(row):
 
 
 class Field:
-    """All rows of at most k points of a web."""
+    """The rows of at most k points of a web, and those of k + 1 points if they are asked for."""
 
     def __init__(self, web, k):
+        self.web = web
+        self.k = k
         self.many = len(web)
-        self.rows = rows_up_to(len(web), k)
-        self.index = {row: at for at, row in enumerate(self.rows)}
-        self.atoms = [atom_at(web, row) for row in self.rows]
-        self.first_long = row_number(len(web), k - 1)
-        # For each row of k points and each point behind it: the atom, and the indices of the cuts.
-        self.longer = [self.longer_of(web, row) for row in self.rows[self.first_long:]]
-        # The same, with a number in the place of the atom; fields side by side have these in common.
-        self.behind = []
+        self.digits = digit_rows(web)
+        # For each length the lists of the numbers of the rows' colours, and of their patterns.
+        self.colours = [[0]]
+        self.patterns = [[0]]
+        self.behind = [0] * self.many
+        for length in range(k):
+            self.colours.append(next_colours(self.colours[length], web))
+            self.patterns.append(next_patterns(self.patterns[length], self.behind, length, self.many))
+            if length < k - 1:
+                self.behind = next_behind(self.behind, self.digits, length)
+        self.first_long = row_number(self.many, k - 1)
+        # What is told of rows of k + 1 points: nothing, as long as no round asks for it.
+        self.longer = None
+        self.base = 0
 
-    def longer_of(self, web, row):
-        """For each point behind a row of k points the atom, and the indices of the cuts."""
-        rows = [row + (point,) for point in range(self.many)]
-        return [(atom_at(web, far), tuple([self.index[cut] for cut in cuts_of(far)])) for far in rows]
+    def grow(self):
+        """Finds the patterns of the rows of k + 1 points."""
+        self.behind = next_behind(self.behind, self.digits, self.k - 1)
+        self.patterns.append(next_patterns(self.patterns[self.k], self.behind, self.k, self.many))
 
-    def cuts_behind(self, at):
-        """What is told of the points behind the row of k points with this index."""
-        return self.behind[at - self.first_long]
+    def rank_longer(self, ranks, base):
+        """Tells numbers below ranks times base for longer rows, in the sequence of their atoms.
+
+        They need to be right just for points behind one and the same row, or behind alike ones.
+        """
+        self.base = base
+        weight = self.weight_above()
+        weighed = {pattern: ranks[pattern] * weight for pattern in ranks}
+        step = len(ranks) * weight
+        last = [(colour + 1) * step for colour in self.web.colours]
+        rows = self.patterns[self.k + 1]
+        self.longer = [weighed[pattern] + told for pattern, told in zip(rows, last * len(self.patterns[self.k]))]
+
+    def weight_above(self):
+        """The weight of an atom beside the numbers of k cuts."""
+        weight = 1
+        for _ in range(self.k):
+            weight = weight * self.base
+        return weight
+
+    def cut_lists(self, longest):
+        """For each place of the rows of k + 1 points the list of the numbers of their cuts there.
+
+        `longest` has the numbers of the rows of k points.
+        """
+        found = []
+        size = len(longest)
+        for _ in range(self.k + 1):
+            found.append(spread(longest, size, self.many))
+            size = size // max(self.many, 1)
+        return found
+
+    def starts_of(self, row):
+        """For each place of a row of k points the index from which the rows with a point behind its cut begin."""
+        return [index_of(self.many, cut) * self.many + 1 for cut in cuts_of(row)]
+
+
+def spread(numbers, size, many):
+    """The blocks of this size, one behind the other, each of them so many times."""
+    found = []
+    for at in range(0, len(numbers), max(size, 1)):
+        found.extend(numbers[at:at + size] * many)
+    return found
 
 
 def fields_of(webs, k):
     """The list of the fields of webs that are looked at side by side."""
-    fields = [Field(web, k) for web in webs]
-    atoms = {}
+    return [Field(web, k) for web in webs]
+
+
+def grow_fields(fields):
+    """Finds what the fields tell of longer rows, the same numbers in all of them."""
+    if fields[0].longer is not None:
+        return
     for field in fields:
-        for longer in field.longer:
-            for atom, _ in longer:
-                atoms[atom] = True
-    # The numbers have the sequence of the atoms, so that what is counted is sorted alike.
-    ranks = {told: at for at, told in enumerate(sorted(atoms))}
+        field.grow()
+    k = fields[0].k
+    ranks = ranks_for(fields, k + 1)
+    base = sum([row_number(field.many, k) for field in fields])
     for field in fields:
-        field.behind = [with_ranks(behind, ranks) for behind in field.longer]
-    return fields
+        field.rank_longer(ranks, base)
 
 
-def with_ranks(longer, ranks):
-    """The list of what is told of longer rows, with the numbers of atoms in the place of these."""
-    return [(ranks[atom], cuts) for atom, cuts in longer]
+def ranks_for(fields, length):
+    """The ranks of all patterns that rows of this length have in some field."""
+    found = {}
+    for field in fields:
+        for pattern in field.patterns[length]:
+            found[pattern] = True
+    return ranks_of(list(found), length)
 
 
-def with_cuts(longer, numbers):
-    """The list of what is told of longer rows and the numbers of their cuts."""
-    return [(told, tuple([numbers[cut] for cut in cuts])) for told, cuts in longer]
+def longer_codes(field, numbers):
+    """The list with a number for each longer row, for its atom and the numbers of its cuts.
 
-
-def kinds_behind(field, numbers, at):
-    """The list with what is counted of each point behind the row with this index, by the numbers."""
-    if at < field.first_long:
-        return numbers[at * field.many + 1:at * field.many + field.many + 1]
-    return with_cuts(field.cuts_behind(at), numbers)
-
-
-def counted_behind(field, numbers):
-    """The list with what is counted behind each row."""
-    return [counted(kinds_behind(field, numbers, at)) for at in range(len(field.rows))]
-
-
-def first_names(fields):
-    """For each field the list of the names of its rows at the round 0."""
-    return names_of([[(len(row), atom) for row, atom in zip(field.rows, field.atoms)] for field in fields])
-
-
-def next_names(fields, names):
-    """For each field the list of the names at the next round."""
-    # The names ahead have the shorter rows ahead, so marks need no lengths.
-    pairs = list(zip(fields, names))
-    return names_of([list(zip(own, counted_behind(field, own))) for field, own in pairs])
-
-
-def names_of(marks):
-    """The indices of marks among all of them, put in sequence, each once."""
-    known = {}
-    for own in marks:
-        for mark in own:
-            known[mark] = True
-    index = {told: at for at, told in enumerate(sorted(known))}
-    return [[index[told] for told in those] for those in marks]
-
-
-def many_names(names):
-    """How many names there are at a round."""
-    return max([max(own) for own in names]) + 1
-
-
-def rounds_up_to(fields, depth):
-    """The list of the names at the rounds up to the depth, but at most to the stable one.
-
-    At all rounds behind the stable one the names are those of the stable one: the marks then
-    have the sequence of the names that they begin with. For the depth None it comes last.
+    The last cut is the row itself that stands ahead of the point: its number comes with the row.
     """
-    rounds = [first_names(fields)]
-    is_stable = False
-    while not is_stable and (depth is None or len(rounds) <= depth):
-        later = next_names(fields, rounds[-1])
-        is_stable = many_names(later) == many_names(rounds[-1])
-        if not is_stable:
-            rounds.append(later)
-    return rounds
+    codes = field.longer
+    cuts = field.cut_lists(numbers[field.first_long:])
+    weight = 1
+    for place in reversed(range(field.k)):
+        codes = [code + number * weight for code, number in zip(codes, cuts[place])]
+        weight = weight * field.base
+    return codes
 
 
-def names_there(rounds, depth):
-    """The names at the round with this number, of rounds up to it or to the stable one."""
-    return rounds[min(depth, len(rounds) - 1)]
+def sorted_behind(field, numbers, codes, wanted):
+    """For each wanted row the sorted tuple of what counts behind it, for the others ()."""
+    many = field.many
+    step = max(many, 1)
+    short = wanted[:field.first_long]
+    found = [tuple(sorted(numbers[at:at + many])) if flag else ()
+             for at, flag in zip(range(1, 1 + step * len(short), step), short)]
+    found.extend([tuple(sorted(codes[at:at + many])) if flag else ()
+                  for at, flag in zip(range(0, len(codes), step), wanted[field.first_long:])])
+    return found
 
 
-def as_dict(field, numbers):
-    """The dict from the rows to these numbers."""
-    return {row: number for row, number in zip(field.rows, numbers)}
+def marks_by(field, numbers, wanted):
+    """For each row the pair of its number and of what counts behind it, if the row is wanted.
+
+    Two of them are equal just if the numbers are, and the same is counted behind the rows.
+    """
+    return list(zip(numbers, sorted_behind(field, numbers, longer_codes(field, numbers), wanted)))

@@ -1,7 +1,7 @@
 """Rounds of rows: marks, names and types of the rows of webs side by side."""
-from fivealike.colour.fields import as_dict, counted_behind, cuts_of, fields_of, many_names
-from fivealike.colour.fields import names_there, rounds_up_to, with_cuts
-from fivealike.colour.ladders import is_numbering
+from fivealike.colour.fields import cuts_of, fields_of, index_of
+from fivealike.colour.ladders import dicts_of, is_numbering
+from fivealike.colour.names import many_names, names_there, rounds_up_to
 from fivealike.errors import InvalidNumber, InvalidRow
 from fivealike.plain import counted, is_between
 from fivealike.web.checks import check_depth, check_k, check_rows, check_webs
@@ -19,11 +19,6 @@ def check_which(webs, which):
     """Refuses what is no index of one of the webs."""
     if not is_between(which, 0, len(webs) - 1):
         raise InvalidNumber(which)
-
-
-def dicts_of(fields, names):
-    """The tuple of dicts from the rows of each field to their names."""
-    return tuple([as_dict(field, own) for field, own in zip(fields, names)])
 
 
 def names_at(webs, k, depth):
@@ -50,13 +45,23 @@ def mark_of(webs, k, depth, which, row):
     check_rows(webs, k)
     if depth == 0:
         return atom_at(webs[which], row)
-    fields = fields_of(webs, k)
-    field = fields[which]
-    names = names_there(rounds_up_to(fields, depth - 1), depth - 1)[which]
-    at = field.index[row]
+    names = names_there(rounds_up_to(fields_of(webs, k), depth - 1), depth - 1)[which]
+    return (names[index_of(len(webs[which]), row)], counted(things_behind(webs[which], k, names, row)))
+
+
+def things_behind(web, k, names, row):
+    """The list of what counts of each point behind a row, by the names of all rows of the web."""
+    many = len(web)
     if len(row) < k:
-        return (names[at], counted_behind(field, names)[at])
-    return (names[at], counted(with_cuts(field.longer[at - field.first_long], names)))
+        begun = index_of(many, row) * many + 1
+        return names[begun:begun + many]
+    longer = [row + (point,) for point in range(many)]
+    return [(atom_at(web, far), names_of_cuts(many, names, far)) for far in longer]
+
+
+def names_of_cuts(many, names, row):
+    """The tuple of the names of the rows that come of a row of k + 1 points by leaving a place out."""
+    return tuple([names[index_of(many, cut)] for cut in cuts_of(row)])
 
 
 def type_of(webs, k, depth, which, row):
@@ -66,9 +71,8 @@ def type_of(webs, k, depth, which, row):
     if not is_row_of(webs[which], row) or len(row) != k + 1:
         raise InvalidRow("a row of k + 1 points is asked for")
     check_rows(webs, k)
-    fields = fields_of(webs, k)
-    names = names_there(rounds_up_to(fields, depth), depth)[which]
-    return (atom_at(webs[which], row), tuple([names[fields[which].index[cut]] for cut in cuts_of(row)]))
+    names = names_there(rounds_up_to(fields_of(webs, k), depth), depth)[which]
+    return (atom_at(webs[which], row), names_of_cuts(len(webs[which]), names, row))
 
 
 def stable_round(webs, k):

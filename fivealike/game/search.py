@@ -1,5 +1,5 @@
 """The search for a spoiler's table by the names of rows."""
-from fivealike.colour.fields import kinds_behind
+from fivealike.colour.fields import rows_up_to
 from fivealike.game.moves import met_pairs
 
 
@@ -19,22 +19,30 @@ def points_by_kind(kinds):
     return found
 
 
+def first_lots(one, other):
+    """The points of the first kind in both webs of which they have unlike many."""
+    for kind in one:
+        right = other.get(kind, [])
+        if len(one[kind]) != len(right):
+            return (tuple(one[kind]), tuple(right))
+    # There are points of some kind just in the other web then.
+    return ((), tuple([other[kind] for kind in other if kind not in one][0]))
+
+
+def best_lots(webs, one, other):
+    """The points of one kind in both webs, unlike many, with the fewest pairs to be looked at."""
+    lots = [(one[kind], other.get(kind, [])) for kind in one]
+    lots.extend([([], other[kind]) for kind in other if kind not in one])
+    uneven = [(left, right) for left, right in lots if len(left) != len(right)]
+    left, right = min([(pair_number(webs, left, right), left, right) for left, right in uneven])[1:]
+    return (tuple(left), tuple(right))
+
+
 def pair_number(webs, left, right):
     """How many pairs are to be looked at with these points, unlike many, on both sides."""
     if len(left) > len(right):
         return len(left) * (len(webs[1]) - len(right))
     return (len(webs[0]) - len(left)) * len(right)
-
-
-def best_lots(webs, kinds):
-    """The points of one kind in both webs, unlike many, with the fewest pairs to be looked at."""
-    one, other = points_by_kind(kinds[0]), points_by_kind(kinds[1])
-    found = []
-    for kind in sorted(set(kinds[0] + kinds[1])):
-        left, right = tuple(one.get(kind, [])), tuple(other.get(kind, []))
-        if len(left) != len(right):
-            found.append((pair_number(webs, left, right), left, right))
-    return sorted(found)[0][1:]
 
 
 class Search:
@@ -43,10 +51,16 @@ class Search:
     def __init__(self, webs, fields, rounds):
         self.webs = webs
         self.fields = fields
+        self.rows = [rows_up_to(field.many, field.k) for field in fields]
         self.rounds = rounds
+        # What has been worked out of rows, to be looked up: many positions have the same ones.
+        self.lots = {}
+        self.starts = {}
         self.entries = {}
-        self.asked = {(0, 0): True}
-        self.waiting = [(0, 0)]
+        # For each position that is asked for the number of moves.
+        self.asked = {}
+        self.waiting = []
+        self.ask((0, 0), first_unlike(rounds, 0, 0))
 
     def work(self):
         """Makes the entries of the first position and of all that are asked for."""
@@ -54,57 +68,88 @@ class Search:
             position = self.waiting.pop()
             self.entries[position] = self.entry_of(position)
 
-    def ask(self, position):
-        """Asks for the entry of a position."""
+    def ask(self, position, moves):
+        """Asks for the entry of a position with so many moves."""
         if position not in self.asked:
-            self.asked[position] = True
+            self.asked[position] = moves
             self.waiting.append(position)
 
     def entry_of(self, position):
         """The entry of a position; those to which it leads are asked for."""
         here, there = position
-        moves = first_unlike(self.rounds, here, there)
-        names = self.rounds[moves - 1]
-        kinds = (
-            kinds_behind(self.fields[0], names[0], here),
-            kinds_behind(self.fields[1], names[1], there),
-        )
-        left, right = best_lots(self.webs, kinds)
+        moves = self.asked[position]
+        one = self.lots_behind(0, moves - 1, here)
+        other = self.lots_behind(1, moves - 1, there)
+        if moves == 1:
+            # Kinds of the round 0 are unlike just if atoms are: all pairs end the game.
+            left, right = first_lots(one, other)
+            return (moves, left, right)
+        left, right = best_lots(self.webs, one, other)
         pairs = met_pairs(self.webs[0], self.webs[1], left, right)
         if here < self.fields[0].first_long:
             self.lead_short(here, there, pairs)
         else:
-            self.lead_long(moves, self.fields[0].cuts_behind(here), self.fields[1].cuts_behind(there), pairs)
+            self.lead_long(moves, position, pairs)
         return (moves, left, right)
+
+    def lots_behind(self, which, depth, at):
+        """A dict from what counts of points behind a row at the round to the points of this kind."""
+        key = (which, depth, at)
+        if key not in self.lots:
+            self.lots[key] = points_by_kind(self.kinds_behind(which, self.rounds[depth][which], at))
+        return self.lots[key]
+
+    def kinds_behind(self, which, names, at):
+        """What counts of each point behind a row, by the names of all rows of the web."""
+        field = self.fields[which]
+        many = field.many
+        if at < field.first_long:
+            return names[at * many + 1:at * many + many + 1]
+        cuts = [names[start:start + many] for start in self.starts_behind(which, at)]
+        return list(zip(self.longer_behind(which, at), *cuts))
+
+    def starts_behind(self, which, at):
+        """For each place of a row of k points where the rows with a point behind its cut begin."""
+        if (which, at) not in self.starts:
+            self.starts[which, at] = self.fields[which].starts_of(self.rows[which][at])
+        return self.starts[which, at]
+
+    def longer_behind(self, which, at):
+        """For each point behind a row of k points the number of the atom of the longer row."""
+        field = self.fields[which]
+        begun = (at - field.first_long) * field.many
+        return field.longer[begun:begun + field.many]
 
     def lead_short(self, here, there, pairs):
         """Asks for what rows of fewer than k points lead to."""
         first, last = here * len(self.webs[0]) + 1, there * len(self.webs[1]) + 1
         for point, partner in pairs:
+            moves = first_unlike(self.rounds, first + point, last + partner)
             # Unlike names at the round 0 are unlike atoms, with which the keeper has lost.
-            if first_unlike(self.rounds, first + point, last + partner) > 0:
-                self.ask((first + point, last + partner))
+            if moves > 0:
+                self.ask((first + point, last + partner), moves)
 
-    def lead_long(self, moves, behind, goals, pairs):
-        """Asks for what rows of k points lead to, told what is behind both, with a place left out."""
+    def lead_long(self, moves, position, pairs):
+        """Asks for what rows of k points lead to, with a place left out."""
+        starts = [self.starts_behind(which, position[which]) for which in (0, 1)]
+        atoms, goals = [self.longer_behind(which, position[which]) for which in (0, 1)]
         for point, partner in pairs:
-            rank, cuts = behind[point]
-            goal, ends = goals[partner]
-            if rank == goal:
-                self.ask(self.best_cut(moves, list(zip(cuts, ends))))
+            if atoms[point] == goals[partner]:
+                cuts = [(here + point, there + partner) for here, there in zip(starts[0], starts[1])]
+                self.ask_best(moves, cuts)
 
-    def best_cut(self, moves, cuts):
-        """Of those cuts that need fewer moves one that is asked for, else that of the fewest moves."""
-        needed = [(first_unlike(self.rounds, here, there), (here, there)) for here, there in cuts]
-        fewer = [cut for least, cut in sorted(needed) if least < moves]
-        known = [cut for cut in fewer if cut in self.asked]
-        return known[0] if known != [] else fewer[0]
+    def ask_best(self, moves, cuts):
+        """Of those cuts that need fewer moves asks for that of the fewest, unless one is asked for."""
+        if any([cut in self.asked and self.asked[cut] < moves for cut in cuts]):
+            return
+        least, cut = min([(first_unlike(self.rounds, here, there), (here, there)) for here, there in cuts])
+        self.ask(cut, least)
 
 
 def spoiler_table_told(webs, fields, rounds):
     """A spoiler's table of webs that are apart at one of these rounds, shorter rows ahead."""
     search = Search(webs, fields, rounds)
     search.work()
-    rows = (fields[0].rows, fields[1].rows)
+    rows = search.rows
     # Indices of rows have the sequence that is asked for, shorter rows ahead.
     return {(rows[0][at[0]], rows[1][at[1]]): search.entries[at] for at in sorted(search.entries)}

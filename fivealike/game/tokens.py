@@ -1,6 +1,7 @@
 """The counting game with k + 1 tokens: its keeper, its spoiler, and a game that is played."""
-from fivealike.colour.fields import cuts_of, fields_of, rounds_up_to
-from fivealike.colour.ladders import is_ladder_of, is_table_of, ladder_told, least_round, table_told
+from fivealike.colour.fields import cuts_of, fields_of
+from fivealike.colour.ladders import dicts_of, is_ladder_of, is_table_of, ladder_told, least_round
+from fivealike.colour.names import rounds_until_apart
 from fivealike.errors import InvalidNumber, InvalidOperation, InvalidTable, Refused
 from fivealike.game.moves import START, are_like_rows, behind_position, is_pairing_of, is_position_of
 from fivealike.game.moves import is_spoiler_table_of, positions_from, takes_from
@@ -111,11 +112,11 @@ def game_answer(one, other, k, depth):
     """A ladder or a table by which the keeper holds, or a table by which the spoiler wins."""
     check_game_to(one, other, k, depth)
     fields = fields_of((one, other), k)
-    rounds = rounds_up_to(fields, depth)
+    rounds = rounds_until_apart(fields, depth)
     if least_round(rounds) is not None:
         return ("spoiler", spoiler_table_told((one, other), fields, rounds))
     if depth is None:
-        return ("keeper", table_told(fields, rounds[-1]))
+        return ("keeper", dicts_of(fields, rounds[-1]))
     return ("keeper", ladder_told(fields, rounds, depth))
 
 
@@ -142,7 +143,7 @@ def is_spoiler_table(one, other, k, value):
 def least_moves(one, other, k):
     """The least number of moves with which the spoiler wins, None if it never does."""
     check_game_to(one, other, k, None)
-    return least_round(rounds_up_to(fields_of((one, other), k), None))
+    return least_round(rounds_until_apart(fields_of((one, other), k), None))
 
 
 def check_taken(one, other, k, table, position, pairing):

@@ -1,6 +1,7 @@
 """Maps from a pattern into a web, counted by trial, and products of webs."""
 from fivealike.errors import InvalidMap, InvalidOperation, TooMany
 from fivealike.plain import are_between, power_up_to
+from fivealike.web.bits import bits_of, near_bits, points_of
 from fivealike.web.webs import MOST_POINTS, Web, check_web
 
 MOST_TRIED = 100000
@@ -101,31 +102,54 @@ def maps_of(pattern, web):
     return tuple(all_maps(pattern, web))
 
 
+def narrowed(begun, narrow, tied_later):
+    """Counts the beginnings of maps that also lead the next point, told what is left for the others.
+
+    `begun` tells for each tuple of the bits to which the points from the next one on can be led how
+    many beginnings leave these. `narrow` tells for each image the bits that it leaves to the points
+    that are tied to the next one, and to those that are not.
+    """
+    found = {}
+    for left, number in begun.items():
+        for image in points_of(left[0]):
+            tied, untied = narrow[image]
+            later = tuple([bits & (tied if near else untied) for bits, near in zip(left[1:], tied_later)])
+            if 0 not in later:
+                found[later] = found.get(later, 0) + number
+    return found
+
+
+def number_by(pattern, web, narrow):
+    """How many maps there are whose images leave to the other points what `narrow` tells."""
+    images = tuple([bits_of(images_of(pattern, web, point)) for point in range(len(pattern))])
+    if 0 in images:
+        return 0
+    begun = {images: 1}
+    for point in range(len(pattern)):
+        near = pattern.near(point)
+        begun = narrowed(begun, narrow, [later in near for later in range(point + 1, len(pattern))])
+    return begun.get((), 0)
+
+
 def map_number(pattern, web):
     """How many maps of the pattern into the web there are."""
     check_tried(pattern, web)
-    return len(all_maps(pattern, web))
+    whole = (1 << len(web)) - 1
+    return number_by(pattern, web, [(near, whole) for near in near_bits(web)])
 
 
 def one_to_one_number(pattern, web):
     """How many one to one maps there are."""
     check_tried(pattern, web)
-    return len([images for images in all_maps(pattern, web) if are_unlike(images)])
-
-
-def keeps_untied(web, untied, images):
-    """Whether the untied pairs are led to untied points."""
-    return not any([web.is_tied(images[here], images[there]) for here, there in untied])
+    whole = (1 << len(web)) - 1
+    return number_by(pattern, web, [(near, whole & ~(1 << image)) for image, near in enumerate(near_bits(web))])
 
 
 def told_number(pattern, web):
     """How many one to one maps there are that lead untied points to untied ones."""
     check_tried(pattern, web)
-    many = len(pattern)
-    pairs = [(here, there) for here in range(many) for there in range(here + 1, many)]
-    untied = [pair for pair in pairs if not pattern.is_tied(pair[0], pair[1])]
-    kept = [images for images in all_maps(pattern, web) if are_unlike(images)]
-    return len([images for images in kept if keeps_untied(web, untied, images)])
+    whole = (1 << len(web)) - 1
+    return number_by(pattern, web, [(near, whole & ~near & ~(1 << image)) for image, near in enumerate(near_bits(web))])
 
 
 def times(one, other):

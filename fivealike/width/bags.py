@@ -3,10 +3,11 @@ from itertools import combinations
 
 from fivealike.errors import InvalidBags, InvalidNumber, InvalidOperation, TooMany
 from fivealike.plain import are_between, is_between, is_pair, is_told
+from fivealike.web.bits import bits_of, near_bits, points_of
 from fivealike.web.webs import check_web, is_lot
 from fivealike.width.brambles import least_lots, settle
-from fivealike.width.flaps import Flaps, around, bits_of, hall_of, hangs_together, holding
-from fivealike.width.flaps import near_bits, pieces_in, points_of
+from fivealike.width.flaps import Flaps, around, hangs_together, holding, pieces_in
+from fivealike.width.orders import Lumps, easy_order
 
 MOST_WIDE = 12
 MOST_BAGS = 100
@@ -95,15 +96,15 @@ def check_asked(web, k):
 
 
 def are_touching(tied, lots, held):
-    """Whether these lots touch two by two."""
+    """Whether these lots touch two by two, told which lots have one of them within."""
     whole = (1 << len(tied)) - 1
-    return not any([held[whole & ~hall_of(tied, lot)] for lot in lots])
+    return not any([held >> (whole & ~lot & ~around(tied, lot)) & 1 for lot in lots])
 
 
 def leave_some(points, many, held):
     """Whether all lots of so many of the points leave one of the lots that are held unmet."""
     whole = bits_of(points)
-    return all([held[whole & ~bits_of(some)] for some in combinations(points, many)])
+    return all([held >> (whole & ~bits_of(some)) & 1 for some in combinations(points, many)])
 
 
 def is_bramble_of(web, k, value):
@@ -135,25 +136,43 @@ def hang_bags(flaps, whole):
     done = 0
     while done < len(waiting):
         bits, upper = waiting[done]
-        point, left = flaps.first_step(bits)
+        point = flaps.first_step(bits)
         bags.append(points_of(around(flaps.tied, bits) | 1 << point))
         above.append(upper)
-        for piece in left:
+        for piece in flaps.left_by(bits, point):
             waiting.append((piece, done))
         done += 1
     return (tuple(bags), tuple(above)) if bags != [] else NO_BAGS
+
+
+def searched_answer(tied, k, whole):
+    """Bags of a width of at most k, or a bramble above k, found among all flaps."""
+    flaps = Flaps(tied, k)
+    if flaps.are_cleared(whole):
+        return ("bags", hang_bags(flaps, whole))
+    settle(flaps, whole)
+    return bramble_told(least_lots(flaps))
+
+
+def bramble_told(lots):
+    """The answer with these lots, told by their bits."""
+    return ("bramble", tuple(sorted([points_of(bits) for bits in lots])))
 
 
 def width_answer(web, k):
     """Bags of a width of at most k, or a bramble above k."""
     check_asked(web, k)
     tied = near_bits(web)
-    flaps = Flaps(tied, k)
+    order, width = easy_order(tied)
+    if width <= k:
+        return ("bags", bags_out(tied, order) if order != () else NO_BAGS)
     whole = pieces_in(tied, (1 << len(web)) - 1)
-    if flaps.are_cleared(whole):
-        return ("bags", hang_bags(flaps, whole))
-    settle(flaps, whole)
-    return ("bramble", tuple(sorted([points_of(bits) for bits in least_lots(flaps)])))
+    for piece in whole:
+        lots = list(Lumps(tied, piece).lots.values())
+        # So many lots touch two by two and have no points in common: no fewer points meet them all.
+        if len(lots) > k + 1:
+            return bramble_told(lots)
+    return searched_answer(tied, k, whole)
 
 
 def is_width_answer(web, k, value):
@@ -172,8 +191,9 @@ def least_width(web):
         return -1
     tied = near_bits(web)
     whole = pieces_in(tied, (1 << len(web)) - 1)
-    k = 0
-    while not Flaps(tied, k).are_cleared(whole):
+    most = easy_order(tied)[1]
+    k = max([Lumps(tied, piece).least for piece in whole])
+    while k < most and not Flaps(tied, k).are_cleared(whole):
         k += 1
     return k
 

@@ -2,26 +2,7 @@
 
 A flap is a lot that hangs together and has at most k + 1 neighbours.
 """
-
-
-def near_bits(web):
-    """A list with, for each point, the bits of the points tied to it."""
-    return [sum([1 << there for there in web.near(point)]) for point in range(len(web))]
-
-
-def points_of(bits):
-    """The ascending tuple of the points whose bits are set."""
-    return tuple([point for point in range(bits.bit_length()) if bits >> point & 1])
-
-
-def bits_of(points):
-    """The bits of these points, each of which comes once."""
-    return sum([1 << point for point in points])
-
-
-def how_many(bits):
-    """How many bits are set."""
-    return len(points_of(bits))
+from fivealike.web.bits import how_many, points_of
 
 
 def around(near, bits):
@@ -35,10 +16,10 @@ def around(near, bits):
 def piece_in(near, bits, point):
     """What hangs together with the point by ties within the bits."""
     piece = 1 << point
-    grown = around(near, piece) & bits
+    grown = near[point] & bits & ~piece
     while grown:
         piece = piece | grown
-        grown = around(near, piece) & bits
+        grown = around(near, grown) & bits & ~piece
     return piece
 
 
@@ -58,19 +39,43 @@ def hangs_together(near, bits):
     return piece_in(near, bits, bits.bit_length() - 1) == bits
 
 
-def hall_of(near, bits):
-    """The bits themselves, and those of all points tied to one of them."""
-    return bits | around(near, bits)
+def hanging_lots(near):
+    """A dict from all lots that hang together to the bits of the points around them."""
+    found = {1 << point: bits for point, bits in enumerate(near)}
+    waiting = list(found)
+    while waiting != []:
+        bits = waiting.pop()
+        for point in points_of(found[bits]):
+            more = bits | 1 << point
+            if more not in found:
+                found[more] = (found[bits] | near[point]) & ~more
+                waiting.append(more)
+    return found
+
+
+def without_points(many):
+    """A list with, for each point, a bit for each lot of so many points that lacks this point.
+
+    The bit of a lot stands at the place that its own bits tell as a number.
+    """
+    found = []
+    for point in range(many):
+        lacking = (1 << (1 << point)) - 1
+        width = 2 << point
+        while width < 1 << many:
+            lacking = lacking | lacking << width
+            width = width * 2
+        found.append(lacking)
+    return found
 
 
 def holding(many, lots):
-    """A list that tells for all bits of so many points whether one of the lots lies within."""
-    held = [False] * (1 << many)
+    """A bit for each lot of so many points, which tells whether one of the lots lies within."""
+    held = 0
     for lot in lots:
-        held[lot] = True
-    for bits in range(1 << many):
-        if not held[bits]:
-            held[bits] = any([held[bits & ~(1 << point)] for point in points_of(bits)])
+        held = held | 1 << lot
+    for point, lacking in enumerate(without_points(many)):
+        held = held | (held & lacking) << (1 << point)
     return held
 
 
@@ -80,27 +85,27 @@ class Flaps:
     def __init__(self, tied, k):
         self.tied = tied
         self.k = k
-        lots = [bits for bits in range(1, 1 << len(tied)) if hangs_together(tied, bits)]
-        flaps = [bits for bits in lots if how_many(around(tied, bits)) <= k + 1]
-        ordered = sorted([(how_many(bits), bits) for bits in flaps])
-        self.order = [bits for _, bits in ordered]
-        self.halls = {bits: hall_of(tied, bits) for bits in self.order}
-        self.steps = {bits: self.steps_of(bits) for bits in self.order}
+        # For each flap the bits of its neighbours.
+        self.around = {bits: rim for bits, rim in hanging_lots(tied).items() if how_many(rim) <= k + 1}
+        self.order = [bits for _, bits in sorted([(how_many(bits), bits) for bits in self.around])]
+        self.left = {}
         self.cleared = {}
         self.history = []
         self.clear_what_can_be()
 
-    def steps_of(self, bits):
-        """Pairs of a point that may be taken first and of the pieces that it leaves."""
-        if how_many(around(self.tied, bits)) > self.k:
-            return []
-        return [(point, pieces_in(self.tied, bits & ~(1 << point))) for point in points_of(bits)]
+    def left_by(self, bits, point):
+        """The pieces that the point, taken first, leaves of a flap."""
+        if (bits, point) not in self.left:
+            self.left[bits, point] = pieces_in(self.tied, bits & ~(1 << point))
+        return self.left[bits, point]
 
     def first_step(self, bits):
-        """The first step that leaves just cleared pieces, None if there is none."""
-        for point, left in self.steps[bits]:
-            if all([piece in self.cleared for piece in left]):
-                return (point, left)
+        """The first point of a flap that leaves just cleared pieces, None if there is none."""
+        if how_many(self.around[bits]) > self.k:
+            return None
+        for point in points_of(bits):
+            if all([piece in self.cleared for piece in self.left_by(bits, point)]):
+                return point
         return None
 
     def count_cleared(self, bits):
@@ -135,5 +140,5 @@ class Flaps:
 
     def not_touched(self, bits):
         """The flaps that are not cleared and do not touch this one."""
-        hall = self.halls[bits]
+        hall = bits | self.around[bits]
         return [lot for lot in self.order if lot & hall == 0 and lot not in self.cleared]
