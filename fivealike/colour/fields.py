@@ -16,14 +16,26 @@ def row_number(many, most):
     return found
 
 
+def rows_behind(rows, many):
+    """The list of the rows with a point behind one of these rows."""
+    return [row + (point,) for row in rows for point in range(many)]
+
+
+def rows_of(many, length):
+    """The ascending list of all rows of this length, told how many points there are."""
+    rows = [()]
+    for _ in range(length):
+        rows = rows_behind(rows, many)
+    return rows
+
+
 def rows_up_to(many, most):
     """The list of all rows of at most so many points, shorter ones ahead, then ascending."""
     rows = [()]
     longest = [()]
-    points = list(range(many))
     for _ in range(most):
-        longest = [row + (point,) for row in longest for point in points]
-        rows = rows + longest
+        longest = rows_behind(longest, many)
+        rows.extend(longest)
     return rows
 
 

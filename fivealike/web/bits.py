@@ -28,9 +28,4 @@ def bits_of(points):
 
 def how_many(bits):
     """How many bits are set."""
-    many = 0
-    left = bits
-    while left:
-        left = left & (left - 1)
-        many += 1
-    return many
+    return f"{bits:b}".count("1")

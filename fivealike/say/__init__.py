@@ -1,0 +1,1 @@
+"""Sentences with few names, and those that part webs."""

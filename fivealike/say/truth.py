@@ -1,0 +1,137 @@
+"""With which points lines of sayings are true in a web, told by bits.
+
+All rows of k + 1 points, a point for each name, stand in their sequence: a line is told by an
+integer with a bit for each of them, whether or not the line's truth hangs on all names.
+"""
+from fivealike.colour.fields import rows_of
+
+
+def repeated(bits, step, times):
+    """The bits, so many times, each one so many places above the one ahead."""
+    found = 0
+    for _ in range(times):
+        found = found << step | bits
+    return found
+
+
+class Grid:
+    """All rows of k + 1 points of a web, as bits."""
+
+    def __init__(self, web, k):
+        self.web = web
+        self.many = len(web)
+        self.k = k
+        # For each name how far apart rows are in which its point is the next one.
+        self.steps = [1]
+        for _ in range(k):
+            self.steps.insert(0, self.steps[0] * self.many)
+        # Without points there is no row: then the one bit tells lines without free names.
+        self.whole = (1 << max(self.steps[0] * self.many, 1)) - 1
+        # For each name the bits of the rows in which its point is 0, and what exchanges 0 for all points.
+        self.first = [self.first_of(name) for name in range(k + 1)]
+        self.every = [repeated(1, step, self.many) for step in self.steps]
+
+    def first_of(self, name):
+        """The bits of the rows in which the point of this name is 0."""
+        step = self.steps[name]
+        ahead = 1
+        for _ in range(name):
+            ahead = ahead * self.many
+        return repeated((1 << step) - 1, step * self.many, ahead)
+
+    def where(self, name, points):
+        """The bits of the rows in which the point of this name is one of these."""
+        return self.first[name] * sum([1 << point * self.steps[name] for point in points])
+
+    def where_tied(self, here, there):
+        """The bits of the rows in which the points of these names are tied."""
+        found = 0
+        for point in range(self.many):
+            found = found | self.where(here, (point,)) & self.where(there, self.web.near(point))
+        return found
+
+    def where_same(self, here, there):
+        """The bits of the rows in which the points of these names are one."""
+        found = 0
+        for point in range(self.many):
+            found = found | self.where(here, (point,)) & self.where(there, (point,))
+        return found
+
+    def where_coloured(self, name, colour):
+        """The bits of the rows in which the point of this name has this colour."""
+        return self.where(name, [point for point in range(self.many) if self.web.colours[point] == colour])
+
+    def sums_over(self, name, bits):
+        """With how many points of this name the bits are set, in binary digits, the lowest first.
+
+        The digits stand at the rows in which the point of this name is 0.
+        """
+        digits = []
+        step = self.steps[name]
+        for point in range(self.many):
+            carried = bits >> point * step & self.first[name]
+            for at in range(len(digits)):
+                digits[at], carried = digits[at] ^ carried, digits[at] & carried
+            if carried:
+                digits.append(carried)
+        return digits
+
+    def at_least(self, least, name, bits):
+        """The bits of the rows in which so many points of this name at least set these bits."""
+        if least > self.many:
+            return 0
+        more = 0
+        equal = self.first[name]
+        digits = self.sums_over(name, bits)
+        for at in reversed(range(max(len(digits), least.bit_length()))):
+            digit = digits[at] if at < len(digits) else 0
+            if least >> at & 1:
+                equal = equal & digit
+            else:
+                more = more | equal & digit
+                equal = equal & ~digit
+        return (more | equal) * self.every[name]
+
+    def truth_of(self, line, ahead):
+        """The bits of the rows with which a line is true, told those of the lines ahead."""
+        word = line[0]
+        if word == "tie":
+            return self.where_tied(line[1], line[2])
+        if word == "same":
+            return self.where_same(line[1], line[2])
+        if word == "colour":
+            return self.where_coloured(line[1], line[2])
+        if word == "not":
+            return self.whole & ~ahead[line[1]]
+        if word == "least":
+            return self.at_least(line[1], line[2], ahead[line[3]])
+        found = self.whole if word == "all" else 0
+        for at in line[1]:
+            found = found & ahead[at] if word == "all" else found | ahead[at]
+        return found
+
+    def truths_of(self, lines):
+        """The list of the bits of all lines."""
+        found = []
+        for line in lines:
+            found.append(self.truth_of(line, found))
+        return found
+
+    def table_of(self, names, bits):
+        """The ascending tuple of the rows of points for these names with which the bits are set."""
+        if self.many == 0:
+            return ((),) if names == () and bits else ()
+        left = bits
+        for name in range(self.k + 1):
+            if name not in names:
+                left = left & self.first[name]
+        rows = rows_of(self.many, len(names))
+        return tuple([row for row in rows if left >> self.place_of(names, row) & 1])
+
+    def place_of(self, names, row):
+        """The place of the row with these points for these names, and the point 0 for all others."""
+        return sum([point * self.steps[name] for name, point in zip(names, row)])
+
+    def is_true_with(self, names, row, bits):
+        """Whether the bits are set with these points for these names, the only ones they hang on."""
+        return bits >> self.place_of(names, row) & 1 == 1
