@@ -78,3 +78,18 @@ def needed_lines(recipe):
             for ahead in lines_within(recipe[at]):
                 needed[ahead] = True
     return sorted(needed)
+
+
+def lines_alone(lines):
+    """The tuple of the last line and of those that it hangs on, their indices led on."""
+    index = {}
+    found = []
+    for at in needed_lines(lines):
+        line = lines[at]
+        index[at] = len(found)
+        if line[0] == "glue":
+            line = ("glue", index[line[1]], index[line[2]])
+        elif line[0] == "sum":
+            line = ("sum", line[1], index[line[2]])
+        found.append(line)
+    return tuple(found)

@@ -1,0 +1,1 @@
+"""What recipes tell apart."""
