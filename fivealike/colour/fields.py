@@ -170,6 +170,22 @@ def longer_codes(field, numbers):
     return codes
 
 
+def kinds_behind(field, numbers, row):
+    """The list of what counts of each point behind the row, by the numbers of all rows."""
+    many = field.many
+    at = index_of(many, row)
+    if len(row) < field.k:
+        return numbers[at * many + 1:at * many + many + 1]
+    cuts = [numbers[start:start + many] for start in field.starts_of(row)]
+    return list(zip(longer_behind(field, at), *cuts))
+
+
+def longer_behind(field, at):
+    """For each point behind the row of k points with this index what is told of the longer row."""
+    begun = (at - field.first_long) * field.many
+    return field.longer[begun:begun + field.many]
+
+
 def sorted_behind(field, numbers, codes, wanted):
     """For each wanted row the sorted tuple of what counts behind it, for the others ()."""
     many = field.many

@@ -1,5 +1,5 @@
 """The search for a spoiler's table by the names of rows."""
-from fivealike.colour.fields import rows_up_to
+from fivealike.colour.fields import kinds_behind, longer_behind, rows_up_to
 from fivealike.game.moves import met_pairs
 
 
@@ -96,29 +96,15 @@ class Search:
         """A dict from what counts of points behind a row at the round to the points of this kind."""
         key = (which, depth, at)
         if key not in self.lots:
-            self.lots[key] = points_by_kind(self.kinds_behind(which, self.rounds[depth][which], at))
+            names = self.rounds[depth][which]
+            self.lots[key] = points_by_kind(kinds_behind(self.fields[which], names, self.rows[which][at]))
         return self.lots[key]
-
-    def kinds_behind(self, which, names, at):
-        """What counts of each point behind a row, by the names of all rows of the web."""
-        field = self.fields[which]
-        many = field.many
-        if at < field.first_long:
-            return names[at * many + 1:at * many + many + 1]
-        cuts = [names[start:start + many] for start in self.starts_behind(which, at)]
-        return list(zip(self.longer_behind(which, at), *cuts))
 
     def starts_behind(self, which, at):
         """For each place of a row of k points where the rows with a point behind its cut begin."""
         if (which, at) not in self.starts:
             self.starts[which, at] = self.fields[which].starts_of(self.rows[which][at])
         return self.starts[which, at]
-
-    def longer_behind(self, which, at):
-        """For each point behind a row of k points the number of the atom of the longer row."""
-        field = self.fields[which]
-        begun = (at - field.first_long) * field.many
-        return field.longer[begun:begun + field.many]
 
     def lead_short(self, here, there, pairs):
         """Asks for what rows of fewer than k points lead to."""
@@ -132,7 +118,7 @@ class Search:
     def lead_long(self, moves, position, pairs):
         """Asks for what rows of k points lead to, with a place left out."""
         starts = [self.starts_behind(which, position[which]) for which in (0, 1)]
-        atoms, goals = [self.longer_behind(which, position[which]) for which in (0, 1)]
+        atoms, goals = [longer_behind(self.fields[which], position[which]) for which in (0, 1)]
         for point, partner in pairs:
             if atoms[point] == goals[partner]:
                 cuts = [(here + point, there + partner) for here, there in zip(starts[0], starts[1])]

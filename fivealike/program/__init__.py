@@ -1,0 +1,1 @@
+"""The mixed program: its partials and sums, its points, and the multipliers that bar it."""
