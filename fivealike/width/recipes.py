@@ -93,17 +93,20 @@ def check_pattern(recipe):
         raise TooMany(MOST_POINTS)
 
 
+def web_of_shape(shape):
+    """The pattern of a shape without places."""
+    colours = [shape.colours.get(INNER + point, -1) for point in range(shape.inner)]
+    ties = [(here - INNER, there - INNER) for here, there in shape.ties]
+    return Web(tuple(colours), tuple(sorted(ties)))
+
+
 def pattern_of(recipe, k):
     """The pattern of a recipe, with bags of a width of at most k."""
     check_closed(places_checked(recipe, k))
     check_pattern(recipe)
-    shape = last_shape(recipe)
-    points = range(shape.inner)
-    colours = [shape.colours.get(INNER + point, -1) for point in points]
-    ties = [(here - INNER, there - INNER) for here, there in shape.ties]
-    pattern = Web(tuple(colours), tuple(sorted(ties)))
+    pattern = web_of_shape(last_shape(recipe))
     # Whoever takes the points out as they are summed out finds just the places of a line left.
-    return (pattern, bags_along(pattern, tuple(points)))
+    return (pattern, bags_along(pattern, tuple(range(len(pattern)))))
 
 
 def recipe_of(pattern, bags, k):

@@ -1,0 +1,1 @@
+"""Width and depth at once: forests of patterns."""
