@@ -11,7 +11,7 @@ from fivealike.plain import is_between, power_up_to
 from fivealike.web.checks import check_depth, check_k, check_rows
 from fivealike.web.webs import check_web
 from fivealike.width.lines import depths_of, lines_alone
-from fivealike.width.recipes import MOST_WORK, places_open
+from fivealike.width.recipes import fits_work, places_open
 from fivealike.width.tables import last_table, picked
 
 MOST_KEPT = 64
@@ -64,12 +64,6 @@ def kept_recipes(one, other, k, m, depth):
     check_kept(fields, rounds[-1], k)
     grower, basis = basis_of(Space(fields, rounds[-1]), rounds, m, len(rounds) - 1)
     return tuple([recipe_at(grower, table.line) for table in basis])
-
-
-def fits_work(recipe, webs, k):
-    """Whether lines times rows of k + 1 points of each web are no more than the limit lets."""
-    most = max([power_up_to(len(web), k + 1, MOST_WORK) for web in webs])
-    return len(recipe) * most <= MOST_WORK
 
 
 def is_kept(webs, k, m, depth, value):

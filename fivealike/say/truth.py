@@ -61,6 +61,14 @@ class Grid:
         """The bits of the rows in which the point of this name has this colour."""
         return self.where(name, [point for point in range(self.many) if self.web.colours[point] == colour])
 
+    def shadow(self, name, bits):
+        """The bits of the rows with the point 0 for this name that with some other one set the bits."""
+        found = 0
+        step = self.steps[name]
+        for point in range(self.many):
+            found = found | bits >> point * step & self.first[name]
+        return found
+
     def sums_over(self, name, bits):
         """With how many points of this name the bits are set, in binary digits, the lowest first.
 
@@ -80,6 +88,8 @@ class Grid:
         """The bits of the rows in which so many points of this name at least set these bits."""
         if least > self.many:
             return 0
+        if least == 1:
+            return self.shadow(name, bits) * self.every[name]
         more = 0
         equal = self.first[name]
         digits = self.sums_over(name, bits)
@@ -125,8 +135,11 @@ class Grid:
         for name in range(self.k + 1):
             if name not in names:
                 left = left & self.first[name]
-        rows = rows_of(self.many, len(names))
-        return tuple([row for row in rows if left >> self.place_of(names, row) & 1])
+        return tuple([row for row in self.rows_for(names) if left >> self.place_of(names, row) & 1])
+
+    def rows_for(self, names):
+        """The ascending list of all rows of points for these names."""
+        return rows_of(self.many, len(names))
 
     def place_of(self, names, row):
         """The place of the row with these points for these names, and the point 0 for all others."""

@@ -55,6 +55,12 @@ def check_work(recipe, k, web):
         raise TooMany(MOST_WORK)
 
 
+def fits_work(recipe, webs, k):
+    """Whether lines times rows of k + 1 points of each web are no more than the limit lets."""
+    most = max([power_up_to(len(web), k + 1, MOST_WORK) for web in webs])
+    return len(recipe) * most <= MOST_WORK
+
+
 def recipe_places(recipe, k):
     """The tuple of the places of all lines."""
     return tuple(places_checked(recipe, k))
