@@ -1,4 +1,5 @@
 """What several tests need: webs to test with, and a check of refusals."""
+import itertools
 import random
 
 from fivealike.web.webs import Web
@@ -39,6 +40,23 @@ def grid(many, long):
         if point + long < many * long:
             ties.append((point, point + long))
     return Web((0,) * (many * long), tuple(sorted(ties)))
+
+
+def twisted(base, ties):
+    """The twisted web of stage 17: points over those of the base, tied as the twisted ties of the base tell."""
+    over = sorted([(point, lot) for point in range(len(base)) for many in range(0, len(base.near(point)) + 1, 2)
+                   for lot in itertools.combinations(base.near(point), many)])
+    tied = [(low, high) for low, high in itertools.combinations(range(len(over)), 2)
+            if is_tied_over(base, ties, over[low], over[high])]
+    return Web(tuple([base.colours[point] for point, _ in over]), tuple(tied))
+
+
+def is_tied_over(base, ties, one, other):
+    """Whether two points over those of the base are tied."""
+    if not base.is_tied(one[0], other[0]):
+        return False
+    alike = (other[0] in one[1]) == (one[0] in other[1])
+    return alike != ((min(one[0], other[0]), max(one[0], other[0])) in ties)
 
 
 def some_web(seed, many, share=0.5, colours=(0,)):

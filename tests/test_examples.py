@@ -3,17 +3,21 @@ import os
 import unittest
 
 import fivealike.errors
+from helper import twisted
 
-MODULES = ("web.webs", "web.maps", "width.bags", "width.recipes", "colour.rounds", "colour.alike", "game.tokens")
+# For each section the module under which the document lists what the section's examples call.
+MODULES = {
+    "Examples": "web.webs", "Stage 1": "web.webs", "Stage 2": "web.maps", "Stage 3": "width.bags",
+    "Stage 4": "width.recipes", "Stage 5": "colour.rounds", "Stage 6": "colour.alike", "Stage 7": "game.tokens",
+    "Stage 8": "say.sentences", "Stage 9": "say.parting", "Stage 10": "pattern.closure", "Stage 11": "program.point",
+    "Stage 12": "program.bars", "Stage 13": "depth.forests", "Stage 14": "side.keepers", "Stage 15": "line.lines",
+}
 PLACE = os.path.join(os.path.dirname(os.path.abspath(__file__)), "examples.txt")
 
 
-def names_of_package():
-    """All names of the modules, as the examples use them."""
-    names = dict(vars(fivealike.errors))
-    for word in MODULES:
-        names.update(vars(__import__("fivealike." + word, fromlist=["name"])))
-    return names
+def names_of_module(word):
+    """All names of the module, as the examples use them."""
+    return vars(__import__("fivealike." + word, fromlist=["name"]))
 
 
 def examples():
@@ -43,9 +47,12 @@ class Examples(unittest.TestCase):
             self.assertEqual(type(caught.exception).__name__, wanted)
 
     def test_all(self):
-        names = names_of_package()
+        # The webs of stage 17 are written out by the helper.
+        names = {**vars(fivealike.errors), "twisted": twisted}
         checked = 0
         for section, typed, printed in examples():
+            # Some modules have functions of one name: those of the section are meant.
+            names.update(names_of_module(MODULES[section.split(":")[0]]))
             with self.subTest(section=section, typed=typed):
                 if printed == []:
                     exec(typed, names)
@@ -55,7 +62,7 @@ class Examples(unittest.TestCase):
                 else:
                     self.assertEqual(repr(eval(typed, names)), printed[0])
                     checked += 1
-        self.assertEqual(checked, 29)
+        self.assertEqual(checked, 58)
 
     def test_they_are_those_of_the_document(self):
         place = os.path.join(os.path.dirname(PLACE), "..", "..", "shared", "DOC.md")

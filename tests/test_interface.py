@@ -31,6 +31,35 @@ LISTED = {
                    " is_spoiler_table(one, other, k, value) least_moves(one, other, k)"
                    " spoiler_take(one, other, k, table, position, pairing)"
                    " is_spoiler_take(one, other, k, table, position, pairing, value)",
+    "say.sentences": "is_saying(k, value) is_sentence(k, value) free_names(k, saying) depths(k, saying)"
+                     " tables_of(k, saying, web) is_true(k, sentence, web) not_of(k, sentence) both(k, one, other)"
+                     " either(k, one, other) exchanged(k, saying, order) shortened(k, saying)"
+                     " true_of(k, saying, web, row)",
+    "say.parting": "parting_answer(one, other, k, depth) is_parting_answer(one, other, k, depth, value)"
+                   " parting_sentence(one, other, k) is_parting_sentence(one, other, k, value)"
+                   " name_line(webs, k, depth, row) is_name_line(webs, k, depth, row, value)"
+                   " least_depth(one, other, k) agree(one, other, k, sentences)",
+    "pattern.closure": "types_at(one, other, k, m, depth) kept_recipes(one, other, k, m, depth)"
+                       " are_kept(one, other, k, m, depth, value) type_sums(one, other, k, m, depth, recipes)"
+                       " unlike_recipe(one, other, k, depth) is_unlike_recipe(one, other, k, depth, value)",
+    "program.point": "is_partial(one, other, value) partials(one, other, many) is_sum(one, other, k, value)"
+                     " members(one, other, k, total) point_of(one, other, k) is_point(one, other, k, value)"
+                     " led_on(one, other, k, point, partial) is_led_on(one, other, k, point, partial, value)"
+                     " map_point(one, other, k, images) mixed_point(one, other, k, first, second)",
+    "program.bars": "are_multipliers(one, other, k, value) coefficients(one, other, k, multipliers)"
+                    " do_refuse(one, other, k, partial, value) are_bars(one, other, k, value)"
+                    " program_answer(one, other, k) is_program_answer(one, other, k, value)"
+                    " partial_answer(one, other, k, partial) is_partial_answer(one, other, k, partial, value)"
+                    " turned(one, other, k, multipliers)",
+    "depth.forests": "is_forest(pattern, k, value) forest_depth(pattern, k, forest) forest_of(recipe, k)"
+                     " recipe_of_forest(pattern, k, forest) least_forest(pattern, k) least_depth(pattern, k)"
+                     " unlike_forest(one, other, k) is_unlike_forest(one, other, k, value)",
+    "side.keepers": "is_part(one, other, value) is_family(one, other, k, value) greatest_family(one, other, k)"
+                    " least_depth(one, other, k) side_answer(one, other, k) is_side_answer(one, other, k, value)"
+                    " led_through(one, other, third, k, first, last)",
+    "line.lines": "is_line(k, value) are_row_bags(web, value) path_width(web) row_of_bags(web)"
+                  " line_of(pattern, bags, k) span_number(one, other, k) line_answer(one, other, k)"
+                  " is_line_answer(one, other, k, value)",
 }
 CLASSES = {
     ("web.webs", "Web"): "__init__(self, colours, ties) near(self, point) is_tied(self, here, there)"
@@ -38,7 +67,11 @@ CLASSES = {
     ("game.tokens", "Play"): "__init__(self, one, other, k) offer(self, pairing) take(self, point, place=0)"
                              " undo(self) twin(self) __len__(self) __eq__(self, other) __str__(self)",
 }
-CONSTANTS = {("width.bags", "MOST_WIDE"): 12, ("width.recipes", "MOST_LINES"): 2000}
+CONSTANTS = {
+    ("width.bags", "MOST_WIDE"): 12, ("width.recipes", "MOST_LINES"): 2000, ("say.sentences", "MOST_LINES"): 2000,
+    ("say.sentences", "MOST_LEAST"): 99, ("pattern.closure", "MOST_KEPT"): 64, ("pattern.closure", "MOST_SPOTS"): 512,
+    ("depth.forests", "MOST_TRIED"): 7, ("side.keepers", "MOST_PARTS"): 20000,
+}
 MESSAGES = ("InvalidWeb", "InvalidRow", "InvalidMap", "InvalidBags", "InvalidRecipe", "InvalidSentence",
             "InvalidTable", "InvalidClaim", "InvalidOperation")
 KEEPING = {"InvalidNumber": "given", "UnknownName": "wanted", "TooMany": "most", "Refused": "reason",

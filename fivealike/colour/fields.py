@@ -161,13 +161,26 @@ def longer_codes(field, numbers):
 
     The last cut is the row itself that stands ahead of the point: its number comes with the row.
     """
-    codes = field.longer
-    cuts = field.cut_lists(numbers[field.first_long:])
-    weight = 1
+    weighed = numbers[field.first_long:]
+    many = max(field.many, 1)
+    cuts = []
+    # The first cut weighs most, so that the numbers have the sequence of what they tell.
     for place in reversed(range(field.k)):
-        codes = [code + number * weight for code, number in zip(codes, cuts[place])]
-        weight = weight * field.base
-    return codes
+        size = len(weighed)
+        for _ in range(place):
+            size = size // many
+        cuts.append(spread(weighed, size, field.many))
+        weighed = [number * field.base for number in weighed]
+    return added(field.longer, cuts)
+
+
+def added(first, others):
+    """The sums of the members of the first list and of those of one, two or three others, one by one."""
+    if len(others) == 1:
+        return [one + two for one, two in zip(first, others[0])]
+    if len(others) == 2:
+        return [one + two + three for one, two, three in zip(first, others[0], others[1])]
+    return [one + two + three + four for one, two, three, four in zip(first, others[0], others[1], others[2])]
 
 
 def kinds_behind(field, numbers, row):

@@ -28,9 +28,15 @@ def behind_position(position, point, partner):
     return (position[0] + (point,), position[1] + (partner,))
 
 
-def are_like_rows(one, other, rows):
-    """Whether both rows, the first of the one web, the second of the other, have one atom."""
-    return atom_at(one, rows[0]) == atom_at(other, rows[1])
+def are_like_behind(one, other, position, point, partner):
+    """Whether the rows of the position have one atom with the point and its partner behind, too."""
+    if one.colours[point] != other.colours[partner]:
+        return False
+    near, goals = one.near(point), other.near(partner)
+    for here, there in zip(position[0], position[1]):
+        if (here == point) != (there == partner) or (here in near) != (there in goals):
+            return False
+    return True
 
 
 def positions_from(k, rows):
@@ -73,9 +79,9 @@ def is_won(one, other, k, table, position):
     """Whether what stands in the table for the position leads on, whatever the keeper does."""
     left, right = table[position][1:]
     for point, partner in met_pairs(one, other, left, right):
-        rows = behind_position(position, point, partner)
-        if are_like_rows(one, other, rows) and places_lower(k, table, position, rows) == []:
-            return False
+        if are_like_behind(one, other, position, point, partner):
+            if places_lower(k, table, position, behind_position(position, point, partner)) == []:
+                return False
     return True
 
 
@@ -94,9 +100,9 @@ def takes_from(one, other, k, table, position, pairing):
     """The list of the pairs (v, place) with which the keeper loses, or comes to fewer moves."""
     found = []
     for point in range(len(one)):
-        rows = behind_position(position, point, pairing[point])
-        if not are_like_rows(one, other, rows):
+        if not are_like_behind(one, other, position, point, pairing[point]):
             found.append((point, 0))
         else:
+            rows = behind_position(position, point, pairing[point])
             found.extend([(point, place) for place in places_lower(k, table, position, rows)])
     return found

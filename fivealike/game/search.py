@@ -60,7 +60,7 @@ class Search:
         # For each position that is asked for the number of moves.
         self.asked = {}
         self.waiting = []
-        self.ask((0, 0), first_unlike(rounds, 0, 0))
+        self.ask(0, 0)
 
     def work(self):
         """Makes the entries of the first position and of all that are asked for."""
@@ -68,11 +68,11 @@ class Search:
             position = self.waiting.pop()
             self.entries[position] = self.entry_of(position)
 
-    def ask(self, position, moves):
-        """Asks for the entry of a position with so many moves."""
-        if position not in self.asked:
-            self.asked[position] = moves
-            self.waiting.append(position)
+    def ask(self, here, there):
+        """Asks for the entry of the position of rows with these indices."""
+        if (here, there) not in self.asked:
+            self.asked[here, there] = first_unlike(self.rounds, here, there)
+            self.waiting.append((here, there))
 
     def entry_of(self, position):
         """The entry of a position; those to which it leads are asked for."""
@@ -109,11 +109,11 @@ class Search:
     def lead_short(self, here, there, pairs):
         """Asks for what rows of fewer than k points lead to."""
         first, last = here * len(self.webs[0]) + 1, there * len(self.webs[1]) + 1
+        one, other = self.rounds[0]
         for point, partner in pairs:
-            moves = first_unlike(self.rounds, first + point, last + partner)
             # Unlike names at the round 0 are unlike atoms, with which the keeper has lost.
-            if moves > 0:
-                self.ask((first + point, last + partner), moves)
+            if one[first + point] == other[last + partner]:
+                self.ask(first + point, last + partner)
 
     def lead_long(self, moves, position, pairs):
         """Asks for what rows of k points lead to, with a place left out."""
@@ -128,8 +128,8 @@ class Search:
         """Of those cuts that need fewer moves asks for that of the fewest, unless one is asked for."""
         if any([cut in self.asked and self.asked[cut] < moves for cut in cuts]):
             return
-        least, cut = min([(first_unlike(self.rounds, here, there), (here, there)) for here, there in cuts])
-        self.ask(cut, least)
+        _, here, there = min([(first_unlike(self.rounds, here, there), here, there) for here, there in cuts])
+        self.ask(here, there)
 
 
 def spoiler_table_told(webs, fields, rounds):

@@ -3,7 +3,7 @@ from fivealike.colour.fields import cuts_of, fields_of
 from fivealike.colour.ladders import dicts_of, is_ladder_of, is_table_of, ladder_told, least_round
 from fivealike.colour.names import rounds_until_apart
 from fivealike.errors import InvalidNumber, InvalidOperation, InvalidTable, Refused
-from fivealike.game.moves import START, are_like_rows, behind_position, is_pairing_of, is_position_of
+from fivealike.game.moves import START, are_like_behind, behind_position, is_pairing_of, is_position_of
 from fivealike.game.moves import is_spoiler_table_of, positions_from, takes_from
 from fivealike.game.search import spoiler_table_told
 from fivealike.plain import is_between, is_integer, is_pair, is_told
@@ -213,9 +213,9 @@ class Play:
         if self.pairing is None:
             raise Refused(("wanted",))
         self.keep_step()
-        rows = behind_position(self.position, point, self.pairing[point])
-        if are_like_rows(self.one, self.other, rows):
-            led = positions_from(self.k, rows)
+        partner = self.pairing[point]
+        if are_like_behind(self.one, self.other, self.position, point, partner):
+            led = positions_from(self.k, behind_position(self.position, point, partner))
             self.position = led[place] if len(led) > 1 else led[0]
         else:
             self.has_ended = True

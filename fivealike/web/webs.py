@@ -4,6 +4,14 @@ from fivealike.plain import are_between, is_ascending, is_between
 
 MOST_POINTS = 40
 MOST_PLACES = 4
+# For each number of places the ascending pairs of places.
+PAIRS = (
+    (),
+    (),
+    ((0, 1),),
+    ((0, 1), (0, 2), (1, 2)),
+    ((0, 1), (0, 2), (0, 3), (1, 2), (1, 3), (2, 3)),
+)
 LEAST_COLOUR = -1
 GREATEST_COLOUR = 9
 
@@ -200,10 +208,10 @@ def is_row(web, value):
 
 def atom_at(web, row):
     """The atom of this, which is a row of the web."""
-    many = len(row)
-    pairs = [(low, high) for low in range(many) for high in range(low + 1, many)]
+    near = web._near
+    pairs = PAIRS[len(row)]
     same = [(low, high) for low, high in pairs if row[low] == row[high]]
-    tied = [(low, high) for low, high in pairs if row[high] in web.near(row[low])]
+    tied = [(low, high) for low, high in pairs if row[high] in near[row[low]]]
     return (tuple([web.colours[point] for point in row]), tuple(same), tuple(tied))
 
 
