@@ -4,7 +4,7 @@ from fivealike.line.rows import Line
 from fivealike.linear import PRIMES, Echelon, in_least_terms, reduced, undone
 from fivealike.pattern.spaces import atom_lines
 from fivealike.program.checked import least_common, number_of_row
-from fivealike.program.partials import partials_up_to, partners_in, points_in
+from fivealike.program.partials import Couple, partners_in, points_in
 
 MOST_SPAN = 64
 
@@ -145,7 +145,7 @@ def signed_point(one, other, span, rows):
     length = span.places
     types = span.space.types[length]
     told = {(): signs.whole}
-    for partial in partials_up_to(one, other, length)[1:]:
+    for partial in Couple(one, other).partials_up_to(length)[1:]:
         # What rows with one place more tell in all is told by a row that has its last point twice.
         here = types[0][number_of_row(len(one), filled(points_in(partial), length))]
         there = types[1][number_of_row(len(other), filled(partners_in(partial), length))]

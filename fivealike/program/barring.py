@@ -1,8 +1,7 @@
 """The search for multipliers that refuse a partial, along the rounds at which its rows become unlike."""
 from fivealike.colour.fields import index_of, kinds_behind
 from fivealike.game.search import best_lots
-from fivealike.program.partials import FIRST, SECOND, members_of, partners_in, points_in, without_pair
-from fivealike.web.bits import near_bits
+from fivealike.program.partials import FIRST, SECOND, Couple, partners_in, points_in, without_pair
 
 
 def lots_by_kind(kinds, taken):
@@ -19,7 +18,7 @@ class Barrer:
 
     def __init__(self, one, other, k, fields, rounds):
         self.webs = (one, other)
-        self.near = (near_bits(one), near_bits(other))
+        self.couple = Couple(one, other)
         self.k = k
         self.fields = fields
         self.rounds = rounds
@@ -39,7 +38,7 @@ class Barrer:
     def add(self, total, number):
         """Adds a number to the multiplier of a sum."""
         self.multipliers[total] = self.multipliers.get(total, 0) + number
-        for member in members_of(self.webs[0], self.webs[1], self.near, total):
+        for member in self.couple.members(total):
             self.coefficients[member] = self.coefficients.get(member, 0) + number
         self.coefficients[total[1]] = self.coefficients.get(total[1], 0) - number
 

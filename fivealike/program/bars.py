@@ -5,24 +5,24 @@ from fivealike.errors import InvalidOperation
 from fivealike.plain import is_integer, is_told
 from fivealike.program.barring import multipliers_for
 from fivealike.program.checked import is_point_of, point_by_types
-from fivealike.program.partials import FIRST, SECOND, is_sum_of, members_of, partners_in, points_in
+from fivealike.program.partials import FIRST, SECOND, Couple, partners_in, points_in
 from fivealike.program.point import check_lesser, check_level, check_partial
-from fivealike.web.bits import near_bits
 
 
 def are_multipliers_of(one, other, k, value):
     """Whether the value is multipliers for these webs."""
-    if not isinstance(value, dict) or not all([is_sum_of(one, other, k, total) for total in value]):
+    couple = Couple(one, other)
+    if not isinstance(value, dict) or not all([couple.is_sum(k, total) for total in value]):
         return False
     return all([is_integer(number) and number != 0 for number in list(value.values())])
 
 
 def coefficients_of(one, other, multipliers):
     """The dict from all partials with coefficients other than 0 to these."""
-    near = (near_bits(one), near_bits(other))
+    couple = Couple(one, other)
     found = {}
     for total, number in multipliers.items():
-        for member in members_of(one, other, near, total):
+        for member in couple.members(total):
             found[member] = found.get(member, 0) + number
         found[total[1]] = found.get(total[1], 0) - number
     return {partial: found[partial] for partial in sorted(found) if found[partial] != 0}

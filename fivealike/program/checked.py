@@ -2,7 +2,7 @@
 from fivealike.linear import divisor_of
 from fivealike.pattern.spaces import numbers_of_types
 from fivealike.plain import is_integer, is_pair
-from fivealike.program.partials import is_partial_of, partials_up_to, partners_in, points_in, without_pair
+from fivealike.program.partials import Couple, partners_in, points_in, without_pair
 
 
 def is_form_of_point(one, other, k, value):
@@ -12,7 +12,8 @@ def is_form_of_point(one, other, k, value):
     whole, told = value
     if not all([is_integer(number) and number != 0 for number in list(told.values())]):
         return False
-    if not all([is_partial_of(one, other, partial) and len(partial) <= k + 1 for partial in told]):
+    couple = Couple(one, other)
+    if not all([couple.is_partial(partial) and len(partial) <= k + 1 for partial in told]):
         return False
     return told.get((), 0) == whole
 
@@ -87,7 +88,7 @@ def point_by_types(one, other, k, fields, names):
     types = [numbers_of_types(fields, names, length) for length in range(k + 2)]
     often = [shares_of(own) for own in types]
     shares = {}
-    for partial in partials_up_to(one, other, k + 1):
+    for partial in Couple(one, other).partials_up_to(k + 1):
         length = len(partial)
         told = types[length][0][number_of_row(len(one), points_in(partial))]
         if told == types[length][1][number_of_row(len(other), partners_in(partial))]:

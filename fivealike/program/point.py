@@ -7,8 +7,7 @@ from fivealike.linear import divisor_of
 from fivealike.plain import are_between, is_between, power_up_to
 from fivealike.program.checked import is_point_of, point_by_types
 from fivealike.program.matching import matched
-from fivealike.program.partials import is_partial_of, is_sum_of, members_of, partials_up_to, with_pair
-from fivealike.web.bits import near_bits
+from fivealike.program.partials import Couple, with_pair
 from fivealike.web.checks import check_k
 from fivealike.web.maps import are_unlike, is_same
 from fivealike.web.webs import check_web
@@ -39,7 +38,7 @@ def check_lesser(one, other, many):
 def is_partial(one, other, value):
     """Whether the value is a partial."""
     check_both_webs(one, other)
-    return is_partial_of(one, other, value)
+    return Couple(one, other).is_partial(value)
 
 
 def partials(one, other, many):
@@ -48,21 +47,22 @@ def partials(one, other, many):
     if not is_between(many, 0, MOST_MANY):
         raise InvalidNumber(many)
     check_lesser(one, other, many)
-    return tuple(partials_up_to(one, other, many))
+    return tuple(Couple(one, other).partials_up_to(many))
 
 
 def is_sum(one, other, k, value):
     """Whether the value is a sum of the level k."""
     check_level(one, other, k)
-    return is_sum_of(one, other, k, value)
+    return Couple(one, other).is_sum(k, value)
 
 
 def members(one, other, k, total):
     """The tuple of the members of a sum."""
     check_level(one, other, k)
-    if not is_sum_of(one, other, k, total):
+    couple = Couple(one, other)
+    if not couple.is_sum(k, total):
         raise InvalidOperation("a sum of the level k is asked for")
-    return members_of(one, other, (near_bits(one), near_bits(other)), total)
+    return couple.members(total)
 
 
 def point_of(one, other, k):
@@ -92,7 +92,7 @@ def check_point_of(one, other, k, point):
 
 def check_partial(one, other, k, partial):
     """Refuses what is no partial of at most k pairs."""
-    if not is_partial_of(one, other, partial) or len(partial) > k:
+    if not Couple(one, other).is_partial(partial) or len(partial) > k:
         raise InvalidMap("a partial of at most k pairs is asked for")
 
 

@@ -30,6 +30,8 @@ class Grid:
         # For each name the bits of the rows in which its point is 0, and what exchanges 0 for all points.
         self.first = [self.first_of(name) for name in range(k + 1)]
         self.every = [repeated(1, step, self.many) for step in self.steps]
+        # For each tuple of names that was asked for the pairs of a row and of its place.
+        self.spots = {}
 
     def first_of(self, name):
         """The bits of the rows in which the point of this name is 0."""
@@ -131,11 +133,11 @@ class Grid:
         """The ascending tuple of the rows of points for these names with which the bits are set."""
         if self.many == 0:
             return ((),) if names == () and bits else ()
-        left = bits
-        for name in range(self.k + 1):
-            if name not in names:
-                left = left & self.first[name]
-        return tuple([row for row in self.rows_for(names) if left >> self.place_of(names, row) & 1])
+        if names not in self.spots:
+            self.spots[names] = [(row, self.place_of(names, row)) for row in self.rows_for(names)]
+        digits = f"{bits:b}".zfill(self.whole.bit_length())
+        last = len(digits) - 1
+        return tuple([row for row, place in self.spots[names] if digits[last - place] == "1"])
 
     def rows_for(self, names):
         """The ascending list of all rows of points for these names."""

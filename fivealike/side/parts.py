@@ -1,8 +1,15 @@
 """Parts of maps from a pattern into a web, and families of them."""
-from fivealike.plain import is_ascending
-from fivealike.program.partials import is_list_of_pairs, points_in, without_pair
+from fivealike.plain import is_ascending, is_between, is_pair
+from fivealike.program.partials import points_in, without_pair
 from fivealike.web.maps import keeps_colour
 from fivealike.web.webs import is_lot
+
+
+def is_list_of_pairs(one, other, value):
+    """Whether the value is a tuple of pairs of a point of the one and of one of the other web."""
+    if not isinstance(value, tuple) or not all([is_pair(pair) for pair in value]):
+        return False
+    return all([is_between(here, 0, len(one) - 1) and is_between(there, 0, len(other) - 1) for here, there in value])
 
 
 def is_part_of(one, other, value):

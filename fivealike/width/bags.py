@@ -6,6 +6,7 @@ from fivealike.plain import are_between, is_between, is_pair, is_told
 from fivealike.web.bits import bits_of, near_bits, points_of
 from fivealike.web.webs import check_web, is_lot
 from fivealike.width.brambles import least_lots, settle
+from fivealike.width.clearing import Clearing, are_touching, do_touch
 from fivealike.width.flaps import Flaps, around, hangs_together, holding, pieces_in
 from fivealike.width.orders import Lumps, easy_order
 
@@ -95,12 +96,6 @@ def check_asked(web, k):
     check_few(web)
 
 
-def are_touching(tied, lots, held):
-    """Whether these lots touch two by two, told which lots have one of them within."""
-    whole = (1 << len(tied)) - 1
-    return not any([held >> (whole & ~lot & ~around(tied, lot)) & 1 for lot in lots])
-
-
 def leave_some(points, many, held):
     """Whether all lots of so many of the points leave one of the lots that are held unmet."""
     whole = bits_of(points)
@@ -127,7 +122,7 @@ def is_bramble(web, k, value):
     return is_bramble_of(web, k, value)
 
 
-def hang_bags(flaps, whole):
+def hang_bags(clearing, whole):
     """Bags of a width of at most k, where all pieces of the whole are cleared."""
     bags = []
     above = []
@@ -136,22 +131,26 @@ def hang_bags(flaps, whole):
     done = 0
     while done < len(waiting):
         bits, upper = waiting[done]
-        point = flaps.first_step(bits)
-        bags.append(points_of(around(flaps.tied, bits) | 1 << point))
+        point = clearing.step_of(bits)
+        bags.append(points_of(around(clearing.tied, bits) | 1 << point))
         above.append(upper)
-        for piece in flaps.left_by(bits, point):
+        for piece in clearing.left_by(bits, point):
             waiting.append((piece, done))
         done += 1
     return (tuple(bags), tuple(above)) if bags != [] else NO_BAGS
 
 
 def searched_answer(tied, k, whole):
-    """Bags of a width of at most k, or a bramble above k, found among all flaps."""
-    flaps = Flaps(tied, k)
-    if flaps.are_cleared(whole):
-        return ("bags", hang_bags(flaps, whole))
-    settle(flaps, whole)
-    return bramble_told(least_lots(flaps))
+    """Bags of a width of at most k, or a bramble above k, found among all lots that hang together."""
+    clearing = Clearing(tied, k)
+    if clearing.are_cleared(whole):
+        return ("bags", hang_bags(clearing, whole))
+    lots = clearing.largest_lots(k + 1)
+    if not do_touch(tied, lots):
+        flaps = Flaps(tied, k)
+        settle(flaps, whole)
+        lots = least_lots(flaps)
+    return bramble_told(lots)
 
 
 def bramble_told(lots):
@@ -193,7 +192,7 @@ def least_width(web):
     whole = pieces_in(tied, (1 << len(web)) - 1)
     most = easy_order(tied)[1]
     k = max([Lumps(tied, piece).least for piece in whole])
-    while k < most and not Flaps(tied, k).are_cleared(whole):
+    while k < most and not Clearing(tied, k).are_cleared(whole):
         k += 1
     return k
 

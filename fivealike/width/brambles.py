@@ -1,11 +1,15 @@
 """The search for a bramble where a web has no bags of a width."""
+from fivealike.web.bits import points_of
+from fivealike.width.flaps import holding
 
 
 def first_strife(flaps, least):
     """The index of the first flap from the least one on with one that it does not touch, or None."""
+    whole = (1 << len(flaps.tied)) - 1
+    held = holding(len(flaps.tied), flaps.open_order())
     for at in range(least, len(flaps.order)):
         bits = flaps.order[at]
-        if bits not in flaps.cleared and flaps.not_touched(bits) != []:
+        if bits not in flaps.cleared and held >> (whole & ~bits & ~flaps.around[bits]) & 1:
             return at
     return None
 
@@ -31,8 +35,6 @@ def settle(flaps, whole):
 
 def least_lots(flaps):
     """The flaps that are not cleared and have no other such within them."""
-    found = []
-    for bits in flaps.order:
-        if bits not in flaps.cleared and not any([lot & ~bits == 0 for lot in found]):
-            found.append(bits)
-    return found
+    found = flaps.open_order()
+    held = holding(len(flaps.tied), found)
+    return [bits for bits in found if not any([held >> (bits & ~(1 << point)) & 1 for point in points_of(bits)])]

@@ -85,28 +85,23 @@ class Flaps:
     def __init__(self, tied, k):
         self.tied = tied
         self.k = k
+        self.hanging = hanging_lots(tied)
         # For each flap the bits of its neighbours.
-        self.around = {bits: rim for bits, rim in hanging_lots(tied).items() if how_many(rim) <= k + 1}
+        self.around = {bits: rim for bits, rim in self.hanging.items() if how_many(rim) <= k + 1}
         self.order = [bits for _, bits in sorted([(how_many(bits), bits) for bits in self.around])]
-        self.left = {}
+        # Those with more neighbours than k have no point that can be taken first.
+        self.points = {bits: points_of(bits) for bits, rim in self.around.items() if how_many(rim) <= k}
         self.cleared = {}
         self.history = []
         self.clear_what_can_be()
 
-    def left_by(self, bits, point):
-        """The pieces that the point, taken first, leaves of a flap."""
-        if (bits, point) not in self.left:
-            self.left[bits, point] = pieces_in(self.tied, bits & ~(1 << point))
-        return self.left[bits, point]
-
-    def first_step(self, bits):
-        """The first point of a flap that leaves just cleared pieces, None if there is none."""
-        if how_many(self.around[bits]) > self.k:
-            return None
-        for point in points_of(bits):
-            if all([piece in self.cleared for piece in self.left_by(bits, point)]):
-                return point
-        return None
+    def has_step(self, bits):
+        """Whether some point of a flap can be taken first, as it leaves just cleared pieces."""
+        for point in self.points.get(bits, ()):
+            left = bits & ~(1 << point)
+            if left in self.cleared or left not in self.hanging and self.are_cleared(pieces_in(self.tied, left)):
+                return True
+        return False
 
     def count_cleared(self, bits):
         """Counts a flap among the cleared ones."""
@@ -118,7 +113,7 @@ class Flaps:
         """Clears all flaps that are cleared because lesser ones are."""
         # Lesser flaps stand ahead, so one run through the order is enough.
         for bits in self.order:
-            if bits not in self.cleared and self.first_step(bits) is not None:
+            if bits not in self.cleared and self.has_step(bits):
                 self.count_cleared(bits)
 
     def are_cleared(self, lots):
@@ -133,12 +128,19 @@ class Flaps:
 
     def give_up(self, lots):
         """Counts these and all flaps within them as cleared, and what follows from this."""
+        held = holding(len(self.tied), [((1 << len(self.tied)) - 1) & ~lot for lot in lots])
+        whole = (1 << len(self.tied)) - 1
         for bits in self.order:
-            if any([bits & ~lot == 0 for lot in lots]):
+            # A flap is within a lot if what the lot lacks is within what the flap lacks.
+            if held >> (whole & ~bits) & 1:
                 self.count_cleared(bits)
         self.clear_what_can_be()
+
+    def open_order(self):
+        """The list of the flaps that are not cleared, lesser ones ahead."""
+        return [bits for bits in self.order if bits not in self.cleared]
 
     def not_touched(self, bits):
         """The flaps that are not cleared and do not touch this one."""
         hall = bits | self.around[bits]
-        return [lot for lot in self.order if lot & hall == 0 and lot not in self.cleared]
+        return [lot for lot in self.open_order() if lot & hall == 0]
