@@ -3,23 +3,18 @@ from fivealike.colour.fields import fields_of
 from fivealike.colour.ladders import dicts_of, is_ladder_of, is_table_of, ladder_told, least_round
 from fivealike.colour.names import rounds_until_apart
 from fivealike.plain import is_integer, is_told
-from fivealike.web.checks import GREATEST_K, check_depth, check_k, check_rows
-from fivealike.web.webs import check_web
+from fivealike.web.checks import GREATEST_K, check_couple, check_depth, check_level, check_rows
 
 
 def check_pair(one, other, k):
     """Refuses what are no webs and no k, and webs with too many rows."""
-    check_web(one)
-    check_web(other)
-    check_k(k)
+    check_level(one, other, k)
     check_rows((one, other), k)
 
 
 def check_pair_to(one, other, k, depth):
     """Refuses what are no webs, no k and no depth, and webs with too many rows."""
-    check_web(one)
-    check_web(other)
-    check_k(k)
+    check_level(one, other, k)
     check_depth(depth)
     check_rows((one, other), k)
 
@@ -100,7 +95,6 @@ def are_alike(one, other, k, depth):
 
 def rounds_apart(one, other):
     """The tuple of the least rounds from which on the webs are apart for k = 1, 2 and 3."""
-    check_web(one)
-    check_web(other)
+    check_couple(one, other)
     check_rows((one, other), GREATEST_K)
     return tuple([first_apart(one, other, k, None) for k in range(1, GREATEST_K + 1)])

@@ -35,7 +35,7 @@ def next_names(fields, names):
         for name in own:
             often[name] = often.get(name, 0) + 1
     # Whoever has a name alone keeps it alone: nothing else needs to be told of it.
-    marks = [marks_by(field, own, [often[name] > 1 for name in own]) for field, own in zip(fields, names)]
+    marks = [marks_by(field, own, [often[told] > 1 for told in own]) for field, own in zip(fields, names)]
     index = names_of_marks(marks)
     return [[index[mark] for mark in those] for those in marks]
 
@@ -51,7 +51,8 @@ def names_of_marks(marks):
         alike = list(by_name[name])
         if len(alike) > 1:
             # The sequence of marks is that of what is counted.
-            alike = [behind for _, behind in sorted([(counted(behind), behind) for behind in alike])]
+            told = sorted([(counted(behind), behind) for behind in alike])
+            alike = [behind for _, behind in told]
         for behind in alike:
             index[name, behind] = len(index)
     return index

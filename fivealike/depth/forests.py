@@ -8,7 +8,7 @@ from fivealike.depth.search import Search
 from fivealike.depth.trees import depth_of, is_forest_of
 from fivealike.errors import InvalidBags, TooMany
 from fivealike.pattern.closure import check_closure, check_kept, numbers_unlike, unlike_told
-from fivealike.web.checks import check_k
+from fivealike.web.checks import check_k, check_level
 from fivealike.web.webs import Web, check_web
 from fivealike.width.recipes import check_closed, check_pattern, places_checked, web_of_shape
 
@@ -81,9 +81,7 @@ def least_depth(pattern, k):
 
 def unlike_forest(one, other, k):
     """A pattern with unlike numbers of maps and a forest of it, as deep as the webs are alike; None for ever."""
-    check_web(one)
-    check_web(other)
-    check_k(k)
+    check_level(one, other, k)
     check_closure(one, other, k)
     fields = fields_of((one, other), k)
     rounds = rounds_until_apart(fields, None)

@@ -59,4 +59,5 @@ def below_of(above):
 
 def lower_first(above):
     """The list of all points, each one ahead of those above it."""
-    return [point for _, point in sorted([(-len(way), point) for point, way in enumerate(ways_up(above))])]
+    sized = sorted([(-len(way), way[0]) for way in ways_up(above)])
+    return [point for _, point in sized]

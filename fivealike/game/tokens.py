@@ -7,20 +7,13 @@ from fivealike.game.moves import START, are_like_behind, behind_position, is_pai
 from fivealike.game.moves import is_spoiler_table_of, positions_from, takes_from
 from fivealike.game.search import spoiler_table_told
 from fivealike.plain import is_between, is_integer, is_pair, is_told
-from fivealike.web.checks import GREATEST_DEPTH, check_depth, check_k, check_rows
-from fivealike.web.webs import atom_at, check_point, check_web
-
-
-def check_game(one, other, k):
-    """Refuses what are no webs and no k."""
-    check_web(one)
-    check_web(other)
-    check_k(k)
+from fivealike.web.checks import GREATEST_DEPTH, check_couple, check_depth, check_level, check_rows
+from fivealike.web.webs import atom_at, check_point
 
 
 def check_game_to(one, other, k, depth):
     """Refuses what are no webs, no k and no depth, which can be None, and too many rows."""
-    check_game(one, other, k)
+    check_level(one, other, k)
     if depth is not None:
         check_depth(depth)
     check_rows((one, other), k)
@@ -40,15 +33,14 @@ def check_pairing(one, other, pairing):
 
 def is_position(one, other, k, value):
     """Whether the value is a position."""
-    check_game(one, other, k)
+    check_level(one, other, k)
     check_rows((one, other), k)
     return is_position_of(one, other, k, value)
 
 
 def is_pairing(one, other, value):
     """Whether the value is a pairing."""
-    check_web(one)
-    check_web(other)
+    check_couple(one, other)
     return is_pairing_of(one, other, value)
 
 
@@ -63,7 +55,7 @@ def is_right_ladder(one, other, k, ladder, depth):
 
 def check_held(one, other, k, ladder, depth, position):
     """Refuses what a keeper cannot pair by."""
-    check_game(one, other, k)
+    check_level(one, other, k)
     if not is_right_ladder(one, other, k, ladder, depth):
         raise InvalidTable("a ladder of both webs is asked for, or a table for the depth None")
     if depth is not None and not is_between(depth, 1, len(ladder) - 1):
@@ -148,7 +140,7 @@ def least_moves(one, other, k):
 
 def check_taken(one, other, k, table, position, pairing):
     """Refuses what a spoiler cannot take by."""
-    check_game(one, other, k)
+    check_level(one, other, k)
     if not is_spoiler_table_of(one, other, k, table):
         raise InvalidTable("a spoiler's table of both webs is asked for")
     check_position(one, other, k, position)
@@ -176,7 +168,7 @@ class Play:
     """A game that is played. It changes."""
 
     def __init__(self, one, other, k):
-        check_game(one, other, k)
+        check_level(one, other, k)
         check_rows((one, other), k)
         if len(one) != len(other):
             raise Refused(("points",))

@@ -9,9 +9,9 @@ from fivealike.pattern.closure import numbers_unlike
 from fivealike.pattern.spaces import Space
 from fivealike.plain import is_told
 from fivealike.program.checked import is_signed_point_of, point_by_types
-from fivealike.program.point import check_lesser, check_level
+from fivealike.program.point import check_lesser
 from fivealike.web.bits import near_bits
-from fivealike.web.checks import check_k
+from fivealike.web.checks import check_k, check_level
 from fivealike.web.webs import check_web
 from fivealike.width.lines import depths_of
 from fivealike.width.recipes import fits_work, places_open

@@ -38,7 +38,7 @@ class Span:
         sums = [sum([number * often for number, often in zip(table, counts)]) for counts in self.counts]
         return sums[0] != sums[1]
 
-    def find(self, prime, to_part):
+    def search(self, prime, to_part):
         """Finds tables that span all, modulo a prime; ends with one that parts the webs, if this is asked for.
 
         Whether such a one was found.
@@ -161,7 +161,7 @@ def found_span(space, to_part):
     """The span of both webs, and rows that span just its tables, None if a table parts the webs."""
     for prime in PRIMES:
         span = Span(space)
-        if span.find(prime, to_part):
+        if span.search(prime, to_part):
             return (span, None)
         rows, begun = span.basis()
         if span.is_closed(rows, begun):

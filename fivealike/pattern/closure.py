@@ -8,8 +8,7 @@ from fivealike.linear import are_independent, undone
 from fivealike.pattern.growing import basis_of, recipe_at
 from fivealike.pattern.spaces import Space, numbers_of_types, type_number
 from fivealike.plain import is_between, power_up_to
-from fivealike.web.checks import check_depth, check_k, check_rows
-from fivealike.web.webs import check_web
+from fivealike.web.checks import check_depth, check_level, check_rows
 from fivealike.width.lines import depths_of, lines_alone
 from fivealike.width.recipes import fits_work, places_open
 from fivealike.width.tables import last_table, picked
@@ -20,9 +19,7 @@ MOST_SPOTS = 512
 
 def check_asked(one, other, k, m, depth):
     """Refuses what are no webs, no k, no number of points and no depth."""
-    check_web(one)
-    check_web(other)
-    check_k(k)
+    check_level(one, other, k)
     if not is_between(m, 0, k + 1):
         raise InvalidNumber(m)
     check_depth(depth)
@@ -138,9 +135,7 @@ def unlike_recipe(one, other, k, depth):
 
 def check_pair_to_closure(one, other, k, depth):
     """Refuses what are no webs, no k and no depth, and webs with too many rows."""
-    check_web(one)
-    check_web(other)
-    check_k(k)
+    check_level(one, other, k)
     check_depth(depth)
     check_closure(one, other, k)
 

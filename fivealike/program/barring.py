@@ -35,7 +35,7 @@ class Barrer:
             self.firsts[partial] = unlike[0] if unlike != [] else None
         return self.firsts[partial]
 
-    def add(self, total, number):
+    def count_in(self, total, number):
         """Adds a number to the multiplier of a sum."""
         self.multipliers[total] = self.multipliers.get(total, 0) + number
         for member in self.couple.members(total):
@@ -66,9 +66,9 @@ class Barrer:
         if step < 0:
             times = -times
         for point in left:
-            self.add((FIRST, partial, point), -times)
+            self.count_in((FIRST, partial, point), -times)
         for partner in right:
-            self.add((SECOND, partial, partner), times)
+            self.count_in((SECOND, partial, partner), times)
 
     def kind_to_count(self, partial, depth):
         """The points of a kind in both webs, unlike many, of which few pairs have just the wrong one of this kind."""
@@ -86,7 +86,7 @@ class Barrer:
             if number > 0:
                 firsts = [(self.first_unlike(without_pair(partial, at)), at) for at in range(len(partial))]
                 at = min([(first, at) for first, at in firsts if first is not None])[1]
-                self.add((FIRST, without_pair(partial, at), partial[at][0]), number)
+                self.count_in((FIRST, without_pair(partial, at), partial[at][0]), number)
 
     def told(self):
         """The multipliers other than 0, as a dict with ascending keys."""

@@ -6,7 +6,8 @@ from fivealike.plain import is_integer, is_told
 from fivealike.program.barring import multipliers_for
 from fivealike.program.checked import is_point_of, point_by_types
 from fivealike.program.partials import FIRST, SECOND, Couple, partners_in, points_in
-from fivealike.program.point import check_lesser, check_level, check_partial
+from fivealike.program.point import check_lesser, check_partial
+from fivealike.web.checks import check_level
 
 
 def are_multipliers_of(one, other, k, value):

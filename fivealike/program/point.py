@@ -8,24 +8,11 @@ from fivealike.plain import are_between, is_between, power_up_to
 from fivealike.program.checked import is_point_of, point_by_types
 from fivealike.program.matching import matched
 from fivealike.program.partials import Couple, with_pair
-from fivealike.web.checks import check_k
+from fivealike.web.checks import check_couple, check_level
 from fivealike.web.maps import are_unlike, is_same
-from fivealike.web.webs import check_web
 
 MOST_MANY = 4
 MOST_LESSER = 300
-
-
-def check_both_webs(one, other):
-    """Refuses what are no webs."""
-    check_web(one)
-    check_web(other)
-
-
-def check_level(one, other, k):
-    """Refuses what are no webs and no k."""
-    check_both_webs(one, other)
-    check_k(k)
 
 
 def check_lesser(one, other, many):
@@ -37,13 +24,13 @@ def check_lesser(one, other, many):
 
 def is_partial(one, other, value):
     """Whether the value is a partial."""
-    check_both_webs(one, other)
+    check_couple(one, other)
     return Couple(one, other).is_partial(value)
 
 
 def partials(one, other, many):
     """The tuple of all partials of at most so many pairs."""
-    check_both_webs(one, other)
+    check_couple(one, other)
     if not is_between(many, 0, MOST_MANY):
         raise InvalidNumber(many)
     check_lesser(one, other, many)

@@ -9,8 +9,8 @@ from fivealike.say.kinds import Kinds
 from fivealike.say.sentences import depths_of, free_of, holds_in, is_sentence_of, last_truth
 from fivealike.say.truth import Grid
 from fivealike.say.writing import Writer
-from fivealike.web.checks import check_depth, check_k, check_rows, check_webs
-from fivealike.web.webs import check_web, is_row_of
+from fivealike.web.checks import check_depth, check_k, check_level, check_rows, check_webs
+from fivealike.web.webs import is_row_of
 
 MOST_SENTENCES = 20
 
@@ -130,9 +130,7 @@ def least_depth(one, other, k):
 
 def agree(one, other, k, sentences):
     """The tuple that tells for each of the sentences whether it is true of both webs or of none."""
-    check_web(one)
-    check_web(other)
-    check_k(k)
+    check_level(one, other, k)
     if not isinstance(sentences, tuple) or len(sentences) > MOST_SENTENCES:
         raise InvalidSentence("a tuple of at most 20 sentences for k is asked for")
     if not all([is_sentence_of(k, sentence) for sentence in sentences]):

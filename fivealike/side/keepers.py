@@ -7,7 +7,7 @@ from fivealike.side.layers import Layers
 from fivealike.side.lines import bits_of_line
 from fivealike.side.parts import is_family_of, is_part_of
 from fivealike.side.showing import recipe_shown
-from fivealike.web.checks import check_k, check_rows
+from fivealike.web.checks import check_couple, check_k, check_level, check_rows
 from fivealike.web.webs import check_web
 from fivealike.width.lines import lines_alone
 from fivealike.width.recipes import MOST_WORK, fits_work, places_open
@@ -15,16 +15,9 @@ from fivealike.width.recipes import MOST_WORK, fits_work, places_open
 MOST_PARTS = 20000
 
 
-def check_sides(one, other, k):
-    """Refuses what are no webs and no k."""
-    check_web(one)
-    check_web(other)
-    check_k(k)
-
-
 def check_parts(one, other, k):
     """Refuses what are no webs and no k, and too many rows or parts."""
-    check_sides(one, other, k)
+    check_level(one, other, k)
     check_rows((one, other), k)
     if power_up_to(len(one) * len(other) + 1, k, MOST_PARTS) > MOST_PARTS:
         raise TooMany(MOST_PARTS)
@@ -32,14 +25,13 @@ def check_parts(one, other, k):
 
 def is_part(one, other, value):
     """Whether the value is a part."""
-    check_web(one)
-    check_web(other)
+    check_couple(one, other)
     return is_part_of(one, other, value)
 
 
 def is_family(one, other, k, value):
     """Whether the value is a family for k."""
-    check_sides(one, other, k)
+    check_level(one, other, k)
     return is_family_of(one, other, k, value)
 
 

@@ -14,7 +14,7 @@ class Layers:
         self.tied = near_bits(one)
         self.near = near_bits(other)
         # For each part of fewer than k pairs and each point the bits of its images in parts that are left.
-        self.open = {}
+        self.leads = {}
         # Those without a number are in all layers.
         self.ranks = {}
         self.left = self.all_parts()
@@ -36,10 +36,10 @@ class Layers:
         for _ in range(self.k):
             longer = []
             for part in longest:
-                self.open[part] = [self.fitting(part, point) for point in self.points]
+                self.leads[part] = [self.fitting(part, point) for point in self.points]
                 last = part[-1][0] if part != () else -1
                 for point in self.points[last + 1:]:
-                    longer.extend([part + ((point, image),) for image in points_of(self.open[part][point])])
+                    longer.extend([part + ((point, image),) for image in points_of(self.leads[part][point])])
             longest = longer
             found.extend(longer)
         return found
@@ -47,10 +47,10 @@ class Layers:
     def images_left(self, part, point):
         """The bits of the images with which the part, with a pair more, has just parts that are left."""
         if len(part) < self.k:
-            return self.open[part][point]
+            return self.leads[part][point]
         bits = self.fitting(part, point)
         for at in range(len(part)):
-            bits = bits & self.open[without_pair(part, at)][point]
+            bits = bits & self.leads[without_pair(part, at)][point]
         return bits
 
     def is_led_on(self, part):
@@ -73,7 +73,7 @@ class Layers:
     def take_out(self, part):
         """Notes that the part is not left."""
         for at, (point, image) in enumerate(part):
-            images = self.open[without_pair(part, at)]
+            images = self.leads[without_pair(part, at)]
             images[point] = images[point] & ~(1 << image)
 
     def rank_of(self, part):

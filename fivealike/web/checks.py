@@ -1,7 +1,7 @@
 """Checks of the arguments that are the same everywhere."""
 from fivealike.errors import InvalidNumber, InvalidWeb, TooMany
 from fivealike.plain import is_between, power_up_to
-from fivealike.web.webs import Web
+from fivealike.web.webs import Web, check_web
 
 MOST_ROWS = 4096
 MOST_WEBS = 4
@@ -22,6 +22,18 @@ def check_k(k):
     """Refuses what is not 1, 2 or 3."""
     if not is_between(k, 1, GREATEST_K):
         raise InvalidNumber(k)
+
+
+def check_couple(one, other):
+    """Refuses what are no webs."""
+    check_web(one)
+    check_web(other)
+
+
+def check_level(one, other, k):
+    """Refuses what are no webs and no k."""
+    check_couple(one, other)
+    check_k(k)
 
 
 def check_depth(depth):

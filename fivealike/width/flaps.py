@@ -88,7 +88,8 @@ class Flaps:
         self.hanging = hanging_lots(tied)
         # For each flap the bits of its neighbours.
         self.around = {bits: rim for bits, rim in self.hanging.items() if how_many(rim) <= k + 1}
-        self.order = [bits for _, bits in sorted([(how_many(bits), bits) for bits in self.around])]
+        sized = sorted([(how_many(bits), bits) for bits in self.around])
+        self.order = [bits for _, bits in sized]
         # Those with more neighbours than k have no point that can be taken first.
         self.points = {bits: points_of(bits) for bits, rim in self.around.items() if how_many(rim) <= k}
         self.cleared = {}
