@@ -10,7 +10,7 @@ from fivealike.say.truth import Grid
 from fivealike.web.bits import how_many, points_of
 
 # Lines can be written that are not needed in the end: so more are let for a while.
-MOST_WRITTEN = 3 * MOST_LINES
+MOST_WRITTEN = 6000
 
 
 class Writer:
@@ -38,9 +38,10 @@ class Writer:
                 self.write(("same", low, high))
         colours = sorted(set([colour for web in webs for colour in web.colours]))
         # Where all points have one colour, it tells nothing.
-        for colour in colours if len(colours) > 1 else []:
-            for name in names:
-                self.write(("colour", name, colour))
+        if len(colours) > 1:
+            for colour in colours:
+                for name in names:
+                    self.write(("colour", name, colour))
 
     def write(self, line):
         """The index of the line, which is written if it is not there."""

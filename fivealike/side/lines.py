@@ -6,7 +6,7 @@ from fivealike.width.lines import lines_alone, lines_within
 from fivealike.width.recipes import MOST_LINES
 
 # Lines can be written that are not needed in the end: so more are let for a while.
-MOST_WRITTEN = 10 * MOST_LINES
+MOST_WRITTEN = 20000
 
 
 def bits_of_line(grid, line, ahead):

@@ -114,7 +114,9 @@ class Plan:
         self.want(((), ()), 1)
         for rank in reversed(range(1, most + 1)):
             self.steps[rank] = []
-            for spot, wanted in self.wanted.get(rank, {}).items():
+            # What is wanted from here on is of lesser ranks.
+            spots = list(self.wanted.get(rank, {}).items())
+            for spot, wanted in spots:
                 left = wanted
                 while left:
                     place, point, ending = self.best_step(spot, rank, left)
