@@ -60,6 +60,22 @@ LISTED = {
     "line.lines": "is_line(k, value) are_row_bags(web, value) path_width(web) row_of_bags(web)"
                   " line_of(pattern, bags, k) span_number(one, other, k) line_answer(one, other, k)"
                   " is_line_answer(one, other, k, value)",
+    "carry.carried": "made_webs(word, one, other, first, last)"
+                     " carried_ladder(word, k, one, other, ladder, first, last, more)"
+                     " carried_table(word, k, one, other, table, first, last, more)"
+                     " recoloured_ladder(k, one, other, depth, at, colours)"
+                     " cancelled(word, k, one, other, third, ladder) pieces_of(recipe, k)"
+                     " piece_apart(recipe, k, one, other)",
+    "twist.twisted": "twisted(base, ties) over(base) even_map(base, ties, others) section_number(base, ties)"
+                     " lifted_number(base, ties, pattern, images) twist_answer(base, ties, k)"
+                     " is_twist_answer(base, ties, k, value)",
+    "same.search": "look_of(web, row, point) are_like_rows(one, row, other, goal) same_answer(one, other)"
+                   " is_same_answer(one, other, value) led_answer(one, row, other, goal)"
+                   " is_led_answer(one, row, other, goal, value) is_tries(one, other, value) symmetries_of(web)"
+                   " are_symmetries(web, value) symmetry_number(web) moved_points(web) form_of(web) renamed_number(web)",
+    "same.counts": "partings(pattern) quotient(pattern, lots) weight(pattern, lots) one_to_one_sum(pattern)"
+                   " told_sum(pattern) quotient_width(pattern) pattern_answer(one, other)"
+                   " is_pattern_answer(one, other, value)",
 }
 CLASSES = {
     ("web.webs", "Web"): "__init__(self, colours, ties) near(self, point) is_tied(self, here, there)"
@@ -71,6 +87,7 @@ CONSTANTS = {
     ("width.bags", "MOST_WIDE"): 12, ("width.recipes", "MOST_LINES"): 2000, ("say.sentences", "MOST_LINES"): 2000,
     ("say.sentences", "MOST_LEAST"): 99, ("pattern.closure", "MOST_KEPT"): 64, ("pattern.closure", "MOST_SPOTS"): 512,
     ("depth.forests", "MOST_TRIED"): 7, ("side.keepers", "MOST_PARTS"): 20000,
+    ("carry.carried", "WORDS"): ("beside", "joined", "times"),
 }
 MESSAGES = ("InvalidWeb", "InvalidRow", "InvalidMap", "InvalidBags", "InvalidRecipe", "InvalidSentence",
             "InvalidTable", "InvalidClaim", "InvalidOperation")

@@ -2,6 +2,7 @@
 from fivealike.colour.fields import fields_of, grow_fields, marks_by, row_number, rows_up_to
 from fivealike.colour.names import do_agree, indices_of, names_there
 from fivealike.plain import are_between, is_integer, is_pair
+from fivealike.web.checks import GREATEST_DEPTH
 
 
 def is_numbering(web, k, value):
@@ -103,6 +104,13 @@ def is_ladder_of(one, other, k, depth, value):
         if is_new and not do_follow(judge.fields, steps[at], steps[at + 1]):
             return False
     return True
+
+
+def is_some_ladder_of(one, other, k, value):
+    """Whether the value is a ladder of these, which are webs, to some depth."""
+    if not isinstance(value, tuple) or not 1 <= len(value) <= GREATEST_DEPTH + 1:
+        return False
+    return is_ladder_of(one, other, k, len(value) - 1, value)
 
 
 def dict_of(rows, numbers):

@@ -1,13 +1,13 @@
 """The counting game with k + 1 tokens: its keeper, its spoiler, and a game that is played."""
 from fivealike.colour.fields import cuts_of, fields_of
-from fivealike.colour.ladders import dicts_of, is_ladder_of, is_table_of, ladder_told, least_round
+from fivealike.colour.ladders import dicts_of, is_ladder_of, is_some_ladder_of, is_table_of, ladder_told, least_round
 from fivealike.colour.names import rounds_until_apart
 from fivealike.errors import InvalidNumber, InvalidOperation, InvalidTable, Refused
 from fivealike.game.moves import START, are_like_behind, behind_position, is_pairing_of, is_position_of
 from fivealike.game.moves import is_spoiler_table_of, positions_from, takes_from
 from fivealike.game.search import spoiler_table_told
 from fivealike.plain import is_between, is_integer, is_pair, is_told
-from fivealike.web.checks import GREATEST_DEPTH, check_couple, check_depth, check_level, check_rows
+from fivealike.web.checks import check_couple, check_depth, check_level, check_rows
 from fivealike.web.webs import atom_at, check_point
 
 
@@ -48,9 +48,7 @@ def is_right_ladder(one, other, k, ladder, depth):
     """Whether this is a ladder to some depth, or, for the depth None, a table."""
     if depth is None:
         return is_table_of(one, other, k, ladder)
-    if not isinstance(ladder, tuple) or not 1 <= len(ladder) <= GREATEST_DEPTH + 1:
-        return False
-    return is_ladder_of(one, other, k, len(ladder) - 1, ladder)
+    return is_some_ladder_of(one, other, k, ladder)
 
 
 def check_held(one, other, k, ladder, depth, position):

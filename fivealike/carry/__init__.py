@@ -1,0 +1,1 @@
+"""What is carried along from webs to those made of them."""

@@ -1,0 +1,1 @@
+"""The checker of papers: it only counts, adds, multiplies and compares."""

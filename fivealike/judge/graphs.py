@@ -1,0 +1,56 @@
+"""Webs as the checker sees them: pairs of colours and ties."""
+from fivealike.judge.plain import are_between, is_ascending, is_tuple_of
+
+MOST_POINTS = 40
+LEAST_COLOUR = -1
+GREATEST_COLOUR = 9
+
+
+def is_tie(value, many):
+    """Whether the value is a pair of two of so many points, the lesser one first."""
+    return is_tuple_of(value, 2) and are_between(value, 0, many - 1) and value[0] < value[1]
+
+
+def is_web(value):
+    """Whether the value is the pair of the colours and the ties of a web."""
+    if not is_tuple_of(value, 2):
+        return False
+    colours, ties = value
+    if not are_between(colours, LEAST_COLOUR, GREATEST_COLOUR) or len(colours) > MOST_POINTS:
+        return False
+    if not isinstance(ties, tuple) or not all([is_tie(tie, len(colours)) for tie in ties]):
+        return False
+    return is_ascending(ties)
+
+
+class Graph:
+    """A web, told by its colours and ties. It does not change."""
+
+    def __init__(self, colours, ties):
+        self.colours = colours
+        self.ties = ties
+        self.many = len(colours)
+        # For each point the bits of the points that are tied to it.
+        self.near = [0] * self.many
+        for here, there in ties:
+            self.near[here] = self.near[here] | 1 << there
+            self.near[there] = self.near[there] | 1 << here
+
+    def is_tied(self, here, there):
+        """Whether two points are tied."""
+        return self.near[here] >> there & 1 == 1
+
+
+def graph_of(web):
+    """The graph of the pair of colours and ties."""
+    return Graph(web[0], web[1])
+
+
+def points_of(bits):
+    """The ascending list of the points whose bits are set."""
+    points = []
+    left = bits
+    while left:
+        points.append((left & -left).bit_length() - 1)
+        left = left & (left - 1)
+    return points

@@ -1,0 +1,1 @@
+"""Twisted webs, which are alike and not the same."""
