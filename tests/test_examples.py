@@ -5,13 +5,14 @@ import unittest
 import fivealike.errors
 from fivealike.twist.twisted import twisted
 
-# For each section the module under which the document lists what the section's examples call.
+# For each section the modules under which the document lists what the section's examples call.
 MODULES = {
     "Examples": "web.webs", "Stage 1": "web.webs", "Stage 2": "web.maps", "Stage 3": "width.bags",
     "Stage 4": "width.recipes", "Stage 5": "colour.rounds", "Stage 6": "colour.alike", "Stage 7": "game.tokens",
     "Stage 8": "say.sentences", "Stage 9": "say.parting", "Stage 10": "pattern.closure", "Stage 11": "program.point",
     "Stage 12": "program.bars", "Stage 13": "depth.forests", "Stage 14": "side.keepers", "Stage 15": "line.lines",
     "Stage 16": "carry.carried", "Stage 17": "twist.twisted", "Stage 18": "same.search", "Stage 19": "same.counts",
+    "Stage 20": "colour.codes", "Stage 21": "judge.judge judge.answers", "Stage 22": "use.texts use.bench",
 }
 PLACE = os.path.join(os.path.dirname(os.path.abspath(__file__)), "examples.txt")
 
@@ -53,7 +54,8 @@ class Examples(unittest.TestCase):
         checked = 0
         for section, typed, printed in examples():
             # Some modules have functions of one name: those of the section are meant.
-            names.update(names_of_module(MODULES[section.split(":")[0]]))
+            for word in MODULES[section.split(":")[0]].split():
+                names.update(names_of_module(word))
             with self.subTest(section=section, typed=typed):
                 if printed == []:
                     exec(typed, names)
@@ -63,7 +65,7 @@ class Examples(unittest.TestCase):
                 else:
                     self.assertEqual(repr(eval(typed, names)), printed[0])
                     checked += 1
-        self.assertEqual(checked, 74)
+        self.assertEqual(checked, 88)
 
     def test_they_are_those_of_the_document(self):
         place = os.path.join(os.path.dirname(PLACE), "..", "..", "shared", "DOC.md")

@@ -1,6 +1,7 @@
 """All names of the interface exist, where it lists them, and take what it lists."""
 import importlib
 import inspect
+import os
 import unittest
 
 import fivealike.errors
@@ -76,18 +77,25 @@ LISTED = {
     "same.counts": "partings(pattern) quotient(pattern, lots) weight(pattern, lots) one_to_one_sum(pattern)"
                    " told_sum(pattern) quotient_width(pattern) pattern_answer(one, other)"
                    " is_pattern_answer(one, other, value)",
+    "colour.codes": "code_of(web, k, depth) classes(webs, k, depth) apart_table(webs, k) parting_tree(webs, k)"
+                    " tree_classes(tree, depth)",
+    "judge.judge": "is_claim(value) opposite(claim) takes(claim, paper)",
+    "judge.answers": "answered(claim, *, by='spoiler')",
+    "use.texts": "web_text(web) read_web(text) sentence_text(k, sentence) read_sentence(k, text)"
+                 " recipe_text(k, recipe) read_recipe(k, text)",
 }
 CLASSES = {
     ("web.webs", "Web"): "__init__(self, colours, ties) near(self, point) is_tied(self, here, there)"
                          " __len__(self) __contains__(self, value) __eq__(self, other) __str__(self)",
     ("game.tokens", "Play"): "__init__(self, one, other, k) offer(self, pairing) take(self, point, place=0)"
                              " undo(self) twin(self) __len__(self) __eq__(self, other) __str__(self)",
+    ("use.bench", "Bench"): "__init__(self) tell(self, line) web(self, name) __len__(self) __str__(self)",
 }
 CONSTANTS = {
     ("width.bags", "MOST_WIDE"): 12, ("width.recipes", "MOST_LINES"): 2000, ("say.sentences", "MOST_LINES"): 2000,
     ("say.sentences", "MOST_LEAST"): 99, ("pattern.closure", "MOST_KEPT"): 64, ("pattern.closure", "MOST_SPOTS"): 512,
     ("depth.forests", "MOST_TRIED"): 7, ("side.keepers", "MOST_PARTS"): 20000,
-    ("carry.carried", "WORDS"): ("beside", "joined", "times"),
+    ("carry.carried", "WORDS"): ("beside", "joined", "times"), ("colour.codes", "MOST_FAMILY"): 12,
 }
 MESSAGES = ("InvalidWeb", "InvalidRow", "InvalidMap", "InvalidBags", "InvalidRecipe", "InvalidSentence",
             "InvalidTable", "InvalidClaim", "InvalidOperation")
@@ -119,6 +127,16 @@ class Interface(unittest.TestCase):
             for method, arguments in split_heads(heads):
                 with self.subTest(name=method):
                     self.assertEqual(str(inspect.signature(vars(kind)[method])), arguments)
+
+    def test_what_the_checker_imports(self):
+        """Of the files of the checker just the one that makes papers imports more than errors and one another."""
+        folder = os.path.dirname(importlib.import_module("fivealike.judge").__file__)
+        for name in sorted(os.listdir(folder)):
+            if name.endswith(".py") and name != "answers.py":
+                with open(os.path.join(folder, name), encoding="utf-8") as file:
+                    found = [line.split()[1] for line in file if line.startswith(("import ", "from "))]
+                for word in found:
+                    self.assertTrue(word == "fivealike.errors" or word.startswith("fivealike.judge."), (name, word))
 
     def test_constants(self):
         for (word, name), value in CONSTANTS.items():

@@ -54,3 +54,25 @@ def points_of(bits):
         points.append((left & -left).bit_length() - 1)
         left = left & (left - 1)
     return points
+
+
+def bits_of(points):
+    """The bits of these points, each of which comes once."""
+    return sum([1 << point for point in points])
+
+
+def are_like_behind(one, row, point, other, goal, image):
+    """Whether a point has the colour of an image, and is to the points of a row what this is to those of a goal."""
+    if one.colours[point] != other.colours[image]:
+        return False
+    near, far = one.near[point], other.near[image]
+    return all([(here == point) == (there == image) and near >> here & 1 == far >> there & 1
+                for here, there in zip(row, goal)])
+
+
+def are_rows_like(one, row, other, goal):
+    """Whether both rows are as long, and have equal colours, equal places and ties, place by place."""
+    if len(row) != len(goal):
+        return False
+    return all([are_like_behind(one, row[:place], row[place], other, goal[:place], goal[place])
+                for place in range(len(row))])

@@ -1,5 +1,5 @@
 """Papers for whether webs are the same: maps, and tries that no map can be."""
-from fivealike.judge.graphs import points_of
+from fivealike.judge.graphs import are_rows_like, points_of
 from fivealike.judge.plain import are_between, are_unlike, is_between, is_integer, is_lot, is_tuple_of
 
 
@@ -18,18 +18,6 @@ def is_same_map(one, other, value):
 def is_unlike_row(graph, value):
     """Whether the value is a tuple of unlike points."""
     return are_between(value, 0, graph.many - 1) and are_unlike(value)
-
-
-def ties_ahead(graph, row):
-    """For each place of the row the list of whether its point is tied to those at the places ahead."""
-    return [[graph.near[point] >> row[ahead] & 1 for ahead in range(place)] for place, point in enumerate(row)]
-
-
-def are_rows_like(one, row, other, goal):
-    """Whether both, which are rows of unlike points, are as long and have equal colours and ties place by place."""
-    if len(row) != len(goal) or [one.colours[point] for point in row] != [other.colours[point] for point in goal]:
-        return False
-    return ties_ahead(one, row) == ties_ahead(other, goal)
 
 
 def is_like_pair(one, other, value):

@@ -2,8 +2,8 @@
 from math import factorial
 
 from fivealike.errors import InvalidOperation, InvalidRow, TooMany
-from fivealike.judge.graphs import Graph
-from fivealike.judge.sames import are_rows_like, are_tries, are_tries_of
+from fivealike.judge.graphs import Graph, are_rows_like
+from fivealike.judge.sames import are_tries, are_tries_of
 from fivealike.plain import are_between, is_told
 from fivealike.same.finding import found_map
 from fivealike.same.groups import form_names, ladder_of, makers_of, reached_from

@@ -1,0 +1,1 @@
+"""Texts of webs, sentences and recipes, and a bench that is told lines."""
