@@ -3,17 +3,22 @@
 
 def is_integer(value):
     """Whether the value is an integer; True and False are none."""
-    return isinstance(value, int) and not isinstance(value, bool)
+    return type(value) == int
 
 
 def is_between(value, low, high):
     """Whether the value is an integer from low to high."""
-    return is_integer(value) and low <= value <= high
+    return type(value) == int and low <= value <= high
 
 
 def are_between(value, low, high):
     """Whether the value is a tuple of integers from low to high."""
-    return isinstance(value, tuple) and all([is_between(member, low, high) for member in value])
+    if not isinstance(value, tuple):
+        return False
+    for member in value:
+        if type(member) != int or not low <= member <= high:
+            return False
+    return True
 
 
 def is_pair(value):
@@ -23,7 +28,10 @@ def is_pair(value):
 
 def is_ascending(members):
     """Whether each member is below the one behind it."""
-    return all([members[at] < members[at + 1] for at in range(len(members) - 1)])
+    for at in range(1, len(members)):
+        if not members[at - 1] < members[at]:
+            return False
+    return True
 
 
 def is_told(value, word):

@@ -1,8 +1,8 @@
 """What is carried along: ladders and tables of webs made of others, and recipes of pieces."""
 from fivealike.carry.splitting import recipes_of_pieces
 from fivealike.colour.fields import fields_of, index_of
-from fivealike.colour.ladders import dicts_of, is_some_ladder_of, is_table_of, ladder_told, least_round
-from fivealike.colour.names import names_there, rounds_up_to
+from fivealike.colour.ladders import dicts_of, is_some_ladder_of, is_table_of, ladder_told
+from fivealike.colour.names import do_agree, names_there, numbers_up_to, rounds_up_to
 from fivealike.errors import InvalidNumber, InvalidOperation, InvalidTable, TooMany, UnknownName
 from fivealike.pattern.closure import numbers_unlike
 from fivealike.plain import is_between, is_integer
@@ -57,7 +57,7 @@ def check_begun(word, k, one, other):
 def ladder_between(one, other, k, depth):
     """The ladder of the names of both webs, which are alike to the depth."""
     fields = fields_of((one, other), k)
-    return ladder_told(fields, rounds_up_to(fields, depth), depth)
+    return ladder_told(fields, numbers_up_to(fields, depth), depth)
 
 
 def carried_ladder(word, k, one, other, ladder, first, last, more):
@@ -83,7 +83,7 @@ def carried_table(word, k, one, other, table, first, last, more):
     made = made_webs(word, one, other, first, last)
     check_rows(made, k)
     fields = fields_of(made, k)
-    return dicts_of(fields, rounds_up_to(fields, None)[-1])
+    return dicts_of(fields, numbers_up_to(fields, None)[-1])
 
 
 def are_colours_for(names, value):
@@ -113,7 +113,7 @@ def recoloured_ladder(k, one, other, depth, at, colours):
     by_web = [point_names(web, names) for web, names in zip((one, other), names_there(rounds, at))]
     if not are_colours_for(by_web[0] + by_web[1], colours):
         raise InvalidOperation("a colour for each name of a point is asked for")
-    if least_round(rounds) is not None:
+    if not all([do_agree(names) for names in rounds]):
         raise InvalidOperation("the webs are apart at the depth")
     made = [Web(tuple([colours[name] for name in names]), web.ties) for web, names in zip((one, other), by_web)]
     return (made[0], made[1], ladder_between(made[0], made[1], k, depth - at))

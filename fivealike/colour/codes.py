@@ -1,6 +1,6 @@
 """Codes of webs, each told of one web alone, and the classes and the parting tree of some webs."""
-from fivealike.colour.fields import fields_of, grow_fields, row_number, rows_up_to
-from fivealike.colour.names import first_names, names_there, next_names, rounds_up_to
+from fivealike.colour.fields import fields_of, row_number, rows_up_to
+from fivealike.colour.names import first_names, names_there, parted, rounds_up_to
 from fivealike.colour.rounds import things_behind
 from fivealike.errors import InvalidOperation, InvalidWeb
 from fivealike.plain import are_between, counted, is_ascending, is_between, is_pair
@@ -83,9 +83,8 @@ def class_rounds(webs, k, depth):
     names = first_names(fields)
     rounds = [[0] * len(webs)]
     while len(left) > 1 and (depth is None or len(rounds) <= depth):
-        grow_fields(fields)
-        later = next_names(fields, names)
-        if name_number_in(later) == name_number_in(names):
+        later, marks = parted(fields, names)
+        if len(marks) == name_number_in(names):
             return rounds
         found = least_alike(left, later)
         rounds.append([found.get(head, rounds[-1][head]) for head in heads])

@@ -1,33 +1,27 @@
 """Ladders and tables of two webs: integers for rows that follow those of the round below."""
-from fivealike.colour.fields import fields_of, grow_fields, marks_by, row_number, rows_up_to
-from fivealike.colour.names import do_agree, indices_of, names_there
-from fivealike.plain import are_between, is_integer, is_pair
+from fivealike.colour.fields import fields_of, row_number, rows_up_to
+from fivealike.colour.names import all_behind, do_agree, names_there
+from fivealike.plain import is_pair
 from fivealike.web.checks import GREATEST_DEPTH
 
 
-def is_numbering(web, k, value):
-    """Whether the value is a dict from just all rows of at most k points to integers."""
-    if not isinstance(value, dict) or len(value) != row_number(len(web), k):
-        return False
-    if not all([is_integer(number) for number in list(value.values())]):
+def is_numbering(many, k, value):
+    """Whether the value is a dict from just all rows of at most k of so many points to integers."""
+    if not isinstance(value, dict) or len(value) != row_number(many, k):
         return False
     # As many unlike rows as there are: so each one is there.
-    return all([are_between(row, 0, len(web) - 1) and len(row) <= k for row in value])
+    for row, number in value.items():
+        if type(number) != int or not isinstance(row, tuple) or len(row) > k:
+            return False
+        for point in row:
+            if type(point) != int or not 0 <= point < many:
+                return False
+    return True
 
 
-def are_numberings(webs, k, value):
-    """Whether the value is a pair of dicts, of one for each of both webs."""
-    return is_pair(value) and all([is_numbering(web, k, own) for web, own in zip(webs, value)])
-
-
-def numbers_of(rows, pair):
-    """For each of both webs the list of the numbers that the dicts of the pair tell for its rows."""
-    return [[own[row] for row in those] for those, own in zip(rows, pair)]
-
-
-def with_lengths(rows, numbers):
-    """For each of both webs the list of the pairs of a row's length and its number."""
-    return [[(len(row), number) for row, number in zip(those, own)] for those, own in zip(rows, numbers)]
+def are_numberings(one, other, k, value):
+    """Whether the value is a pair of such dicts, of one for each of both webs."""
+    return is_pair(value) and is_numbering(len(one), k, value[0]) and is_numbering(len(other), k, value[1])
 
 
 def do_tell(numbers, things):
@@ -48,60 +42,58 @@ def atoms_told(field):
     return found
 
 
-def do_follow(fields, lower, upper):
-    """Whether rows with one number have one, and the same counted behind them, a round below.
-
-    The numbers stand beside the lengths of the rows; what is below of any length can be great.
-    """
-    index = indices_of(lower, 0)
-    marks = []
-    for field, own in zip(fields, lower):
-        marks.append(marks_by(field, [index[number] for number in own], [True] * len(own)))
-    return do_tell(upper, marks)
-
-
 class Judge:
     """What is needed to judge numbers of the rows of two webs."""
 
     def __init__(self, one, other, k):
         self.fields = fields_of((one, other), k)
-        self.rows = [rows_up_to(field.many, k) for field in self.fields]
-        grow_fields(self.fields)
+        rows = rows_up_to(len(one), k)
+        self.rows = (rows, rows if len(one) == len(other) else rows_up_to(len(other), k))
 
-    def steps_of(self, pairs):
-        """For each pair of dicts the numbers that it tells, beside the lengths of the rows."""
-        return [with_lengths(self.rows, numbers_of(self.rows, pair)) for pair in pairs]
+    def numbers_told(self, pair):
+        """For each web the list of a small number for each row, equal for equal lengths and equal integers."""
+        known = {}
+        return [[known.setdefault((len(row), own[row]), len(known)) for row in rows]
+                for rows, own in zip(self.rows, pair)]
 
-    def do_tell_atoms(self, numbers):
-        """Whether rows of one length that have one number have one atom."""
+    def do_begin(self, numbers):
+        """Whether rows that have one number have one atom."""
         return do_tell(numbers, [atoms_told(field) for field in self.fields])
+
+    def do_follow(self, lower, upper):
+        """Whether rows with one number have one, and the same counted behind them, a round below.
+
+        The numbers below tell atoms, as they follow, round by round, those of the round 0.
+        """
+        base = max([max(own) for own in lower]) + 1
+        behind = [list(zip(own, all_behind(field, own, base, [True] * len(own))))
+                  for field, own in zip(self.fields, lower)]
+        return do_tell(upper, behind)
 
 
 def is_table_of(one, other, k, value):
     """Whether the value is a table of these, which are webs."""
-    if not are_numberings((one, other), k, value):
+    if not are_numberings(one, other, k, value):
         return False
     judge = Judge(one, other, k)
-    numbers = judge.steps_of([value])[0]
-    if not do_agree(numbers) or not judge.do_tell_atoms(numbers):
-        return False
-    return do_follow(judge.fields, numbers, numbers)
+    numbers = judge.numbers_told(value)
+    return do_agree(numbers) and judge.do_begin(numbers) and judge.do_follow(numbers, numbers)
 
 
 def is_ladder_of(one, other, k, depth, value):
     """Whether the value is a ladder to the depth of these, which are webs."""
     if not isinstance(value, tuple) or len(value) != depth + 1:
         return False
-    if not all([are_numberings((one, other), k, pair) for pair in value]):
+    if not all([are_numberings(one, other, k, pair) for pair in value]):
         return False
     judge = Judge(one, other, k)
-    steps = judge.steps_of(value)
-    if not all([do_agree(numbers) for numbers in steps]) or not judge.do_tell_atoms(steps[0]):
+    steps = [judge.numbers_told(pair) for pair in value]
+    if not all([do_agree(numbers) for numbers in steps]) or not judge.do_begin(steps[0]):
         return False
     for at in range(depth):
         # A step that stands below, too, has been looked at there.
         is_new = at == 0 or steps[at] != steps[at - 1] or steps[at + 1] != steps[at]
-        if is_new and not do_follow(judge.fields, steps[at], steps[at + 1]):
+        if is_new and not judge.do_follow(steps[at], steps[at + 1]):
             return False
     return True
 
@@ -113,14 +105,9 @@ def is_some_ladder_of(one, other, k, value):
     return is_ladder_of(one, other, k, len(value) - 1, value)
 
 
-def dict_of(rows, numbers):
-    """The dict from the rows to these numbers."""
-    return {row: number for row, number in zip(rows, numbers)}
-
-
 def dicts_of(fields, names):
     """The tuple of the dicts from the rows of each field to their names."""
-    return tuple([dict_of(rows_up_to(field.many, field.k), own) for field, own in zip(fields, names)])
+    return tuple([dict(zip(rows_up_to(field.many, field.k), own)) for field, own in zip(fields, names)])
 
 
 def ladder_told(fields, rounds, depth):
@@ -129,13 +116,5 @@ def ladder_told(fields, rounds, depth):
     ladder = []
     for at in range(depth + 1):
         names = names_there(rounds, at)
-        ladder.append((dict_of(rows[0], names[0]), dict_of(rows[1], names[1])))
+        ladder.append((dict(zip(rows[0], names[0])), dict(zip(rows[1], names[1]))))
     return tuple(ladder)
-
-
-def least_round(rounds):
-    """The first of the rounds at which the empty rows have unlike names, None if there is none."""
-    for at in range(len(rounds)):
-        if not do_agree(rounds[at]):
-            return at
-    return None

@@ -1,7 +1,7 @@
 """Rounds of rows: marks, names and types of the rows of webs side by side."""
 from fivealike.colour.fields import cuts_of, fields_of, index_of
 from fivealike.colour.ladders import dicts_of, is_numbering
-from fivealike.colour.names import many_names, names_there, rounds_up_to
+from fivealike.colour.names import many_names, names_there, numbers_up_to, rounds_up_to
 from fivealike.errors import InvalidNumber, InvalidRow
 from fivealike.plain import counted, is_between
 from fivealike.web.checks import check_depth, check_k, check_rows, check_webs
@@ -33,7 +33,7 @@ def name_number(webs, k, depth):
     """How many names there are at the round."""
     check_asked(webs, k, depth)
     check_rows(webs, k)
-    return many_names(names_there(rounds_up_to(fields_of(webs, k), depth), depth))
+    return many_names(names_there(numbers_up_to(fields_of(webs, k), depth), depth))
 
 
 def mark_of(webs, k, depth, which, row):
@@ -80,7 +80,7 @@ def stable_round(webs, k):
     check_webs(webs)
     check_k(k)
     check_rows(webs, k)
-    return len(rounds_up_to(fields_of(webs, k), None)) - 1
+    return len(numbers_up_to(fields_of(webs, k), None)) - 1
 
 
 def stable_names(webs, k):
@@ -108,8 +108,8 @@ def is_renaming(webs, k, depth, value):
     check_rows(webs, k)
     if not isinstance(value, tuple) or len(value) != len(webs):
         return False
-    if not all([is_numbering(web, k, own) for web, own in zip(webs, value)]):
+    if not all([is_numbering(len(web), k, own) for web, own in zip(webs, value)]):
         return False
     fields = fields_of(webs, k)
-    names = dicts_of(fields, names_there(rounds_up_to(fields, depth), depth))
+    names = dicts_of(fields, names_there(numbers_up_to(fields, depth), depth))
     return are_one_to_one([(own[row], told[row]) for own, told in zip(names, value) for row in own])

@@ -1,13 +1,13 @@
 """Forests of patterns, the recipes that they are, and those with unlike counts."""
-from fivealike.colour.alike import check_pair, first_apart
+from fivealike.colour.alike import check_pair
+from fivealike.colour.apart import least_between
 from fivealike.colour.fields import fields_of
-from fivealike.colour.ladders import least_round
-from fivealike.colour.names import rounds_until_apart
+from fivealike.colour.names import rounds_to_part
 from fivealike.depth.growth import forest_along, recipe_along
 from fivealike.depth.search import Search
 from fivealike.depth.trees import depth_of, is_forest_of
 from fivealike.errors import InvalidBags, TooMany
-from fivealike.pattern.closure import check_closure, check_kept, numbers_unlike, unlike_told
+from fivealike.pattern.closure import check_closure, numbers_unlike, unlike_told
 from fivealike.web.checks import check_k, check_level
 from fivealike.web.webs import Web, check_web
 from fivealike.width.recipes import check_closed, check_pattern, places_checked, web_of_shape
@@ -84,11 +84,8 @@ def unlike_forest(one, other, k):
     check_level(one, other, k)
     check_closure(one, other, k)
     fields = fields_of((one, other), k)
-    rounds = rounds_until_apart(fields, None)
-    if least_round(rounds) is None:
-        return None
-    check_kept(fields, rounds[-2], k)
-    return forest_told(unlike_told(fields, rounds))
+    rounds, least = rounds_to_part(fields, None)
+    return None if least is None else forest_told(unlike_told(fields, rounds))
 
 
 def is_unlike_forest(one, other, k, value):
@@ -97,7 +94,7 @@ def is_unlike_forest(one, other, k, value):
     if not isinstance(value, tuple) or len(value) != 3 or not isinstance(value[0], Web):
         return False
     pattern, above, labels = value
-    least = first_apart(one, other, k, None)
+    least = least_between(one, other, k, None)
     if least is None or not is_forest_of(pattern, k, (above, labels)) or depth_of(above) != least:
         return False
     return numbers_unlike(recipe_along(pattern, above, labels), k, (one, other))

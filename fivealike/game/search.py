@@ -1,6 +1,5 @@
 """The search for a spoiler's table by the names of rows."""
-from fivealike.colour.fields import kinds_behind, longer_behind, rows_up_to
-from fivealike.game.moves import met_pairs
+from fivealike.colour.fields import kinds_behind, rows_up_to
 
 
 def first_unlike(rounds, here, there):
@@ -27,6 +26,15 @@ def first_lots(one, other):
             return (tuple(one[kind]), tuple(right))
     # There are points of some kind just in the other web then.
     return ((), tuple([other[kind] for kind in other if kind not in one][0]))
+
+
+def met_pairs(webs, left, right):
+    """The list of pairs of which each pairing has one, as left and right have unlike many points."""
+    if len(left) > len(right):
+        outside = [point for point in range(len(webs[1])) if point not in right]
+        return [(point, partner) for point in left for partner in outside]
+    outside = [point for point in range(len(webs[0])) if point not in left]
+    return [(point, partner) for point in outside for partner in right]
 
 
 def best_lots(webs, one, other):
@@ -56,6 +64,7 @@ class Search:
         # What has been worked out of rows, to be looked up: many positions have the same ones.
         self.lots = {}
         self.starts = {}
+        self.atoms = {}
         self.entries = {}
         # For each position that is asked for the number of moves.
         self.asked = {}
@@ -85,7 +94,7 @@ class Search:
             left, right = first_lots(one, other)
             return (moves, left, right)
         left, right = best_lots(self.webs, one, other)
-        pairs = met_pairs(self.webs[0], self.webs[1], left, right)
+        pairs = met_pairs(self.webs, left, right)
         if here < self.fields[0].first_long:
             self.lead_short(here, there, pairs)
         else:
@@ -106,6 +115,12 @@ class Search:
             self.starts[which, at] = self.fields[which].starts_of(self.rows[which][at])
         return self.starts[which, at]
 
+    def atoms_behind(self, which, at):
+        """For each point what tells the atom of the row of k points with it behind."""
+        if (which, at) not in self.atoms:
+            self.atoms[which, at] = self.fields[which].atoms_behind(self.rows[which][at])
+        return self.atoms[which, at]
+
     def lead_short(self, here, there, pairs):
         """Asks for what rows of fewer than k points lead to."""
         first, last = here * len(self.webs[0]) + 1, there * len(self.webs[1]) + 1
@@ -118,7 +133,7 @@ class Search:
     def lead_long(self, moves, position, pairs):
         """Asks for what rows of k points lead to, with a place left out."""
         starts = [self.starts_behind(which, position[which]) for which in (0, 1)]
-        atoms, goals = [longer_behind(self.fields[which], position[which]) for which in (0, 1)]
+        atoms, goals = [self.atoms_behind(which, position[which]) for which in (0, 1)]
         for point, partner in pairs:
             if atoms[point] == goals[partner]:
                 cuts = [(here + point, there + partner) for here, there in zip(starts[0], starts[1])]

@@ -1,10 +1,10 @@
 """The counting game with k + 1 tokens: its keeper, its spoiler, and a game that is played."""
+from fivealike.colour.apart import least_between
 from fivealike.colour.fields import cuts_of, fields_of
-from fivealike.colour.ladders import dicts_of, is_ladder_of, is_some_ladder_of, is_table_of, ladder_told, least_round
-from fivealike.colour.names import rounds_until_apart
+from fivealike.colour.ladders import dicts_of, is_ladder_of, is_some_ladder_of, is_table_of, ladder_told
+from fivealike.colour.names import rounds_to_part
 from fivealike.errors import InvalidNumber, InvalidOperation, InvalidTable, Refused
-from fivealike.game.moves import START, are_like_behind, behind_position, is_pairing_of, is_position_of
-from fivealike.game.moves import is_spoiler_table_of, positions_from, takes_from
+from fivealike.game.moves import START, Board, behind_position, is_pairing_of, positions_from
 from fivealike.game.search import spoiler_table_told
 from fivealike.plain import is_between, is_integer, is_pair, is_told
 from fivealike.web.checks import check_couple, check_depth, check_level, check_rows
@@ -17,6 +17,11 @@ def check_game_to(one, other, k, depth):
     if depth is not None:
         check_depth(depth)
     check_rows((one, other), k)
+
+
+def is_position_of(one, other, k, value):
+    """Whether the value is a position of these webs."""
+    return value == START or Board(one, other, k).is_position(value)
 
 
 def check_position(one, other, k, position):
@@ -102,8 +107,8 @@ def game_answer(one, other, k, depth):
     """A ladder or a table by which the keeper holds, or a table by which the spoiler wins."""
     check_game_to(one, other, k, depth)
     fields = fields_of((one, other), k)
-    rounds = rounds_until_apart(fields, depth)
-    if least_round(rounds) is not None:
+    rounds, least = rounds_to_part(fields, depth)
+    if least is not None:
         return ("spoiler", spoiler_table_told((one, other), fields, rounds))
     if depth is None:
         return ("keeper", dicts_of(fields, rounds[-1]))
@@ -114,7 +119,7 @@ def is_game_answer(one, other, k, depth, value):
     """Whether the value is a right answer of `game_answer`."""
     check_game_to(one, other, k, depth)
     if is_told(value, "spoiler"):
-        if not is_spoiler_table_of(one, other, k, value[1]):
+        if not Board(one, other, k).is_spoiler_table(value[1]):
             return False
         return depth is None or value[1][START][0] <= depth
     if not is_told(value, "keeper"):
@@ -127,39 +132,40 @@ def is_game_answer(one, other, k, depth, value):
 def is_spoiler_table(one, other, k, value):
     """Whether the value is a spoiler's table."""
     check_game_to(one, other, k, None)
-    return is_spoiler_table_of(one, other, k, value)
+    return Board(one, other, k).is_spoiler_table(value)
 
 
 def least_moves(one, other, k):
     """The least number of moves with which the spoiler wins, None if it never does."""
     check_game_to(one, other, k, None)
-    return least_round(rounds_until_apart(fields_of((one, other), k), None))
+    return least_between(one, other, k, None)
 
 
-def check_taken(one, other, k, table, position, pairing):
-    """Refuses what a spoiler cannot take by."""
+def takes_checked(one, other, k, table, position, pairing):
+    """All that a spoiler can take; refuses what it cannot take by."""
     check_level(one, other, k)
-    if not is_spoiler_table_of(one, other, k, table):
+    board = Board(one, other, k)
+    if not board.is_spoiler_table(table):
         raise InvalidTable("a spoiler's table of both webs is asked for")
     check_position(one, other, k, position)
     check_pairing(one, other, pairing)
     check_rows((one, other), k)
     if position not in table:
         raise Refused(("lacks",))
+    return board.takes_from(table, position, pairing)
 
 
 def spoiler_take(one, other, k, table, position, pairing):
     """A point and a place with which the keeper loses, or comes to fewer moves of the table."""
-    check_taken(one, other, k, table, position, pairing)
-    return takes_from(one, other, k, table, position, pairing)[0]
+    return takes_checked(one, other, k, table, position, pairing)[0]
 
 
 def is_spoiler_take(one, other, k, table, position, pairing, value):
     """Whether the value is a right answer of `spoiler_take`."""
-    check_taken(one, other, k, table, position, pairing)
+    takes = takes_checked(one, other, k, table, position, pairing)
     if not is_pair(value) or not is_integer(value[0]) or not is_integer(value[1]):
         return False
-    return value in takes_from(one, other, k, table, position, pairing)
+    return value in takes
 
 
 class Play:
@@ -177,6 +183,7 @@ class Play:
         self.moves = 0
         self.pairing = None
         self.has_ended = False
+        self._board = Board(one, other, k)
         self._steps = []
 
     def keep_step(self):
@@ -204,7 +211,7 @@ class Play:
             raise Refused(("wanted",))
         self.keep_step()
         partner = self.pairing[point]
-        if are_like_behind(self.one, self.other, self.position, point, partner):
+        if self._board.are_like_behind(self.position, point, partner):
             led = positions_from(self.k, behind_position(self.position, point, partner))
             self.position = led[place] if len(led) > 1 else led[0]
         else:

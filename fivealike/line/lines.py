@@ -1,12 +1,11 @@
 """Line recipes, rows of bags, and points of any sign."""
 from fivealike.colour.fields import fields_of
-from fivealike.colour.ladders import least_round
-from fivealike.colour.names import rounds_of
+from fivealike.colour.names import do_agree, numbers_up_to
 from fivealike.errors import InvalidBags, TooMany
 from fivealike.line.rows import are_row_bags_of, bags_by, best_order, line_along
 from fivealike.line.spans import found_span, signed_point
 from fivealike.pattern.closure import numbers_unlike
-from fivealike.pattern.spaces import Space
+from fivealike.pattern.spaces import stable_space
 from fivealike.plain import is_told
 from fivealike.program.checked import is_signed_point_of, point_by_types
 from fivealike.program.point import check_lesser
@@ -78,18 +77,17 @@ def span_number(one, other, k):
     """How many tables a span has that are not spanned by others."""
     check_spanned(one, other, k)
     fields = fields_of((one, other), k)
-    space = Space(fields, rounds_of(fields, None, False)[-1])
-    return len(found_span(space, False)[1])
+    return len(found_span(stable_space(fields, numbers_up_to(fields, None)), False)[1])
 
 
 def line_answer(one, other, k):
     """A point of any sign, or a line recipe with unlike numbers."""
     check_spanned(one, other, k)
     fields = fields_of((one, other), k)
-    rounds = rounds_of(fields, None, False)
-    if least_round(rounds) is None:
+    rounds = numbers_up_to(fields, None)
+    if all([do_agree(names) for names in rounds]):
         return ("point", point_by_types(one, other, k, fields, rounds[-1]))
-    span, rows = found_span(Space(fields, rounds[-1]), True)
+    span, rows = found_span(stable_space(fields, rounds), True)
     if rows is None:
         return ("line", span.recipe_of(len(span.tables) - 1))
     return ("point", signed_point(one, other, span, rows))

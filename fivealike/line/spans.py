@@ -2,9 +2,9 @@
 from fivealike.errors import TooMany
 from fivealike.line.rows import Line
 from fivealike.linear import PRIMES, Echelon, in_least_terms, reduced, undone
-from fivealike.pattern.spaces import atom_lines
+from fivealike.pattern.spaces import atoms_where
 from fivealike.program.checked import least_common, number_of_row
-from fivealike.program.partials import Couple, partners_in, points_in
+from fivealike.program.partials import pairs_for, partners_in, points_in
 
 MOST_SPAN = 64
 
@@ -17,15 +17,13 @@ class Span:
         self.places = space.k + 1
         self.counts = space.counts(self.places)
         colours = sorted(set([colour for field in space.fields for colour in field.web.colours if colour >= 0]))
-        self.atoms = {line: space.atoms_where(line, self.places) for line in atom_lines(colours, self.places)}
+        self.atoms = atoms_where(space, colours, self.places)
         self.exchanged = [space.exchanged(place) for place in range(self.places)]
+        # All steps from one table to another: lines that are glued, and places that are summed.
+        self.steps = list(self.atoms) + [("sum", place) for place in range(self.places)]
         # Each table with the index of the one of which it comes, and the step by which it does.
         self.tables = []
         self.froms = []
-
-    def steps(self):
-        """The list of all steps from one table to another: lines that are glued, and places that are summed."""
-        return list(self.atoms) + [("sum", place) for place in range(self.places)]
 
     def behind(self, table, step):
         """The table to which a step leads from this one."""
@@ -46,12 +44,14 @@ class Span:
         echelon = Echelon(prime)
         self.tables = []
         self.froms = []
+        tried = {}
         waiting = [([1] * self.space.many(self.places), None)]
         at = 0
-        while at < len(waiting):
+        while at < len(waiting) and not self.has_all():
             table, came = waiting[at]
             at += 1
-            if echelon.take(table):
+            key = tuple(table)
+            if key not in tried and echelon.take(table):
                 if len(self.tables) == MOST_SPAN:
                     raise TooMany(MOST_SPAN)
                 self.tables.append(table)
@@ -59,17 +59,27 @@ class Span:
                 if to_part and self.is_unlike(table):
                     return True
                 here = len(self.tables) - 1
-                waiting.extend([(self.behind(table, step), (here, step)) for step in self.steps()])
+                waiting.extend([(self.behind(table, step), (here, step)) for step in self.steps])
+            tried[key] = True
         return False
+
+    def has_all(self):
+        """Whether there are as many tables as types: no more can be independent."""
+        return len(self.tables) == self.space.many(self.places)
 
     def basis(self):
         """Rows that span just what the tables span, and where they begin."""
-        return reduced(self.tables, self.space.many(self.places))
+        many = self.space.many(self.places)
+        if self.has_all():
+            return ([[1 if here == at else 0 for here in range(many)] for at in range(many)], list(range(many)))
+        return reduced(self.tables, many)
 
     def is_closed(self, rows, begun):
         """Whether all steps lead from the rows to sums of multiples of them."""
+        if self.has_all():
+            return True
         whole = least_common([row[at] for row, at in zip(rows, begun)])
-        for step in self.steps():
+        for step in self.steps:
             for row in rows:
                 image = self.behind(row, step)
                 left = [number * whole for number in image]
@@ -143,9 +153,9 @@ def signed_point(one, other, span, rows):
     """A point of any sign, told rows that span just the tables of a span without unlike numbers."""
     signs = Signs(span, rows)
     length = span.places
-    types = span.space.types[length]
+    types = span.space.types(length)
     told = {(): signs.whole}
-    for partial in Couple(one, other).partials_up_to(length)[1:]:
+    for partial in pairs_for(one, other).partials_up_to(length)[1:]:
         # What rows with one place more tell in all is told by a row that has its last point twice.
         here = types[0][number_of_row(len(one), filled(points_in(partial), length))]
         there = types[1][number_of_row(len(other), filled(partners_in(partial), length))]

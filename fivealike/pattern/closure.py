@@ -1,8 +1,7 @@
 """What recipes tell apart: independent tables, as many as types, and recipes with unlike numbers."""
 from fivealike.colour.alike import check_pair_to
 from fivealike.colour.fields import fields_of, rows_of
-from fivealike.colour.names import names_there, rounds_of, rounds_until_apart
-from fivealike.colour.ladders import least_round
+from fivealike.colour.names import names_there, rounds_to_part, numbers_up_to
 from fivealike.errors import InvalidNumber, InvalidRecipe, TooMany
 from fivealike.linear import are_independent, undone
 from fivealike.pattern.growing import basis_of, recipe_at
@@ -32,9 +31,9 @@ def check_closure(one, other, k):
             raise TooMany(MOST_SPOTS)
 
 
-def check_kept(fields, names, k):
+def check_kept(fields, names):
     """Refuses too many types of rows of k + 1 points."""
-    if type_number(fields, names, k + 1) > MOST_KEPT:
+    if type_number(fields, names, fields[0].k + 1) > MOST_KEPT:
         raise TooMany(MOST_KEPT)
 
 
@@ -49,7 +48,7 @@ def types_at(one, other, k, m, depth):
 def types_of(webs, k, m, depth):
     """For each web the list of the numbers of the types of its rows of m points."""
     fields = fields_of(webs, k)
-    return numbers_of_types(fields, names_there(rounds_of(fields, depth, False), depth), m)
+    return numbers_of_types(fields, names_there(numbers_up_to(fields, depth), depth), m)
 
 
 def kept_recipes(one, other, k, m, depth):
@@ -57,9 +56,9 @@ def kept_recipes(one, other, k, m, depth):
     check_asked(one, other, k, m, depth)
     check_closure(one, other, k)
     fields = fields_of((one, other), k)
-    rounds = rounds_of(fields, depth, False)
-    check_kept(fields, rounds[-1], k)
-    grower, basis = basis_of(Space(fields, rounds[-1]), rounds, m, len(rounds) - 1)
+    rounds = numbers_up_to(fields, depth)
+    check_kept(fields, rounds[-1])
+    grower, basis = basis_of(Space(fields, rounds, m, len(rounds) - 1), m)
     return tuple([recipe_at(grower, table.line) for table in basis])
 
 
@@ -126,11 +125,8 @@ def unlike_recipe(one, other, k, depth):
     """A recipe of at most this depth with unlike numbers for both webs, None if they are alike to it."""
     check_pair_to_closure(one, other, k, depth)
     fields = fields_of((one, other), k)
-    rounds = rounds_until_apart(fields, depth)
-    if least_round(rounds) is None:
-        return None
-    check_kept(fields, rounds[-2], k)
-    return unlike_told(fields, rounds)
+    rounds, least = rounds_to_part(fields, depth)
+    return None if least is None else unlike_told(fields, rounds)
 
 
 def check_pair_to_closure(one, other, k, depth):
@@ -141,9 +137,10 @@ def check_pair_to_closure(one, other, k, depth):
 
 
 def unlike_told(fields, rounds):
-    """A recipe with unlike numbers, told the rounds up to that at which the webs are apart."""
-    space = Space(fields, rounds[-2])
-    grower, basis = basis_of(space, rounds, 1, len(rounds) - 2)
+    """A recipe with unlike numbers, told the rounds ahead of that from which on the webs are apart."""
+    check_kept(fields, rounds[-1])
+    space = Space(fields, rounds, 1, len(rounds) - 1)
+    grower, basis = basis_of(space, 1)
     counts = space.counts(1)
     unlike = [count - other for count, other in zip(counts[0], counts[1])]
     parting = [table for table in basis if parts_by(table.numbers, unlike, grower.prime)]

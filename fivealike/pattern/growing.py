@@ -2,7 +2,7 @@
 from heapq import heappop, heappush
 
 from fivealike.linear import PRIMES, Echelon
-from fivealike.pattern.spaces import atom_lines, type_number
+from fivealike.pattern.spaces import atoms_where, type_number
 from fivealike.width.hanging import Writer
 from fivealike.width.lines import lines_alone
 
@@ -21,17 +21,12 @@ class Table:
 class Grower:
     """The search for independent tables of the rows of two webs at some rounds."""
 
-    def __init__(self, space, rounds, prime):
+    def __init__(self, space, prime):
         self.space = space
-        self.rounds = rounds
         self.prime = prime
         self.writer = Writer()
         found = [colour for field in space.fields for colour in field.web.colours if colour >= 0]
         self.colours = sorted(set(found))
-
-    def type_number(self, length, depth):
-        """How many types of rows of this length there are at the round."""
-        return type_number(self.space.fields, self.rounds[depth], length)
 
     def one(self, length):
         """The table with 1 everywhere."""
@@ -40,9 +35,9 @@ class Grower:
     def atoms(self, length):
         """The tables of the lines of depth 0 that tell of one place or of two."""
         found = []
-        for line in atom_lines(self.colours, length):
+        for line, values in atoms_where(self.space, self.colours, length).items():
             places = line[1:2] if line[0] == "colour" else line[1:]
-            found.append(Table(self.space.atoms_where(line, length), self.writer.index_of(line), places, 0))
+            found.append(Table(values, self.writer.index_of(line), places, 0))
         return found
 
     def line_with(self, table, place):
@@ -58,9 +53,12 @@ class Grower:
         line = self.writer.index_of(("sum", place, self.line_with(table, place)))
         return Table(values, line, tuple([here for here in table.places if here != place]), table.inner + 1)
 
-    def glued(self, one, other):
-        """The product of two tables."""
-        values = [number * factor % self.prime for number, factor in zip(one.numbers, other.numbers)]
+    def product(self, one, other):
+        """The values of the product of two tables."""
+        return [number * factor % self.prime for number, factor in zip(one.numbers, other.numbers)]
+
+    def glued(self, one, other, values):
+        """The product of two tables, told its values."""
         if one.places == () and one.inner == 0:
             return Table(values, other.line, other.places, other.inner)
         line = self.writer.index_of(("glue", one.line, other.line))
@@ -75,23 +73,27 @@ class Grower:
         if depth > 0:
             behind = self.space.behind(length)
             basis.add_factors([self.summed(table, length, behind) for table in self.basis(length + 1, depth - 1)])
-        basis.grow(self.type_number(length, depth), self)
+        basis.grow(self.space.many(length), self)
         return basis.tables
+
+    def long_number(self, depth):
+        """How many types of rows of k + 1 points there are at the depth."""
+        return type_number(self.space.fields, self.space.rounds[depth], self.space.k + 1)
 
     def long_basis(self, depth):
         """The same for the rows of k + 1 points."""
         length = self.space.k + 1
-        exchanged = [self.space.exchanged(place) for place in range(length)]
+        exchanged = [self.space.exchanged(place) for place in range(length)] if depth > 0 else []
         basis = Basis(self.prime, self.one(length))
         basis.add_factors(self.atoms(length))
-        basis.grow(self.type_number(length, 0), self)
+        basis.grow(self.long_number(0) if depth > 0 else self.space.many(length), self)
         done = 0
         for at in range(1, depth + 1):
             fresh = basis.tables[done:]
             done = len(basis.tables)
             basis.add_factors([self.summed(table, place, exchanged[place])
                                for table in fresh for place in range(length)])
-            basis.grow(self.type_number(length, at), self)
+            basis.grow(self.long_number(at), self)
         return basis.tables
 
 
@@ -104,6 +106,7 @@ class Basis:
         self.tables = [one] if self.echelon.take(one.numbers) else []
         self.factors = []
         self.known = {}
+        self.tried = {}
         # Products that are to be looked at, those with few inner points first.
         self.queue = []
 
@@ -121,24 +124,32 @@ class Basis:
         """Puts the product of a table and a factor into the queue."""
         heappush(self.queue, (self.tables[at].inner + self.factors[by].inner, at, by))
 
+    def is_fresh(self, values):
+        """Whether these values were not asked for before."""
+        key = tuple(values)
+        if key in self.tried:
+            return False
+        self.tried[key] = True
+        return True
+
     def grow(self, wanted, grower):
         """Finds as many tables as wanted: those of all products are sums of multiples of so many."""
         while len(self.tables) < wanted and self.queue != []:
             _, at, by = heappop(self.queue)
-            table = grower.glued(self.tables[at], self.factors[by])
-            if self.echelon.take(table.numbers):
-                self.tables.append(table)
+            values = grower.product(self.tables[at], self.factors[by])
+            if self.is_fresh(values) and self.echelon.take(values):
+                self.tables.append(grower.glued(self.tables[at], self.factors[by], values))
                 for factor in range(len(self.factors)):
                     self.push(len(self.tables) - 1, factor)
         self.queue = []
 
 
-def basis_of(space, rounds, length, depth):
-    """The grower, and the list of independent tables that it found, as many as there are types."""
+def basis_of(space, length):
+    """The grower, and the list of independent tables on rows of this length, as many as there are types."""
     for prime in PRIMES:
-        grower = Grower(space, rounds, prime)
-        basis = grower.basis(length, depth)
-        if len(basis) == grower.type_number(length, depth):
+        grower = Grower(space, prime)
+        basis = grower.basis(length, space.depth_at(length))
+        if len(basis) == space.many(length):
             break
     # Some of the primes does: what parts two types tells unlike numbers modulo nearly all primes.
     return (grower, basis)

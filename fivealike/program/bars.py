@@ -1,6 +1,6 @@
 """Multipliers that bar the mixed program, or show that some unknown is 0 at each of its points."""
 from fivealike.colour.fields import fields_of, index_of
-from fivealike.colour.names import rounds_of
+from fivealike.colour.names import numbers_up_to
 from fivealike.errors import InvalidOperation
 from fivealike.plain import is_integer, is_told
 from fivealike.program.barring import multipliers_for
@@ -72,7 +72,7 @@ def are_bars(one, other, k, value):
 def answer_for(one, other, k, partial, word):
     """A point at which the partial is above 0, or, with this word, multipliers that refuse it."""
     fields = fields_of((one, other), k)
-    rounds = rounds_of(fields, None, False)
+    rounds = numbers_up_to(fields, None)
     here = rounds[-1][0][index_of(len(one), points_in(partial))]
     there = rounds[-1][1][index_of(len(other), partners_in(partial))]
     if here == there:

@@ -1,8 +1,9 @@
 """Points of the mixed program: what is one, and what comes of rows with equal types."""
+from fivealike.colour.fields import rows_of
 from fivealike.linear import divisor_of
 from fivealike.pattern.spaces import numbers_of_types
-from fivealike.plain import is_integer, is_pair
-from fivealike.program.partials import Couple, partners_in, points_in, without_pair
+from fivealike.plain import is_ascending, is_integer, is_pair
+from fivealike.program.partials import pairs_for
 
 
 def is_form_of_point(one, other, k, value):
@@ -12,38 +13,39 @@ def is_form_of_point(one, other, k, value):
     whole, told = value
     if not all([is_integer(number) and number != 0 for number in list(told.values())]):
         return False
-    couple = Couple(one, other)
-    if not all([couple.is_partial(partial) and len(partial) <= k + 1 for partial in told]):
+    if not pairs_for(one, other).are_partials(list(told), k + 1):
         return False
     return told.get((), 0) == whole
 
 
-def added_up(told):
-    """The pair of the dicts from pairs of a partial and a point to what the partials with a pair for it tell in all."""
-    first = {}
-    second = {}
+def added_up(one, other, k, told):
+    """A dict from partials to the list of what those with a pair more tell in all, for each point of both webs.
+
+    It has all partials of at most k pairs that are told, and those for which there is something.
+    """
+    many = len(one)
+    noughts = [0] * (many + len(other))
+    found = {partial: noughts[:] for partial in told if len(partial) <= k}
     for partial, number in told.items():
         for at, (here, there) in enumerate(partial):
-            left = without_pair(partial, at)
-            first[left, here] = first.get((left, here), 0) + number
-            second[left, there] = second.get((left, there), 0) + number
-    return (first, second)
+            left = partial[:at] + partial[at + 1:]
+            sums = found.get(left)
+            if sums is None:
+                sums = found[left] = noughts[:]
+            sums[here] += number
+            sums[many + there] += number
+    return found
 
 
 def do_sums_hold(one, other, k, told):
     """Whether all sums of the level k hold, 0 being told of all partials that are not in the dict."""
-    first, second = added_up(told)
-    for sums in (first, second):
-        if any([number != told.get(partial, 0) for (partial, _), number in sums.items()]):
+    for partial, sums in added_up(one, other, k, told).items():
+        if partial not in told:
+            if any(sums):
+                return False
+        # No partial has two pairs for one of its own points: these have 0 in their place.
+        elif sums.count(told[partial]) != len(sums) - 2 * len(partial):
             return False
-    # Now it is left to see that a sum without members that are told is 0.
-    for partial in told:
-        if len(partial) <= k:
-            own, others = points_in(partial), partners_in(partial)
-            if not all([(partial, point) in first for point in range(len(one)) if point not in own]):
-                return False
-            if not all([(partial, point) in second for point in range(len(other)) if point not in others]):
-                return False
     return True
 
 
@@ -75,23 +77,26 @@ def least_common(numbers):
     return found
 
 
-def shares_of(types):
-    """A dict from the types of rows of the second web to how many rows there have it."""
-    often = {}
-    for told in types[1]:
-        often[told] = often.get(told, 0) + 1
-    return often
+def rows_by_type(many, length, types):
+    """A dict from types to the lists of the rows of this length that have them, told the types of all."""
+    found = {}
+    for row, told in zip(rows_of(many, length), types):
+        found.setdefault(told, []).append(row)
+    return found
 
 
 def point_by_types(one, other, k, fields, names):
     """The point of webs that are alike for ever by these stable names."""
-    types = [numbers_of_types(fields, names, length) for length in range(k + 2)]
-    often = [shares_of(own) for own in types]
     shares = {}
-    for partial in Couple(one, other).partials_up_to(k + 1):
-        length = len(partial)
-        told = types[length][0][number_of_row(len(one), points_in(partial))]
-        if told == types[length][1][number_of_row(len(other), partners_in(partial))]:
-            shares[partial] = often[length][told]
-    whole = least_common(list(shares.values()))
+    for length in range(k + 2):
+        types, goal_types = numbers_of_types(fields, names, length)
+        goals = rows_by_type(len(other), length, goal_types)
+        for row, told in zip(rows_of(len(one), length), types):
+            # Rows of one type have one atom: with unlike points in the one all pairs are unlike.
+            if is_ascending(row):
+                lot = goals[told]
+                share = len(lot)
+                for goal in lot:
+                    shares[tuple(zip(row, goal))] = share
+    whole = least_common(sorted(set(list(shares.values()))))
     return (whole, {partial: whole // shares[partial] for partial in sorted(shares)})

@@ -1,13 +1,12 @@
 """The mixed program of two webs: its partials, its sums and its points."""
 from fivealike.colour.fields import fields_of
-from fivealike.colour.ladders import least_round
-from fivealike.colour.names import rounds_until_apart
+from fivealike.colour.names import rounds_to_part
 from fivealike.errors import InvalidMap, InvalidNumber, InvalidOperation, Refused, TooMany
 from fivealike.linear import divisor_of
 from fivealike.plain import are_between, is_between, power_up_to
 from fivealike.program.checked import is_point_of, point_by_types
 from fivealike.program.matching import matched
-from fivealike.program.partials import Couple, with_pair
+from fivealike.program.partials import Couple, pairs_for, with_pair
 from fivealike.web.checks import check_couple, check_level
 from fivealike.web.maps import are_unlike, is_same
 
@@ -34,7 +33,7 @@ def partials(one, other, many):
     if not is_between(many, 0, MOST_MANY):
         raise InvalidNumber(many)
     check_lesser(one, other, many)
-    return tuple(Couple(one, other).partials_up_to(many))
+    return tuple(pairs_for(one, other).partials_up_to(many))
 
 
 def is_sum(one, other, k, value):
@@ -57,8 +56,7 @@ def point_of(one, other, k):
     check_level(one, other, k)
     check_lesser(one, other, k + 1)
     fields = fields_of((one, other), k)
-    rounds = rounds_until_apart(fields, None)
-    least = least_round(rounds)
+    rounds, least = rounds_to_part(fields, None)
     if least is not None:
         raise Refused(("apart", least))
     return point_by_types(one, other, k, fields, rounds[-1])

@@ -2,7 +2,7 @@
 
 A spot is a row of points in one of some webs: the pair of the web's index and the row.
 """
-from fivealike.colour.fields import index_of, row_number, without_place
+from fivealike.colour.fields import index_of, without_place
 
 
 def cut_at(spot, place):
@@ -17,20 +17,19 @@ class Kinds:
         self.fields = fields
         self.rounds = rounds
         self.k = fields[0].k
-        self.begun = [row_number(field.many, self.k) for field in fields]
 
     def name_at(self, depth, spot):
         """The name of a row of at most k points at the round."""
         return self.rounds[depth][spot[0]][index_of(self.fields[spot[0]].many, spot[1])]
 
     def kind_at(self, depth, spot):
-        """The name of the row at the round; for k + 1 points the pattern and the names of the cuts."""
+        """The name of the row at the round; for k + 1 points what tells its atom, and the names of the cuts."""
         which, row = spot
         if len(row) <= self.k:
             return self.name_at(depth, spot)
-        field = self.fields[which]
-        pattern = field.patterns[self.k + 1][index_of(field.many, row) - self.begun[which]]
-        return (pattern, *[self.name_at(depth, cut_at(spot, place)) for place in range(len(row))])
+        # Just of rows of two points the cuts do not tell the atom.
+        bits = self.fields[which].digits[row[0]][row[1]] if self.k == 1 else 0
+        return (bits, *[self.name_at(depth, cut_at(spot, place)) for place in range(len(row))])
 
     def first_unlike(self, spot, other, depth):
         """The first round up to the depth at which rows of at most k points, not alike there, have unlike names."""

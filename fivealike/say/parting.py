@@ -1,8 +1,9 @@
 """Sentences that part webs, and lines that tell the names of rows."""
-from fivealike.colour.alike import check_pair, check_pair_to, first_apart
+from fivealike.colour.alike import check_pair, check_pair_to
+from fivealike.colour.apart import least_between
 from fivealike.colour.fields import fields_of, index_of, rows_of
-from fivealike.colour.ladders import is_ladder_of, ladder_told, least_round
-from fivealike.colour.names import names_there, rounds_of, rounds_until_apart
+from fivealike.colour.ladders import is_ladder_of, ladder_told
+from fivealike.colour.names import names_there, rounds_to_part, numbers_up_to
 from fivealike.errors import InvalidOperation, InvalidRow, InvalidSentence
 from fivealike.plain import is_told
 from fivealike.say.kinds import Kinds
@@ -16,17 +17,17 @@ MOST_SENTENCES = 20
 
 
 def sentence_of(webs, fields, rounds):
-    """A sentence that is true of the first web alone, of the depth of the last one of these rounds."""
+    """A sentence that is true of the first web alone, told the rounds at which both are alike."""
     writer = Writer(webs, Kinds(fields, rounds))
-    return writer.told_alone(writer.lines_apart(len(rounds) - 1, (), (0, ()), [(1, ())]))
+    return writer.told_alone(writer.lines_apart(len(rounds), (), (0, ()), [(1, ())]))
 
 
 def parting_answer(one, other, k, depth):
     """A ladder to the depth, or a sentence of at most this depth that is true of just one of the webs."""
     check_pair_to(one, other, k, depth)
     fields = fields_of((one, other), k)
-    rounds = rounds_until_apart(fields, depth)
-    if least_round(rounds) is None:
+    rounds, least = rounds_to_part(fields, depth)
+    if least is None:
         return ("alike", ladder_told(fields, rounds, depth))
     return ("apart", sentence_of((one, other), fields, rounds))
 
@@ -49,17 +50,16 @@ def is_parting_answer(one, other, k, depth, value):
 def parting_sentence(one, other, k):
     """A sentence of the least depth that is true of the one web and not of the other; None if there is none."""
     check_pair(one, other, k)
-    fields = fields_of((one, other), k)
-    rounds = rounds_until_apart(fields, None)
-    if least_round(rounds) is None:
+    if least_between(one, other, k, None) is None:
         return None
-    return sentence_of((one, other), fields, rounds)
+    fields = fields_of((one, other), k)
+    return sentence_of((one, other), fields, rounds_to_part(fields, None)[0])
 
 
 def is_parting_sentence(one, other, k, value):
     """Whether the value is a right answer of `parting_sentence`."""
     check_pair(one, other, k)
-    least = first_apart(one, other, k, None)
+    least = least_between(one, other, k, None)
     if least is None or value is None:
         return least is None and value is None
     if not is_sentence_of(k, value) or depth_of(value) > least:
@@ -79,20 +79,26 @@ def check_named(webs, k, depth, row):
     check_rows(webs, k)
 
 
+def unlike_webs(webs):
+    """The list of the webs without those that are equal to one ahead: what is true in both is the same."""
+    return [web for at, web in enumerate(webs) if web not in webs[:at]]
+
+
 def name_line(webs, k, depth, row):
     """A saying whose last line is true just with the rows that have the name of this one at the round."""
     check_named(webs, k, depth, row)
-    fields = fields_of(webs, k)
-    kinds = Kinds(fields, rounds_of(fields, depth, False))
+    unlike = unlike_webs(webs)
+    fields = fields_of(unlike, k)
+    kinds = Kinds(fields, numbers_up_to(fields, depth))
     last = len(kinds.rounds) - 1
     own = kinds.name_at(last, (0, row))
     others = {}
-    for which in range(len(webs)):
-        for goal in rows_of(len(webs[which]), len(row)):
+    for which, web in enumerate(unlike):
+        for goal in rows_of(len(web), len(row)):
             name = kinds.name_at(last, (which, goal))
             if name != own:
                 others.setdefault(name, (which, goal))
-    writer = Writer(webs, kinds)
+    writer = Writer(unlike, kinds)
     names = tuple(range(len(row)))
     return writer.told_alone(writer.lines_apart(last, names, (0, row), list(others.values())))
 
@@ -117,15 +123,16 @@ def is_name_line(webs, k, depth, row, value):
     names = free[len(free) - 1]
     if not all([name < len(row) for name in names]):
         return False
-    all_names = names_there(rounds_of(fields_of(webs, k), depth, False), depth)
+    unlike = unlike_webs(webs)
+    all_names = names_there(numbers_up_to(fields_of(unlike, k), depth), depth)
     name = all_names[0][index_of(len(webs[0]), row)]
-    return all([is_true_just_there(web, k, value, names, len(row), own, name) for web, own in zip(webs, all_names)])
+    return all([is_true_just_there(web, k, value, names, len(row), own, name) for web, own in zip(unlike, all_names)])
 
 
 def least_depth(one, other, k):
     """The least depth of a sentence that parts the webs, None without any."""
     check_pair(one, other, k)
-    return first_apart(one, other, k, None)
+    return least_between(one, other, k, None)
 
 
 def agree(one, other, k, sentences):

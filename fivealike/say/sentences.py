@@ -9,13 +9,10 @@ MOST_LINES = 2000
 MOST_LEAST = 99
 MOST_WITHIN = 40
 LENGTHS = {"tie": 3, "same": 3, "colour": 3, "not": 2, "all": 2, "some": 2, "least": 4}
-
-
-def has_form(value):
-    """Whether the value is a tuple of a word of lines and of as many members as follow it."""
-    if not isinstance(value, tuple) or value == () or not isinstance(value[0], str):
-        return False
-    return value[0] in LENGTHS and len(value) == LENGTHS[value[0]]
+MADE_OF_NONE = (("all", ()), ("some", ()))
+# For the bits of some of the names 0 to 3 the ascending tuple of these.
+NAMES_OF = ((), (0,), (1,), (0, 1), (2,), (0, 2), (1, 2), (0, 1, 2), (3,), (0, 3), (1, 3), (0, 1, 3), (2, 3), (0, 2, 3),
+            (1, 2, 3), (0, 1, 2, 3))
 
 
 def lines_within(line):
@@ -27,54 +24,86 @@ def lines_within(line):
     return line[1] if line[0] in ("all", "some") else ()
 
 
-def is_right_line(k, line, many):
-    """Whether this, which has the form of a line, is a line for k behind so many lines."""
-    if line[0] in ("tie", "same"):
-        return are_between(line[1:], 0, k) and line[1] < line[2]
-    if line[0] == "colour":
-        return is_between(line[1], 0, k) and is_between(line[2], LEAST_COLOUR, GREATEST_COLOUR)
-    if line[0] == "least" and not (is_between(line[1], 1, MOST_LEAST) and is_between(line[2], 0, k)):
-        return False
-    within = lines_within(line)
-    return are_between(within, 0, many - 1) and len(within) <= MOST_WITHIN
+def bits_of_two(low, high, k):
+    """The bits of two names, the lesser one first, None if they are no such names."""
+    if type(low) == int and type(high) == int and 0 <= low < high <= k:
+        return 1 << low | 1 << high
+    return None
 
 
-def free_in(line, ahead):
-    """The ascending tuple of the free names of a line, told those of the lines ahead."""
-    if line[0] in ("tie", "same"):
-        return line[1:]
-    if line[0] == "colour":
-        return (line[1],)
-    found = {}
-    for at in lines_within(line):
-        for name in ahead[at]:
-            if line[0] != "least" or name != line[2]:
-                found[name] = True
-    return tuple(sorted(found))
+def bits_of_coloured(k, line):
+    """The bits of the name of a line that tells a colour, None if this or the name cannot stand there."""
+    if not is_between(line[1], 0, k) or not is_between(line[2], LEAST_COLOUR, GREATEST_COLOUR):
+        return None
+    return 1 << line[1]
 
 
-def free_of(k, value):
-    """The list of the free names of all lines of a saying for k, None for any other value."""
+def bits_of_many(within, ahead):
+    """The bits of the free names of some lines together, None if these are no tuple of lines ahead."""
+    if not isinstance(within, tuple) or len(within) > MOST_WITHIN:
+        return None
+    many = len(ahead)
+    found = 0
+    for at in within:
+        if type(at) != int or not 0 <= at < many:
+            return None
+        found = found | ahead[at]
+    return found
+
+
+def bits_of_least(k, line, ahead):
+    """The bits of the free names of a line that counts points, None if it cannot stand there."""
+    if not is_between(line[1], 1, MOST_LEAST) or not is_between(line[2], 0, k):
+        return None
+    found = bits_of_many(line[3:], ahead)
+    return None if found is None else found & ~(1 << line[2])
+
+
+def bits_of_line(k, line, ahead):
+    """The bits of the free names of a line, told those of the lines ahead; None if it is no line for k there."""
+    if not isinstance(line, tuple) or len(line) == 0 or not isinstance(line[0], str):
+        return None
+    word = line[0]
+    if LENGTHS.get(word) != len(line):
+        return None
+    if word in ("tie", "same"):
+        return bits_of_two(line[1], line[2], k)
+    if word in ("all", "some"):
+        return bits_of_many(line[1], ahead)
+    if word == "not":
+        return bits_of_many(line[1:], ahead)
+    return bits_of_coloured(k, line) if word == "colour" else bits_of_least(k, line, ahead)
+
+
+def bits_of_lines(k, value):
+    """The list of the bits of the free names of all lines of a saying for k, None for any other value."""
     if not isinstance(value, tuple) or not 1 <= len(value) <= MOST_LINES:
         return None
     found = []
     for line in value:
-        if not has_form(line) or not is_right_line(k, line, len(found)):
+        bits = 0 if line in MADE_OF_NONE else bits_of_line(k, line, found)
+        if bits is None:
             return None
-        found.append(free_in(line, found))
+        found.append(bits)
     return found
+
+
+def free_of(k, value):
+    """The list of the free names of all lines of a saying for k, None for any other value."""
+    found = bits_of_lines(k, value)
+    return None if found is None else [NAMES_OF[bits] for bits in found]
 
 
 def is_sentence_of(k, value):
     """Whether the value is a sentence for this, which is a k."""
-    free = free_of(k, value)
-    return free is not None and free[len(free) - 1] == ()
+    found = bits_of_lines(k, value)
+    return found is not None and found[-1] == 0
 
 
 def is_saying(k, value):
     """Whether the value is a saying for k."""
     check_k(k)
-    return free_of(k, value) is not None
+    return bits_of_lines(k, value) is not None
 
 
 def is_sentence(k, value):
@@ -121,10 +150,12 @@ def depths(k, saying):
 def needed_of(lines):
     """The ascending list of the indices of the last line and of all that it hangs on."""
     needed = {len(lines) - 1: True}
-    for at in reversed(range(len(lines))):
-        if at in needed:
-            for within in lines_within(lines[at]):
-                needed[within] = True
+    waiting = [len(lines) - 1]
+    while waiting != []:
+        for at in lines_within(lines[waiting.pop()]):
+            if at not in needed:
+                needed[at] = True
+                waiting.append(at)
     return sorted(needed)
 
 

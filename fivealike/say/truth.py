@@ -30,6 +30,9 @@ class Grid:
         # For each name the bits of the rows in which its point is 0, and what exchanges 0 for all points.
         self.first = [self.first_of(name) for name in range(k + 1)]
         self.every = [repeated(1, step, self.many) for step in self.steps]
+        # For each name, and for each point, the bits of the rows in which it is that of this name.
+        self.points = [[first << point * step for point in range(self.many)]
+                       for first, step in zip(self.first, self.steps)]
         # For each tuple of names that was asked for the pairs of a row and of its place.
         self.spots = {}
 
@@ -41,27 +44,21 @@ class Grid:
             ahead = ahead * self.many
         return repeated((1 << step) - 1, step * self.many, ahead)
 
-    def where(self, name, points):
-        """The bits of the rows in which the point of this name is one of these."""
-        return self.first[name] * sum([1 << point * self.steps[name] for point in points])
-
     def where_tied(self, here, there):
         """The bits of the rows in which the points of these names are tied."""
+        own, other = self.points[here], self.points[there]
         found = 0
-        for point in range(self.many):
-            found = found | self.where(here, (point,)) & self.where(there, self.web.near(point))
+        for low, high in self.web.ties:
+            found = found | own[low] & other[high] | own[high] & other[low]
         return found
 
     def where_same(self, here, there):
         """The bits of the rows in which the points of these names are one."""
-        found = 0
-        for point in range(self.many):
-            found = found | self.where(here, (point,)) & self.where(there, (point,))
-        return found
+        return sum([own & other for own, other in zip(self.points[here], self.points[there])])
 
     def where_coloured(self, name, colour):
         """The bits of the rows in which the point of this name has this colour."""
-        return self.where(name, [point for point in range(self.many) if self.web.colours[point] == colour])
+        return sum([bits for bits, own in zip(self.points[name], self.web.colours) if own == colour])
 
     def shadow(self, name, bits):
         """The bits of the rows with the point 0 for this name that with some other one set the bits."""

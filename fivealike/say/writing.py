@@ -5,9 +5,9 @@ The names are the first ones, or, for k points, all but one.
 """
 from fivealike.errors import TooMany
 from fivealike.say.kinds import cut_at
-from fivealike.say.sentences import MOST_LINES, MOST_WITHIN, free_in, lines_within, needed_alone
+from fivealike.say.sentences import MOST_LINES, MOST_WITHIN, bits_of_line, lines_within, needed_alone
 from fivealike.say.truth import Grid
-from fivealike.web.bits import how_many, points_of
+from fivealike.web.bits import bits_of, how_many, points_of
 
 # Lines can be written that are not needed in the end: so more are let for a while.
 MOST_WRITTEN = 6000
@@ -22,6 +22,7 @@ class Writer:
         self.grids = [Grid(web, self.k) for web in webs]
         self.lines = []
         self.index = {}
+        # For each line the bits of its free names.
         self.free = []
         self.depths = []
         # For each web the list of the bits of all lines.
@@ -50,8 +51,9 @@ class Writer:
                 raise TooMany(MOST_LINES)
             self.index[line] = len(self.lines)
             self.lines.append(line)
-            self.free.append(free_in(line, self.free))
-            deepest = max([self.depths[at] for at in lines_within(line)], default=0)
+            self.free.append(bits_of_line(self.k, line, self.free))
+            within = lines_within(line)
+            deepest = max([self.depths[at] for at in within]) if within != () else 0
             self.depths.append(deepest + 1 if line[0] == "least" else deepest)
             for grid, truths in zip(self.grids, self.truths):
                 truths.append(grid.truth_of(line, truths))
@@ -70,24 +72,19 @@ class Writer:
 
     def told_lines(self, depth, names):
         """The list of the indices of the lines of at most this depth on these names that deny no other one."""
-        found = []
-        for at in range(len(self.lines)):
-            if self.depths[at] <= depth and self.lines[at][0] != "not":
-                if all([name in names for name in self.free[at]]):
-                    found.append(at)
-        return found
+        others = ~bits_of(names)
+        return [at for at, free in enumerate(self.free)
+                if free & others == 0 and self.depths[at] <= depth and self.lines[at][0] != "not"]
 
     def parted(self, at, spot, others):
         """The pair of whether a line is true at a spot, and of the bits of the others where it is unlike.
 
         The spots are pairs of the web's index and the place of the bit.
         """
-        truths = [own[at] for own in self.truths]
-        here = truths[spot[0]] >> spot[1] & 1
+        here = self.truths[spot[0]][at] >> spot[1] & 1
         unlike = 0
-        for bit in range(len(others)):
-            which, place = others[bit]
-            if truths[which] >> place & 1 != here:
+        for bit, (which, place) in enumerate(others):
+            if self.truths[which][at] >> place & 1 != here:
                 unlike = unlike | 1 << bit
         return (here == 1, unlike)
 
@@ -100,7 +97,7 @@ class Writer:
         chosen = []
         while left:
             worth = [(how_many(unlike & left), is_true or ("not", at) in self.index, -at)
-                     for at, (is_true, unlike) in told.items()]
+                     for at, (is_true, unlike) in told.items() if unlike & left]
             most, _, less = max(worth, default=(0, False, 0))
             if most == 0:
                 return (chosen, left)
@@ -166,7 +163,7 @@ class Writer:
         best = (0, 0, 0)
         longer = names + (new,)
         for at in self.told_lines(depth, longer):
-            if new in self.free[at]:
+            if self.free[at] >> new & 1:
                 own, *counts = self.counts_of(at, new, names, [spot] + others)
                 fewer = len([count for count in counts if count < own])
                 more = len([count for count in counts if count > own])

@@ -1,7 +1,8 @@
 """Parts of maps from a pattern into a web, and families of them."""
 from fivealike.plain import is_ascending, is_between, is_pair
-from fivealike.program.partials import points_in, without_pair
-from fivealike.web.maps import keeps_colour
+from fivealike.program.partials import Pairs, points_in
+from fivealike.web.bits import bits_of, near_bits
+from fivealike.web.maps import images_of, keeps_colour
 from fivealike.web.webs import is_lot
 
 
@@ -23,28 +24,48 @@ def is_part_of(one, other, value):
     return all([other.is_tied(here, there) for here, there in tied])
 
 
-def is_led_on_in(one, k, family):
-    """Whether each member of at most k pairs is led on to a pair for each point, by a dict of all members."""
-    led = {}
-    for part in family:
-        for at, (here, _) in enumerate(part):
-            left = without_pair(part, at)
-            if left not in family:
-                return False
-            led[left, here] = True
-    for part in family:
-        if len(part) <= k:
-            own = points_in(part)
-            if not all([(part, point) in led for point in range(len(one)) if point not in own]):
+def pairs_of_parts(one, other):
+    """The pairs that can be in parts of the one and the other."""
+    images = [bits_of(images_of(one, other, point)) for point in range(len(one))]
+    return Pairs(images, near_bits(one), near_bits(other), [-1] * len(other))
+
+
+def are_tuples_of_pairs(value):
+    """Whether the value is a tuple of tuples of pairs of integers."""
+    if not isinstance(value, tuple):
+        return False
+    for part in value:
+        if not isinstance(part, tuple):
+            return False
+        for pair in part:
+            if not isinstance(pair, tuple) or len(pair) != 2 or type(pair[0]) != int or type(pair[1]) != int:
                 return False
     return True
 
 
+def is_led_on_in(one, k, family):
+    """Whether each member without a pair is one, and each of at most k pairs is led on to a pair for each point.
+
+    The members are all parts of at most k + 1 pairs.
+    """
+    # For each member that is to be led on the bits of the points for which it is, its own among them.
+    led = {part: 0 for part in family if len(part) <= k}
+    for part in family:
+        own = 0
+        for at, (here, _) in enumerate(part):
+            left = part[:at] + part[at + 1:]
+            if left not in led:
+                return False
+            led[left] = led[left] | 1 << here
+            own = own | 1 << here
+        if len(part) <= k:
+            led[part] = led[part] | own
+    whole = (1 << len(one)) - 1
+    return all([bits == whole for bits in list(led.values())])
+
+
 def is_family_of(one, other, k, value):
     """Whether the value is a family for k."""
-    if not isinstance(value, tuple):
+    if not are_tuples_of_pairs(value) or not is_ascending(value) or () not in value:
         return False
-    if not all([is_part_of(one, other, part) and len(part) <= k + 1 for part in value]):
-        return False
-    family = {part: True for part in value}
-    return is_ascending(value) and () in family and is_led_on_in(one, k, family)
+    return pairs_of_parts(one, other).are_partials(value, k + 1) and is_led_on_in(one, k, value)

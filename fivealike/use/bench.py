@@ -1,5 +1,6 @@
 """A bench that holds webs by names, and is told lines."""
-from fivealike.colour.alike import check_pair, first_apart
+from fivealike.colour.alike import check_pair
+from fivealike.colour.apart import least_between
 from fivealike.errors import InvalidOperation, ParseError, TooMany, UnknownName
 from fivealike.plain import is_between
 from fivealike.same.finding import found_map
@@ -96,7 +97,7 @@ def changed_web(web, told):
 def alike_reply(one, other, k, depth):
     """Whether two webs are alike to the depth, or for ever."""
     check_pair(one, other, k)
-    least = first_apart(one, other, k, depth)
+    least = least_between(one, other, k, depth)
     return "alike" if least is None else f"apart at {least}"
 
 

@@ -1,7 +1,7 @@
 """Texts of webs, sentences and recipes, and what is read from them."""
 from fivealike.errors import ParseError
 from fivealike.plain import is_ascending
-from fivealike.say.sentences import check_sentence, free_in, has_form, is_right_line
+from fivealike.say.sentences import bits_of_line, check_sentence
 from fivealike.use.words import line_text, lot_in, number_in
 from fivealike.web.checks import check_k
 from fivealike.web.webs import MOST_POINTS, Web, are_colours, check_web
@@ -95,11 +95,12 @@ def read_sentence(k, text):
     free = []
     for at, told in enumerate(lines_in(text)):
         line = line_in(told)
-        if at >= MOST_LINES or line is None or not has_form(line) or not is_right_line(k, line, at):
+        bits = None if at >= MOST_LINES or line is None else bits_of_line(k, line, free)
+        if bits is None:
             raise ParseError(at)
         found.append(line)
-        free.append(free_in(line, free))
-    if found == [] or free[-1] != ():
+        free.append(bits)
+    if found == [] or free[-1] != 0:
         raise ParseError(len(found))
     return tuple(found)
 

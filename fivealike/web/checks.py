@@ -1,9 +1,11 @@
 """Checks of the arguments that are the same everywhere."""
 from fivealike.errors import InvalidNumber, InvalidWeb, TooMany
-from fivealike.plain import is_between, power_up_to
+from fivealike.plain import is_between
 from fivealike.web.webs import Web, check_web
 
 MOST_ROWS = 4096
+# For each k the most points of a web with at most 4,096 rows of k + 1 points.
+MOST_IN_ROWS = (4096, 64, 16, 8)
 MOST_WEBS = 4
 GREATEST_K = 3
 GREATEST_DEPTH = 99
@@ -45,5 +47,5 @@ def check_depth(depth):
 def check_rows(webs, k):
     """Refuses webs with too many rows of k + 1 points."""
     for web in webs:
-        if power_up_to(len(web), k + 1, MOST_ROWS) > MOST_ROWS:
+        if len(web) > MOST_IN_ROWS[k]:
             raise TooMany(MOST_ROWS)
