@@ -1,14 +1,18 @@
 """Codes of webs, each told of one web alone, and the classes and the parting tree of some webs."""
 from fivealike.colour.fields import fields_of, row_number, rows_up_to
 from fivealike.colour.names import first_names, names_there, parted, rounds_up_to
-from fivealike.colour.rounds import things_behind
+from fivealike.colour.patterns import FIRST_PAIRS, PAIR_BITS
 from fivealike.errors import InvalidOperation, InvalidWeb
 from fivealike.plain import are_between, counted, is_ascending, is_between, is_pair
+from fivealike.web.bits import points_of
 from fivealike.web.checks import check_depth, check_k, check_rows
 from fivealike.web.webs import atom_at, check_web
 
 MOST_FAMILY = 12
 GREATEST_PASSED = 999999999
+# The pairs of places in the sequence of their numbers, and the bits of all of them.
+PLACE_PAIRS = ((0, 1), (0, 2), (1, 2), (0, 3), (1, 3), (2, 3))
+EVERY_PAIR = 63
 
 
 def check_family(webs, k):
@@ -28,19 +32,53 @@ def samples_of(names, many):
     return [found[name] for name in sorted(found)]
 
 
+class Marker:
+    """The marks of the rows of a web, by the names of all rows at the round below."""
+
+    def __init__(self, field):
+        self.field = field
+        self.rows = rows_up_to(field.many, field.k)
+        # For each lot of pairs of places that was asked for their ascending tuple.
+        self.lots = {}
+
+    def pairs_in(self, lot):
+        """The ascending tuple of the pairs of places that the bits tell."""
+        if lot not in self.lots:
+            self.lots[lot] = tuple(sorted([PLACE_PAIRS[at] for at in points_of(lot)]))
+        return self.lots[lot]
+
+    def atoms_behind(self, at):
+        """The list of the atoms of the row of k points with this index and each point behind it."""
+        row, web = self.rows[at], self.field.web
+        colours = tuple([web.colours[point] for point in row])
+        pattern = self.field.patterns[len(row)][at - self.field.first_long]
+        found = []
+        for colour, bits in zip(web.colours, self.field.bits_behind(row)):
+            whole = pattern | bits << FIRST_PAIRS[len(row)]
+            same, tied = self.pairs_in(whole >> PAIR_BITS), self.pairs_in(whole & EVERY_PAIR)
+            found.append((colours + (colour,), same, tied))
+        return found
+
+    def mark(self, at, lower):
+        """The mark of the row with this index, told the names at the round below."""
+        many = self.field.many
+        if at < self.field.first_long:
+            return (lower[at], counted(lower[at * many + 1:at * many + many + 1]))
+        own = lower[at]
+        cuts = self.field.cuts_behind(lower, self.rows[at])
+        things = [(atom, names + (own,)) for atom, names in zip(self.atoms_behind(at), zip(*cuts))]
+        return (own, counted(things))
+
+
 def first_level(web, rows, names, many):
     """The level of the round 0, told the names there, and how many rows are seen."""
     return tuple([(len(rows[at]), atom_at(web, rows[at])) for at in samples_of(names, many)])
 
 
-def later_level(web, k, rows, lower, names, many):
+def later_level(marker, lower, names, many):
     """The level of a later round, told the names at the round below, too."""
-    level = []
-    for at in samples_of(names, many):
-        row = rows[at]
-        # Shorter rows are named first, so names are the indices of what is seen.
-        level.append((len(row), (lower[at], counted(things_behind(web, k, lower, row)))))
-    return tuple(level)
+    # Shorter rows are named first, so names are the indices of what is seen.
+    return tuple([(len(marker.rows[at]), marker.mark(at, lower)) for at in samples_of(names, many)])
 
 
 def code_of(web, k, depth):
@@ -49,15 +87,16 @@ def code_of(web, k, depth):
     check_k(k)
     check_depth(depth)
     check_rows((web,), k)
-    rounds = [names[0] for names in rounds_up_to(fields_of((web,), k), depth)]
-    rows = rows_up_to(len(web), k)
-    levels = [first_level(web, rows, rounds[0], row_number(len(web), min(k, depth)))]
+    fields = fields_of((web,), k)
+    rounds = [names[0] for names in rounds_up_to(fields, depth)]
+    marker = Marker(fields[0])
+    levels = [first_level(web, marker.rows, rounds[0], row_number(len(web), min(k, depth)))]
     known = {}
     for at in range(1, depth + 1):
         key = (min(at, len(rounds)), min(k, depth - at))
         if key not in known:
             lower, names = names_there(rounds, at - 1), names_there(rounds, at)
-            known[key] = later_level(web, k, rows, lower, names, row_number(len(web), key[1]))
+            known[key] = later_level(marker, lower, names, row_number(len(web), key[1]))
         levels.append(known[key])
     return tuple(levels)
 

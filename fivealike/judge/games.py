@@ -1,5 +1,5 @@
 """Papers that a spoiler wins: tables of positions."""
-from fivealike.judge.graphs import are_like_behind, are_rows_like
+from fivealike.judge.graphs import are_rows_like, bits_of, images_like, points_of
 from fivealike.judge.plain import are_between, is_integer, is_lot, is_tuple_of, without_place
 
 START = ((), ())
@@ -25,13 +25,6 @@ def is_entry(one, other, value):
     return is_lot(left, one.many) and is_lot(right, other.many) and len(left) != len(right)
 
 
-def met_pairs(one, other, left, right):
-    """The list of the pairs of points of which each pairing has one."""
-    if len(left) > len(right):
-        return [(point, image) for point in left for image in range(other.many) if image not in right]
-    return [(point, image) for point in range(one.many) if point not in left for image in right]
-
-
 def leads_lower(table, k, position, point, image):
     """Whether a move leads on to a position of the table with fewer moves, with some place left out where one is."""
     row, goal = position[0] + (point,), position[1] + (image,)
@@ -44,9 +37,15 @@ def leads_lower(table, k, position, point, image):
 def is_won(one, other, k, table, position):
     """Whether each of the pairs of which a pairing has one ends the game, or leads to fewer moves."""
     row, goal = position
-    for point, image in met_pairs(one, other, table[position][1], table[position][2]):
-        if are_like_behind(one, row, point, other, goal, image) and not leads_lower(table, k, position, point, image):
-            return False
+    _, left, right = table[position]
+    if len(left) > len(right):
+        points, images = left, ~bits_of(right)
+    else:
+        points, images = [point for point in range(one.many) if point not in left], bits_of(right)
+    for point in points:
+        for image in points_of(images_like(one, row, point, other, goal) & images):
+            if not leads_lower(table, k, position, point, image):
+                return False
     return True
 
 

@@ -35,6 +35,10 @@ class Graph:
         for here, there in ties:
             self.near[here] = self.near[here] | 1 << there
             self.near[there] = self.near[there] | 1 << here
+        # For each colour the bits of its points.
+        self.coloured = {}
+        for point, colour in enumerate(colours):
+            self.coloured[colour] = self.coloured.get(colour, 0) | 1 << point
 
     def is_tied(self, here, there):
         """Whether two points are tied."""
@@ -61,18 +65,24 @@ def bits_of(points):
     return sum([1 << point for point in points])
 
 
-def are_like_behind(one, row, point, other, goal, image):
-    """Whether a point has the colour of an image, and is to the points of a row what this is to those of a goal."""
-    if one.colours[point] != other.colours[image]:
-        return False
-    near, far = one.near[point], other.near[image]
-    return all([(here == point) == (there == image) and near >> here & 1 == far >> there & 1
-                for here, there in zip(row, goal)])
+def images_like(one, row, point, other, goal):
+    """The bits of the points that are to those of the goal, as long as the row, what the point is to those of the row.
+
+    They have its colour, too.
+    """
+    found = other.coloured.get(one.colours[point], 0)
+    near = one.near[point]
+    for here, there in zip(row, goal):
+        if here == point:
+            found = found & 1 << there
+        else:
+            found = found & (other.near[there] if near >> here & 1 else ~other.near[there]) & ~(1 << there)
+    return found
 
 
 def are_rows_like(one, row, other, goal):
     """Whether both rows are as long, and have equal colours, equal places and ties, place by place."""
     if len(row) != len(goal):
         return False
-    return all([are_like_behind(one, row[:place], row[place], other, goal[:place], goal[place])
+    return all([images_like(one, row[:place], row[place], other, goal[:place]) >> goal[place] & 1
                 for place in range(len(row))])
