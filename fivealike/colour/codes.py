@@ -65,9 +65,8 @@ class Marker:
         if at < self.field.first_long:
             return (lower[at], counted(lower[at * many + 1:at * many + many + 1]))
         own = lower[at]
-        cuts = self.field.cuts_behind(lower, self.rows[at])
-        things = [(atom, names + (own,)) for atom, names in zip(self.atoms_behind(at), zip(*cuts))]
-        return (own, counted(things))
+        names = list(zip(*self.field.cuts_behind(lower, self.rows[at])))
+        return (own, counted([(atom, cuts + (own,)) for atom, cuts in zip(self.atoms_behind(at), names)]))
 
 
 def first_level(web, rows, names, many):

@@ -121,7 +121,8 @@ def places_of_marks(fields, names, told, marks):
     for name in sorted(lots):
         lot = lots[name]
         if len(lot) > 1:
-            lot = [at for _, at in sorted([(counted_behind(fields, names, samples[at]), at) for at in lot])]
+            counts = [(counted_behind(fields, names, samples[mark]), mark) for mark in lot]
+            lot = [mark for _, mark in sorted(counts)]
         for at in lot:
             places[at] = begun
             begun += 1

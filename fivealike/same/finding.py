@@ -1,5 +1,5 @@
 """The search for a map that shows that two webs are the same, by refined names of their points."""
-from fivealike.same.refining import lot_to_part, lots_of, refined, trace_of, with_fresh
+from fivealike.same.refining import indices_of, lot_to_part, lots_of, refined, trace_of, with_fresh
 
 
 def map_by_names(names, others):
@@ -50,7 +50,10 @@ def first_names(webs, rows):
     for web, row in zip(webs, rows):
         place = {point: at for at, point in enumerate(row)}
         keys.append([(place.get(point, -1), web.colours[point]) for point in range(len(web))])
-    index = {key: at for at, key in enumerate(sorted(set([key for own in keys for key in own])))}
+    members = []
+    for own in keys:
+        members.extend(own)
+    index = indices_of(members)
     return [[index[key] for key in own] for own in keys]
 
 

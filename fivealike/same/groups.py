@@ -115,7 +115,7 @@ class Form:
 
     def look_at(self, names):
         """Looks at the renamed web whose points have the sequence of these names."""
-        order = [point for _, point in sorted([(name, point) for point, name in enumerate(names)])]
+        order = [point for _, point in sorted([(name, here) for here, name in enumerate(names)])]
         places = [0] * len(order)
         for at, point in enumerate(order):
             places[point] = at

@@ -152,10 +152,11 @@ def needed_of(lines):
     needed = {len(lines) - 1: True}
     waiting = [len(lines) - 1]
     while waiting != []:
-        for at in lines_within(lines[waiting.pop()]):
-            if at not in needed:
-                needed[at] = True
-                waiting.append(at)
+        line = lines[waiting.pop()]
+        fresh = [at for at in lines_within(line) if at not in needed]
+        for at in fresh:
+            needed[at] = True
+        waiting.extend(fresh)
     return sorted(needed)
 
 

@@ -6,7 +6,7 @@ def points_over(base):
     """The ascending list of the pairs of a point and of a lot of an even number of points near it."""
     found = []
     for point in range(len(base)):
-        near = base.near(point)
+        near = list(base.near(point))
         for many in range(0, len(near) + 1, 2):
             found.extend([(point, lot) for lot in combinations(near, many)])
     return sorted(found)
