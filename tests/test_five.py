@@ -2,22 +2,30 @@
 import copy
 import unittest
 
+from fivealike.carry import carried
 from fivealike.colour.alike import alike_answer, for_ever, is_alike_answer, least_apart
+from fivealike.colour.codes import classes, code_of, parting_tree
 from fivealike.depth import forests
 from fivealike.errors import TooMany
 from fivealike.game.tokens import game_answer, least_moves
+from fivealike.judge import judge
+from fivealike.judge.answers import answered
+from fivealike.judge.judge import takes
 from fivealike.line.lines import is_line_answer, line_answer, row_of_bags
 from fivealike.pattern.closure import are_kept, is_unlike_recipe, kept_recipes, type_sums, types_at, unlike_recipe
 from fivealike.program.bars import (are_bars, coefficients, is_partial_answer, is_program_answer, partial_answer,
                                     program_answer, turned)
 from fivealike.program.point import is_led_on, is_point, led_on, map_point, mixed_point, point_of
+from fivealike.same.counts import one_to_one_sum, pattern_answer
+from fivealike.same.search import are_symmetries, form_of, is_same_answer, is_tries, same_answer, symmetries_of
 from fivealike.say import parting
 from fivealike.say.sentences import both, depths, is_true, not_of, shortened
 from fivealike.side import keepers
+from fivealike.twist.twisted import even_map, twisted
 from fivealike.web.maps import map_number
 from fivealike.web.webs import Web, beside, opposite, renamed
 from fivealike.width.recipes import number_of, recipe_depth
-from helper import DOT, NO_WEB, RING, TWO, full, path, ring, some_names, some_web, twisted
+from helper import DOT, NO_WEB, RING, TWO, full, path, ring, some_names, some_web
 
 SPIDER = Web((0,) * 7, ((0, 1), (0, 3), (0, 5), (1, 2), (3, 4), (5, 6)))
 
@@ -96,9 +104,52 @@ class OneNumber(unittest.TestCase):
                 if len(even) ** (k + 1) <= 4096:
                     self.assertEqual(least_apart(even, odd, k) is None, k < width)
 
+    def test_papers(self):
+        """Five are one: each claim has a paper of each kind on just one of both sides, and equal codes."""
+        for one, other, k in some_pairs():
+            least = least_apart(one, other, k)
+            for depth in (0, 1, 2, 3, None):
+                is_alike = least is None or depth is not None and depth < least
+                claim = ("alike", k, depth, (one.colours, one.ties), (other.colours, other.ties))
+                for by in ("spoiler", "sentence", "recipe"):
+                    try:
+                        right, paper = answered(claim, by=by)
+                    except TooMany:
+                        continue
+                    self.assertEqual(right[0], "alike" if is_alike else "apart")
+                    self.assertTrue(takes(right, paper) and not takes(judge.opposite(right), paper))
+                if depth is not None:
+                    self.assertIs(code_of(one, k, depth) == code_of(other, k, depth), is_alike)
+                    self.assertEqual(classes((one, other), k, depth), (0, 0) if is_alike else (0, 1))
+
+    def test_not_the_same(self):
+        """Webs that are the same are alike for ever; alike ones need not be the same."""
+        for one, other, k in some_pairs():
+            if same_answer(one, other)[0] == "same":
+                self.assertIsNone(least_apart(one, other, k))
+                self.assertEqual(renamed(one, form_of(one)), renamed(other, form_of(other)))
+        self.assertEqual((least_apart(RING, TWO, 1), same_answer(RING, TWO)[0]), (None, "unlike"))
+
     def test_untrue(self):
         # Alike for k = 1, not for k = 2; apart, but not at the first round.
         self.assertEqual([least_apart(RING, TWO, k) for k in (1, 2)], [None, 3])
+        # Equally many points of each colour and each number of ties, and apart at the round 2.
+        one, other = Web((0, 1, 0, 1), ((0, 1), (2, 3))), Web((0, 1, 0, 1), ((0, 2), (1, 3)))
+        self.assertEqual((sorted(one.colours), sorted(one.degrees)), (sorted(other.colours), sorted(other.degrees)))
+        self.assertEqual([least_apart(one, other, k) for k in (1, 2, 3)], [2, 2, 2])
+
+
+def empty(value):
+    """Empties all dicts and lists within a value."""
+    if isinstance(value, dict):
+        for worth in list(value.values()):
+            empty(worth)
+        value.clear()
+    elif isinstance(value, (tuple, list)):
+        for worth in value:
+            empty(worth)
+        if isinstance(value, list):
+            value.clear()
 
 
 class Calls(unittest.TestCase):
@@ -141,6 +192,32 @@ class Calls(unittest.TestCase):
                  lambda: parting.name_line((RING, TWO), 2, 3, (0, 1)), lambda: program_answer(RING, TWO, 2))
         for call in calls:
             self.assertEqual(call(), call())
+
+    def test_later_stages(self):
+        """Equal calls have equal results, which share nothing, and change no argument."""
+        ladder, point = alike_answer(RING, TWO, 1, 2)[1], for_ever(RING, TWO, 1)[1]
+        bars = program_answer(RING, TWO, 2)[1]
+        claim = ("alike", 2, 3, (RING.colours, RING.ties), (TWO.colours, TWO.ties))
+        tries = same_answer(RING, TWO)
+        kept = copy.deepcopy((ladder, point, bars, tries))
+        calls = (lambda: carried.carried_ladder("beside", 1, RING, TWO, ladder, RING, TWO, ladder),
+                 lambda: carried.carried_table("times", 1, RING, TWO, point, DOT, DOT, for_ever(DOT, DOT, 1)[1]),
+                 lambda: carried.cancelled("beside", 1, RING, TWO, NO_WEB, ladder), lambda: carried.recoloured_ladder(1, RING, TWO, 2, 1, {1: 4}),
+                 lambda: carried.pieces_of(unlike_recipe(RING, TWO, 2, 3), 2), lambda: even_map(SPIDER, SPIDER.ties[:2], ()), lambda: same_answer(RING, TWO),
+                 lambda: symmetries_of(path(5)), lambda: form_of(TWO), lambda: one_to_one_sum(path(4)), lambda: pattern_answer(RING, TWO), lambda: code_of(RING, 2, 3),
+                 lambda: parting_tree((RING, TWO, DOT), 2), lambda: answered(claim), lambda: answered(claim, by="recipe"), lambda: answered(claim, by="sentence"))
+        for call in calls:
+            first = call()
+            wanted = copy.deepcopy(first)
+            empty(first)
+            self.assertEqual(call(), wanted)
+        for told in (("alike", ladder), ("apart", ladder), ("bars", bars), tries):
+            for paper in (told, told[1]):
+                takes(claim, paper)
+                is_tries(RING, TWO, paper)
+                is_same_answer(RING, TWO, paper)
+                are_symmetries(RING, (told, paper))
+        self.assertEqual((ladder, point, bars, tries), kept)
 
     def test_papers_of_other_makers(self):
         """What one stage tells is taken where another one asks for it."""
