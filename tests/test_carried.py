@@ -323,6 +323,25 @@ class Pieces(unittest.TestCase):
                     number *= number_of(piece, k, web)
                 self.assertEqual(number, number_of(recipe, k, web))
 
+    def test_many_lines(self):
+        """A recipe of many lines, each of which uses two loose points anew, has pieces of no more lines."""
+        lines = [("point", 0), ("point", 1), ("glue", 0, 1), ("tie", 0, 1)]
+        last = 2
+        tied = 3
+        for _ in range(600):
+            lines.append(("glue", tied, 3))
+            tied = len(lines) - 1
+            lines.append(("glue", 2, tied))
+            lines.append(("glue", last, len(lines) - 1))
+            last = len(lines) - 1
+        recipe = tuple(lines + [("sum", 0, last), ("sum", 1, len(lines))])
+        self.assertTrue(is_recipe(1, recipe) and len(recipe) > 1800)
+        told, = pieces_of(recipe, 1)
+        self.assertLessEqual(len(told), len(recipe))
+        for web in (DOT, PAIR, Web((0,) * 3, ((0, 1), (1, 2)))):
+            self.assertEqual(number_of(told, 1, web), number_of(recipe, 1, web))
+        self.assertEqual(pattern_of(told, 1)[0], Web((-1, -1), ((0, 1),)))
+
     def test_pieces_on_webs(self):
         """Beside one another numbers of pieces add up, on products those of all patterns multiply."""
         for recipe, k, _ in some_recipes():

@@ -9,7 +9,10 @@ from fivealike.plain import is_between, is_integer
 from fivealike.web.checks import check_couple, check_depth, check_k, check_rows
 from fivealike.web.maps import times
 from fivealike.web.webs import GREATEST_COLOUR, LEAST_COLOUR, Web, beside, joined
-from fivealike.width.recipes import MOST_LINES, check_closed, check_pattern, check_work, places_checked
+from fivealike.width.bags import bags_along
+from fivealike.width.hanging import written
+from fivealike.width.recipes import MOST_LINES, check_closed, check_pattern, check_work, places_checked, web_of_shape
+from fivealike.width.shapes import last_shape
 
 WORDS = ("beside", "joined", "times")
 
@@ -132,10 +135,20 @@ def cancelled(word, k, one, other, third, ladder):
     return ladder_between(one, other, k, len(ladder) - 1)
 
 
-def pieces_told(recipe):
+def shorter_recipe(recipe, k, most):
+    """The recipe itself, or, if it has more lines than this, a shorter one of the same pattern, if that is shorter."""
+    if len(recipe) <= most:
+        return recipe
+    pattern = web_of_shape(last_shape(recipe))
+    bags, above = bags_along(pattern, tuple(range(len(pattern))))
+    other = written(pattern, bags, above, k)
+    return other if len(other) < len(recipe) else recipe
+
+
+def pieces_told(recipe, k):
     """The recipes of the pieces of the pattern of this, which is a recipe."""
     check_pattern(recipe)
-    recipes = recipes_of_pieces(recipe)
+    recipes = [shorter_recipe(piece, k, len(recipe)) for piece in recipes_of_pieces(recipe)]
     if not all([len(piece) <= MOST_LINES for piece in recipes]):
         raise TooMany(MOST_LINES)
     return tuple(recipes)
@@ -144,7 +157,7 @@ def pieces_told(recipe):
 def pieces_of(recipe, k):
     """Recipes, one for each piece of the pattern, whose numbers multiply to that of the recipe."""
     check_closed(places_checked(recipe, k))
-    return pieces_told(recipe)
+    return pieces_told(recipe, k)
 
 
 def check_numbers(recipe, k, one, other):
@@ -161,4 +174,4 @@ def piece_apart(recipe, k, one, other):
     check_numbers(recipe, k, one, other)
     if not numbers_unlike(recipe, k, (one, other)):
         raise InvalidOperation("a recipe with unlike numbers on both webs is asked for")
-    return [piece for piece in pieces_told(recipe) if numbers_unlike(piece, k, (one, other))][0]
+    return [piece for piece in pieces_told(recipe, k) if numbers_unlike(piece, k, (one, other))][0]
