@@ -150,7 +150,7 @@ def do_agree(numbers):
     return numbers[0][0] == numbers[1][0]
 
 
-def is_last_alike(fields, names):
+def are_apart_next(fields, names):
     """Whether both empty rows have unlike names at the round behind that of these names."""
     one, other = [sorted(own[1:field.many + 1]) for field, own in zip(fields, names)]
     return one != other
@@ -190,7 +190,7 @@ def rounds_to_part(fields, depth):
     if fields[0].web == fields[1].web:
         return (numbers_up_to(fields, depth), None)
     rounds = rounds_alone(fields, depth, False, True)
-    is_apart = (depth is None or len(rounds) <= depth) and is_last_alike(fields, rounds[-1])
+    is_apart = (depth is None or len(rounds) <= depth) and are_apart_next(fields, rounds[-1])
     return (rounds, len(rounds) if is_apart else None)
 
 
@@ -198,7 +198,7 @@ def rounds_alone(fields, depth, are_names, to_part):
     """Such a list for fields of unlike webs; if asked for, it ends with the last round at which two are alike."""
     rounds = [first_names(fields)]
     while depth is None or len(rounds) <= depth:
-        if to_part and is_last_alike(fields, rounds[-1]):
+        if to_part and are_apart_next(fields, rounds[-1]):
             return rounds
         told, marks = parted(fields, rounds[-1])
         if len(marks) == many_names(rounds[-1]):
