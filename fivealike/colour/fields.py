@@ -77,7 +77,7 @@ class Field:
         self.many = len(web)
         self.own_colours = [colour + 1 for colour in web.colours]
         # For each point the list of the bits that it makes with all points.
-        self.digits = digit_rows(web)
+        self.digits = digit_rows(self.many, web.ties)
         # For each length the lists of the numbers of the rows' colours, and of their patterns.
         self.colours = [[0]]
         self.patterns = [[0]]
@@ -138,8 +138,7 @@ def fields_of(webs, k):
     """The list of the fields of webs that are looked at side by side; equal webs have one field."""
     fields = []
     for at, web in enumerate(webs):
-        twins = [field for other, field in zip(webs[:at], fields) if other == web]
-        fields.append(twins[0] if twins != [] else Field(web, k))
+        fields.append(fields[webs.index(web)] if web in webs[:at] else Field(web, k))
     return fields
 
 

@@ -5,9 +5,9 @@ from fivealike.plain import is_pair
 from fivealike.web.checks import GREATEST_DEPTH
 
 
-def is_numbering(many, k, value):
-    """Whether the value is a dict from just all rows of at most k of so many points to integers."""
-    if not isinstance(value, dict) or len(value) != row_number(many, k):
+def is_numbering(many, k, size, value):
+    """Whether the value is a dict from just all rows, of this number, of at most k of so many points to integers."""
+    if not isinstance(value, dict) or len(value) != size:
         return False
     # As many unlike rows as there are: so each one is there.
     for row, number in value.items():
@@ -19,9 +19,16 @@ def is_numbering(many, k, value):
     return True
 
 
-def are_numberings(one, other, k, value):
-    """Whether the value is a pair of such dicts, of one for each of both webs."""
-    return is_pair(value) and is_numbering(len(one), k, value[0]) and is_numbering(len(other), k, value[1])
+def are_numberings(one, other, k, pairs):
+    """Whether all of these are pairs of such dicts, of one for each of both webs."""
+    many, others = len(one), len(other)
+    size, other_size = row_number(many, k), row_number(others, k)
+    for pair in pairs:
+        if not is_pair(pair) or not is_numbering(many, k, size, pair[0]):
+            return False
+        if not is_numbering(others, k, other_size, pair[1]):
+            return False
+    return True
 
 
 def do_tell(numbers, things):
@@ -66,14 +73,13 @@ class Judge:
         The numbers below tell atoms, as they follow, round by round, those of the round 0.
         """
         base = max([max(own) for own in lower]) + 1
-        behind = [list(zip(own, all_behind(field, own, base, [True] * len(own))))
-                  for field, own in zip(self.fields, lower)]
-        return do_tell(upper, behind)
+        behind = [all_behind(field, own, base, [True] * len(own)) for field, own in zip(self.fields, lower)]
+        return do_tell(upper, lower) and do_tell(upper, behind)
 
 
 def is_table_of(one, other, k, value):
     """Whether the value is a table of these, which are webs."""
-    if not are_numberings(one, other, k, value):
+    if not are_numberings(one, other, k, (value,)):
         return False
     judge = Judge(one, other, k)
     numbers = judge.numbers_told(value)
@@ -84,7 +90,7 @@ def is_ladder_of(one, other, k, depth, value):
     """Whether the value is a ladder to the depth of these, which are webs."""
     if not isinstance(value, tuple) or len(value) != depth + 1:
         return False
-    if not all([are_numberings(one, other, k, pair) for pair in value]):
+    if not are_numberings(one, other, k, value):
         return False
     judge = Judge(one, other, k)
     steps = [judge.numbers_told(pair) for pair in value]

@@ -19,11 +19,10 @@ LOT_PLACES = (
 )
 
 
-def digit_rows(web):
-    """For each point the list of the bits that it makes with all points."""
-    many = len(web)
+def digit_rows(many, ties):
+    """For each of so many points, with these ties, the list of the bits that it makes with all points."""
     rows = [[0] * many for _ in range(many)]
-    for here, there in web.ties:
+    for here, there in ties:
         rows[here][there] = TIED
         rows[there][here] = TIED
     for point in range(many):

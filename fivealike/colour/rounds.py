@@ -1,5 +1,5 @@
 """Rounds of rows: marks, names and types of the rows of webs side by side."""
-from fivealike.colour.fields import cuts_of, fields_of, index_of
+from fivealike.colour.fields import cuts_of, fields_of, index_of, row_number
 from fivealike.colour.ladders import dicts_of, is_numbering
 from fivealike.colour.names import many_names, names_there, numbers_up_to, rounds_up_to
 from fivealike.errors import InvalidNumber, InvalidRow
@@ -108,7 +108,7 @@ def is_renaming(webs, k, depth, value):
     check_rows(webs, k)
     if not isinstance(value, tuple) or len(value) != len(webs):
         return False
-    if not all([is_numbering(len(web), k, own) for web, own in zip(webs, value)]):
+    if not all([is_numbering(len(web), k, row_number(len(web), k), own) for web, own in zip(webs, value)]):
         return False
     fields = fields_of(webs, k)
     names = dicts_of(fields, names_there(numbers_up_to(fields, depth), depth))
