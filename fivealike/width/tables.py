@@ -21,9 +21,24 @@ def picked(row, at):
     return tuple([row[here] for here in at])
 
 
+def narrowed_table(places, one, within, other):
+    """The product of two tables, told the places of both: those of the other one are some of those of the one."""
+    at = [places.index(place) for place in within]
+    found = {}
+    for row, number in one.items():
+        factor = other.get(picked(row, at))
+        if factor is not None:
+            found[row] = number * factor
+    return found
+
+
 def glued_tables(first, second, one, other):
     """The product of two tables, told the places of both."""
     common = [place for place in first if place in second]
+    if len(common) == len(second):
+        return narrowed_table(first, one, second, other)
+    if len(common) == len(first):
+        return narrowed_table(second, other, first, one)
     at_first = [first.index(place) for place in common]
     at_second = [second.index(place) for place in common]
     both = first + second
@@ -40,10 +55,10 @@ def glued_tables(first, second, one, other):
 
 def summed_table(places, place, one):
     """The sums of a table over all points at the place."""
-    at = [here for here in range(len(places)) if places[here] != place]
+    at = places.index(place)
     table = {}
     for row, number in one.items():
-        left = picked(row, at)
+        left = row[:at] + row[at + 1:]
         table[left] = table.get(left, 0) + number
     return table
 
