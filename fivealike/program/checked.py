@@ -1,8 +1,7 @@
 """Points of the mixed program: what is one, and what comes of rows with equal types."""
-from fivealike.colour.fields import rows_of
 from fivealike.linear import divisor_of
 from fivealike.pattern.spaces import numbers_of_types
-from fivealike.plain import is_ascending, is_integer, is_pair
+from fivealike.plain import is_integer, is_pair
 from fivealike.program.partials import pairs_for
 
 
@@ -77,26 +76,45 @@ def least_common(numbers):
     return found
 
 
-def rows_by_type(many, length, types):
-    """A dict from types to the lists of the rows of this length that have them, told the types of all."""
-    found = {}
-    for row, told in zip(rows_of(many, length), types):
-        found.setdefault(told, []).append(row)
-    return found
+class Shares:
+    """All partials of at most k + 1 pairs whose rows have one type, each with how many rows there are of this type."""
+
+    def __init__(self, one, other, k, fields, names):
+        self.many = len(one)
+        self.others = len(other)
+        self.most = k + 1
+        # For each length the types of the rows of the one web; how often each comes in the other web; and
+        # by a type and the number of a row without its last point there all points that can be this.
+        self.types = []
+        self.often = []
+        self.last = []
+        for length in range(k + 2):
+            types, goals = numbers_of_types(fields, names, length)
+            self.types.append(types)
+            self.often.append([0] * (max(types + goals, default=0) + 1))
+            self.last.append({})
+            for at, told in enumerate(goals):
+                self.often[length][told] += 1
+                self.last[length].setdefault((told, at // self.others if length > 0 else 0), []).append(at)
+        self.found = {(): 1}
+        self.grow((), -1, 0, 0)
+
+    def grow(self, partial, least, row, goal):
+        """Finds all partials that begin with this one, in ascending sequence, told the numbers of its rows."""
+        length = len(partial) + 1
+        types, often, last = self.types[length], self.often[length], self.last[length]
+        for point in range(least + 1, self.many):
+            at = row * self.many + point
+            # Rows of one type have one atom: with unlike points in the one all pairs are unlike.
+            for there in last.get((types[at], goal), ()):
+                longer = partial + ((point, there - goal * self.others),)
+                self.found[longer] = often[types[at]]
+                if length < self.most:
+                    self.grow(longer, point, at, there)
 
 
 def point_by_types(one, other, k, fields, names):
     """The point of webs that are alike for ever by these stable names."""
-    shares = {}
-    for length in range(k + 2):
-        types, goal_types = numbers_of_types(fields, names, length)
-        goals = rows_by_type(len(other), length, goal_types)
-        for row, told in zip(rows_of(len(one), length), types):
-            # Rows of one type have one atom: with unlike points in the one all pairs are unlike.
-            if is_ascending(row):
-                lot = goals[told]
-                share = len(lot)
-                for goal in lot:
-                    shares[tuple(zip(row, goal))] = share
+    shares = Shares(one, other, k, fields, names).found
     whole = least_common(sorted(set(list(shares.values()))))
-    return (whole, {partial: whole // shares[partial] for partial in sorted(shares)})
+    return (whole, {partial: whole // share for partial, share in shares.items()})
