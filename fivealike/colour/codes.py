@@ -65,8 +65,9 @@ class Marker:
         if at < self.field.first_long:
             return (lower[at], counted(lower[at * many + 1:at * many + many + 1]))
         own = lower[at]
-        names = list(zip(*self.field.cuts_behind(lower, self.rows[at])))
-        return (own, counted([(atom, cuts + (own,)) for atom, cuts in zip(self.atoms_behind(at), names)]))
+        cuts = self.field.cuts_behind(lower, self.rows[at])
+        names = list(zip(*cuts))
+        return (own, counted([(atom, others + (own,)) for atom, others in zip(self.atoms_behind(at), names)]))
 
 
 def first_level(web, rows, names, many):

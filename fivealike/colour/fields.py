@@ -151,4 +151,5 @@ def kinds_behind(field, numbers, row):
     if field.k == 1:
         # Just of rows of two points the cuts do not tell the atom.
         return list(zip(field.digits[row[0]], field.cuts_behind(numbers, row)[0]))
-    return list(zip(*field.cuts_behind(numbers, row)))
+    cuts = field.cuts_behind(numbers, row)
+    return list(zip(*cuts))

@@ -137,7 +137,8 @@ def counted_behind(fields, names, sample):
     if index < field.first_long:
         return counted(own[index * many + 1:index * many + many + 1])
     row = row_at(many, index)
-    return counted(list(zip(field.ranks_behind(row), *field.cuts_behind(own, row))))
+    cuts = field.cuts_behind(own, row)
+    return counted(list(zip(field.ranks_behind(row), *cuts)))
 
 
 def many_names(names):
