@@ -114,7 +114,7 @@ class Answers(unittest.TestCase):
                 continue
             self.assertEqual((kind, paper[START][0]), ("spoiler", least))
             self.assertIs(is_spoiler_table(one, other, k, paper), True)
-            self.assertEqual(list(paper), sorted(paper, key=lambda position: (len(position[0]), position)))
+            self.assertEqual(list(paper), sorted(paper))
             for shorter in range(0, least):
                 self.assertIs(is_game_answer(one, other, k, shorter, answer), False)
             self.assertIs(is_game_answer(one, other, k, least, answer), True)

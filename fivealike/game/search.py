@@ -148,9 +148,9 @@ class Search:
 
 
 def spoiler_table_told(webs, fields, rounds):
-    """A spoiler's table of webs that are apart at one of these rounds, shorter rows ahead."""
+    """A spoiler's table of webs that are apart at one of these rounds, its positions ascending."""
     search = Search(webs, fields, rounds)
     search.work()
-    rows = search.rows
-    # Indices of rows have the sequence that is asked for, shorter rows ahead.
-    return {(rows[0][at[0]], rows[1][at[1]]): search.entries[at] for at in sorted(search.entries)}
+    one, other = search.rows
+    table = {(one[at[0]], other[at[1]]): entry for at, entry in search.entries.items()}
+    return {position: table[position] for position in sorted(table)}
