@@ -1,6 +1,6 @@
 """All symmetries of a web, told by a few of them: for each point those that keep all lesser ones."""
-from fivealike.same.finding import first_names, map_led, near_lists
-from fivealike.same.refining import lot_to_part, refined, trace_of, with_fresh
+from fivealike.same.finding import Guide, map_along
+from fivealike.same.refining import Side, lot_to_part, refined, refined_behind, trace_of
 
 
 def led_behind(first, second):
@@ -21,58 +21,91 @@ def reached_from(point, makers, many):
     return reached
 
 
-class Stage:
-    """The symmetries of a web that lead each name to itself, as far as they are found."""
+class Head:
+    """A point from which symmetries are looked for, what is seen if it is told apart, and the way from there on."""
 
-    def __init__(self, near, names, makers):
-        self.near = near
+    def __init__(self, point, trace, guide):
+        self.point = point
+        self.trace = trace
+        self.guide = guide
+        # A dict from all points to which it is led to symmetries that do so.
+        self.reached = {}
+
+
+class Orbits:
+    """Which points the symmetries that lead each name to itself lead to one another, as far as it is asked.
+
+    Of the points that were asked for some are heads: none of these is led to another one.
+    """
+
+    def __init__(self, side, names, makers):
+        self.side = side
         self.names = names
         self.makers = list(makers)
+        self.heads = []
 
-    def find_from(self, point, images):
-        """Finds makers enough for all of the images to which some symmetry leads the point; tells what is reached."""
-        many = len(self.names)
-        reached = reached_from(point, self.makers, many)
-        missed = {}
-        for image in images:
-            if image not in reached and image not in missed:
-                own = with_fresh(self.names, point)
-                found = map_led(self.near, self.near, own, with_fresh(self.names, image))
-                if found is None:
-                    # What the makers reach from there is not reached from the point.
-                    for there in reached_from(image, self.makers, many):
-                        missed[there] = True
-                else:
-                    self.makers.append(found)
-                    reached = reached_from(point, self.makers, many)
-        return reached
+    def head_of(self, point):
+        """The head from which a symmetry leads to the point, perhaps the point itself."""
+        for head in self.heads:
+            if point in head.reached:
+                return head
+        rounds, names = refined_behind(self.side, self.names, point)
+        trace = trace_of(rounds)
+        for head in self.heads:
+            if head.trace == trace:
+                maker = map_along(head.guide, 0, self.side, names)
+                if maker is not None:
+                    self.add_maker(maker)
+                    return head
+        self.heads.append(Head(point, trace, Guide(self.side, names)))
+        self.heads[-1].reached = reached_from(point, self.makers, self.side.many)
+        return self.heads[-1]
+
+    def add_maker(self, maker):
+        """Adds one more symmetry, of which others are made."""
+        self.makers.append(maker)
+        for head in self.heads:
+            head.reached = reached_from(head.point, self.makers, self.side.many)
 
 
-def kept_names(web, row):
-    """The refined names of the points, those of the row having names of their own."""
-    names = first_names((web,), (row,))[0]
-    near = near_lists(web)
-    return refined(near, near, names, names)[0]
+def names_of_colours(side):
+    """The refined names of all points, told apart by their colours."""
+    index = side.names_by(sorted(side.colours))
+    return refined(side, [index[colour] for colour in side.colours])[1]
 
 
-def ladder_of(web):
-    """For each point a dict from those to which it is led by a symmetry that keeps all lesser ones to such."""
-    many = len(web)
-    near = near_lists(web)
+def names_kept(side):
+    """For each point the refined names of all points if all lesser ones have names of their own."""
+    kept = []
+    names = names_of_colours(side)
+    for point in range(side.many):
+        kept.append(names)
+        if names.count(names[point]) > 1:
+            names = refined_behind(side, names, point)[1]
+    return kept
+
+
+def ladder_of(side):
+    """The ladder of symmetries of a web, and the list of those of which all symmetries are made.
+
+    The ladder has for each point a dict from those to which it is led by a symmetry that keeps all lesser ones to such.
+    """
+    kept = names_kept(side)
     steps = []
     makers = []
-    for point in reversed(range(many)):
-        names = kept_names(web, tuple(range(point)))
-        stage = Stage(near, names, makers)
-        images = [image for image in range(point + 1, many) if names[image] == names[point]]
-        steps.append(stage.find_from(point, images))
-        makers = stage.makers
-    return [steps[many - 1 - point] for point in range(many)]
-
-
-def makers_of(ladder):
-    """The list of the symmetries of a ladder, of which all symmetries are made."""
-    return [symmetry for reached in ladder for symmetry in list(reached.values())]
+    for point in reversed(range(side.many)):
+        names = kept[point]
+        images = [image for image in range(point + 1, side.many) if names[image] == names[point]]
+        orbits = Orbits(side, names, makers)
+        if images != []:
+            first = orbits.head_of(point)
+            for image in images:
+                orbits.head_of(image)
+            makers = orbits.makers
+            steps.append(first.reached)
+        else:
+            steps.append({point: tuple(range(side.many))})
+    return (steps[::-1], makers)
 
 
 def renamed_ties(ties, names):
@@ -84,34 +117,24 @@ def renamed_ties(ties, names):
 class Form:
     """The search for the least one of the renamed webs to which refined names lead."""
 
-    def __init__(self, web):
-        self.web = web
-        self.near = near_lists(web)
+    def __init__(self, side):
+        self.side = side
         # The least one and the names that lead to it.
         self.best = None
 
     def work(self, names):
-        """Looks at all renamed webs to which these names lead, up to symmetries."""
-        own = refined(self.near, self.near, names, names)[0]
-        lot = lot_to_part(self.near, own)
+        """Looks at all renamed webs to which these refined names lead, up to symmetries."""
+        lot = lot_to_part(self.side, names)
         if lot is None:
-            self.look_at(own)
+            self.look_at(names)
             return
-        for point in self.unlike_points(own, lot):
-            self.work(with_fresh(own, point))
-
-    def unlike_points(self, names, lot):
-        """Of the points of the lot with the least trace one for each of those that no symmetry leads to one another."""
-        traces = [trace_of(self.near, names, point) for point in lot]
-        least = min(traces)
-        left = [point for point, trace in zip(lot, traces) if trace == least]
-        stage = Stage(self.near, names, [])
-        chosen = []
-        while left != []:
-            reached = stage.find_from(left[0], left)
-            chosen.append(left[0])
-            left = [point for point in left if point not in reached]
-        return chosen
+        orbits = Orbits(self.side, names, [])
+        for point in lot:
+            orbits.head_of(point)
+        least = min([head.trace for head in orbits.heads])
+        for head in orbits.heads:
+            if head.trace == least:
+                self.work(head.guide.names[0])
 
     def look_at(self, names):
         """Looks at the renamed web whose points have the sequence of these names."""
@@ -119,13 +142,13 @@ class Form:
         places = [0] * len(order)
         for at, point in enumerate(order):
             places[point] = at
-        told = (tuple([self.web.colours[point] for point in order]), renamed_ties(self.web.ties, places))
+        told = (tuple([self.side.colours[point] for point in order]), renamed_ties(self.side.ties, places))
         if self.best is None or told < self.best[0]:
             self.best = (told, tuple(places))
 
 
 def form_names(web):
     """Names with which the renamed web is the same for all webs that are the same."""
-    form = Form(web)
-    form.work(first_names((web,), ((),))[0])
+    form = Form(Side(web))
+    form.work(names_of_colours(form.side))
     return form.best[1]

@@ -1,78 +1,110 @@
 """Names for the points of webs, refined by how often those near a point have each name.
 
-Names are integers from 0 to 31; what is told of at most 16 points and of one fresh name fits in.
+A name is a place for bits, a multiple of STEP. The key of a point tells at the place of each name how many
+points near it have this name, and 16 more if it has the name itself: enough for webs of at most 16 points.
 """
+from fivealike.web.bits import bits_of
+
 STEP = 5
-FRESH = 31
+SELF_BIT = 4
 
 
-def keys_of(near, names):
-    """For each point a number that tells its name, and how often those near it have each name."""
-    weights = [1 << STEP * (name + 1) for name in names]
-    return [sum([weights[there] for there in those]) + name for those, name in zip(near, names)]
+class Side:
+    """A web whose points are told apart by names. It does not change."""
+
+    def __init__(self, web):
+        self.many = len(web)
+        self.colours = web.colours
+        self.ties = web.ties
+        self.places = [STEP * at for at in range(self.many)]
+        # The name for a point that is told apart from all others.
+        self.fresh = STEP * self.many
+        width = self.fresh + STEP
+        self.mask = (1 << width) - 1
+        self.starts = [width * point for point in range(self.many)]
+        ones = [1 << start for start in self.starts]
+        # What each point adds, at the place of its name, to the keys of all points, which stand one behind the other.
+        self.shares = [one << SELF_BIT for one in ones]
+        # For each point the bits of those near it.
+        self.near = [0] * self.many
+        for here, there in web.ties:
+            self.shares[here] += ones[there]
+            self.shares[there] += ones[here]
+            self.near[here] += 1 << there
+            self.near[there] += 1 << here
+
+    def keys_of(self, names):
+        """The list of the keys of all points."""
+        whole = sum([share << name for share, name in zip(self.shares, names)])
+        mask = self.mask
+        return [whole >> start & mask for start in self.starts]
+
+    def names_by(self, told):
+        """A dict from numbers, told in their sequence, to names that have this sequence."""
+        return dict(zip(told, self.places))
+
+    def with_fresh(self, names, point):
+        """The names with a fresh one for the point."""
+        found = list(names)
+        found[point] = self.fresh
+        return found
 
 
-def indices_of(keys):
-    """A dict from the keys to their places in their sequence."""
-    return {key: at for at, key in enumerate(sorted(set(keys)))}
+def refined(side, names):
+    """The pair of the rounds in which the names are refined as far as can be, and of the names then.
 
-
-def refined(near, goals, names, others):
-    """The names of the points of both webs, refined as far as can be; None if some comes unequally often."""
+    A round is the pair of the sorted keys of all points and of a dict from them to their names.
+    """
+    rounds = []
     many = len(set(names))
     while True:
-        keys, other_keys = keys_of(near, names), keys_of(goals, others)
-        if sorted(keys) != sorted(other_keys):
+        keys = side.keys_of(names)
+        told = sorted(keys)
+        index = side.names_by(told)
+        rounds.append((told, index))
+        names = [index[key] for key in keys]
+        if len(index) == many:
+            return (rounds, names)
+        many = len(index)
+
+
+def refined_behind(side, names, point):
+    """The same for names of which the point has a fresh one."""
+    return refined(side, side.with_fresh(names, point))
+
+
+def followed(side, names, rounds):
+    """The names refined by rounds of another web; None if there are other keys here."""
+    for told, index in rounds:
+        keys = side.keys_of(names)
+        if sorted(keys) != told:
             return None
-        index = indices_of(keys)
-        names, others = [index[key] for key in keys], [index[key] for key in other_keys]
-        if len(index) == many:
-            return (names, others)
-        many = len(index)
+        names = [index[key] for key in keys]
+    return names
 
 
-def with_fresh(names, point):
-    """The names with a fresh one for the point."""
-    return names[:point] + [FRESH] + names[point + 1:]
-
-
-def trace_of(near, names, point):
-    """What is seen when the names are refined after the point has a name of its own: no names of points."""
-    own = with_fresh(names, point)
-    many = 0
-    trace = []
-    while True:
-        keys = keys_of(near, own)
-        index = indices_of(keys)
-        if len(index) == many:
-            return tuple(trace)
-        trace.append(tuple(sorted(keys)))
-        many = len(index)
-        own = [index[key] for key in keys]
+def trace_of(rounds):
+    """What is seen in the rounds: no names of points."""
+    return [told for told, _ in rounds]
 
 
 def lots_of(names):
-    """A dict from the names, ascending, to the ascending lists of the points that have them."""
-    found = {name: [] for name in sorted(set(names))}
+    """A dict from the names to the ascending lists of the points that have them."""
+    found = {}
     for point, name in enumerate(names):
-        found[name].append(point)
+        found.setdefault(name, []).append(point)
     return found
 
 
-def is_plain(near, names, lots, name):
-    """Whether each point of this name is tied to all or to none of the other points of each name."""
-    first = lots[name][0]
-    often = {}
-    for there in near[first]:
-        often[names[there]] = often.get(names[there], 0) + 1
-    return all([often[told] == len(lots[told]) - (1 if told == name else 0) for told in often])
-
-
-def lot_to_part(near, names):
+def lot_to_part(side, names):
     """The fewest points of one name among which a choice matters, in refined names; None if there are none."""
-    lots = lots_of(names)
-    sized = [(len(lots[name]), name) for name in lots if len(lots[name]) > 1]
-    for _, name in sorted(sized):
-        if not is_plain(near, names, lots, name):
-            return lots[name]
+    if len(set(names)) == side.many:
+        return None
+    sized = sorted([(len(lot), name, lot) for name, lot in lots_of(names).items() if len(lot) > 1])
+    lots = [bits_of(lot) for _, _, lot in sized]
+    for _, _, lot in sized:
+        # If no choice matters, of each name all other points are tied to these, or none.
+        near, others = side.near[lot[0]], ~(1 << lot[0])
+        if not all([near & bits in (0, bits & others) for bits in lots]):
+            return lot
     return None

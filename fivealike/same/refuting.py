@@ -1,14 +1,16 @@
 """The search for tries, which show that no map of two webs leads one row to another."""
 from fivealike.errors import TooMany
-from fivealike.same.refining import indices_of, keys_of, trace_of
-from fivealike.web.bits import near_bits
+from fivealike.same.finding import found_map
+from fivealike.same.forks import Fork, look_told, looks_behind, looks_from
+from fivealike.same.groups import Orbits, led_behind
+from fivealike.same.refining import Side
 
 MOST_TRIES = 4000
-# What a pair of points is thought to cost: if it ends at once, later, or perhaps never.
-COST_SOON = 1
-COST_LATE = 20
-COST_NEVER = 2000
-IN_ROW = -1
+MANY_TRIES = 500
+# A fork with all names alike is as much work as so many others. With so few ones tries are made again sooner than
+# a symmetry is found that leads to them.
+WORK_ALIKE = 3
+FEW_FORKS = 4
 
 
 def look_at(web, row, point):
@@ -18,108 +20,141 @@ def look_at(web, row, point):
     return (web.colours[point], tuple(at), tuple([place for place, here in enumerate(row) if here in near]))
 
 
+def uneven_member(told, goals):
+    """The least number that comes unequally often in two unlike sorted lists."""
+    for here, there in zip(told, goals):
+        if here != there:
+            return min(here, there)
+    return told[len(goals)] if len(told) > len(goals) else goals[len(told)]
+
+
+class Branch:
+    """Tries of two like rows and of all pairs of rows to which these lead."""
+
+    def __init__(self, rows, told):
+        # The pairs of a pair of rows and of what is told of it.
+        self.pairs = [(rows, told)]
+        # Other branches, each with a symmetry of the other web that leads it here, None if it is here.
+        self.parts = []
+        self.many = 1
+
+    def put_in(self, tries, led):
+        """Puts all of its pairs into tries, led by a symmetry of the other web, if it is not None."""
+        for rows, told in self.pairs:
+            tries[rows if led is None else (rows[0], led_behind(rows[1], led))] = told
+        for part, own in self.parts:
+            if own is None or led is None:
+                part.put_in(tries, led if own is None else own)
+            else:
+                part.put_in(tries, led_behind(own, led))
+
+
 class Refuter:
-    """Tries that are being made. Looks are told by numbers: for a colour, and for the places with tied points."""
+    """The search for tries, at most so many."""
 
-    def __init__(self, one, other):
-        self.webs = (one, other)
-        self.bits = (near_bits(one), near_bits(other))
-        self.near = [[web.near(point) for point in range(len(web))] for web in self.webs]
-        self.tries = {}
+    def __init__(self, sides, is_careful, most):
+        self.sides = sides
+        self.is_careful = is_careful
+        self.most = most
+        self.forks = 0
+        # A map of the one web onto the other one, if it was met.
+        self.found = None
 
-    def looks_from(self, which, row):
-        """The numbers of the looks of all points of a web from a row."""
-        looks = [colour + 1 for colour in self.webs[which].colours]
-        for point in row:
-            looks = self.looks_behind(which, looks, point)
-        return looks
+    def count_more(self, branch, ahead, more):
+        """Counts more tries of the branch; refuses too many, together with those ahead."""
+        branch.many += more
+        if ahead + branch.many > self.most:
+            raise TooMany(self.most)
 
-    def looks_behind(self, which, looks, point):
-        """The numbers of the looks when the row has this point behind it, too."""
-        near = self.bits[which][point]
-        found = [2 * look + (near >> here & 1) if look != IN_ROW else IN_ROW for here, look in enumerate(looks)]
-        found[point] = IN_ROW
-        return found
+    def refute(self, rows, looks, others, ahead):
+        """The branch of two like rows from which each look comes equally often; None if a map is met.
 
-    def refute(self, rows, looks, others):
-        """Makes tries of two like rows, which no map leads to one another, told the looks from both."""
-        if len(self.tries) == MOST_TRIES:
-            raise TooMany(MOST_TRIES)
-        unlike = [look for look in looks + others if looks.count(look) != others.count(look)]
-        if unlike != []:
-            self.tries[rows] = ("many", self.look_told(rows, looks, others, unlike[0]))
-            return
-        point = self.best_point(rows, looks, others)
-        self.tries[rows] = ("point", point)
-        behind = self.looks_behind(0, looks, point)
-        for image in range(len(others)):
-            if others[image] == looks[point]:
-                longer = (rows[0] + (point,), rows[1] + (image,))
-                self.refute(longer, behind, self.looks_behind(1, others, image))
+        It is told the looks from both, and how many tries there are ahead.
+        """
+        fork = Fork(self.sides, looks, others)
+        self.found = fork.map_soon()
+        if self.found is not None:
+            return None
+        self.forks += WORK_ALIKE if fork.is_alike else 1
+        point = fork.best_point(rows[0], self.is_careful)
+        branch = Branch(rows, ("point", point))
+        row = rows[0] + (point,)
+        for look, images in fork.endings_for(point, len(rows[0])):
+            told = ("many", look)
+            branch.pairs.extend([((row, rows[1] + (image,)), told) for image in images])
+        self.count_more(branch, ahead, len(branch.pairs) - 1)
+        behind = looks_behind(self.sides[0], looks, point)
+        for lot in fork.lots_for(point):
+            self.refute_lot(fork, branch, (row, rows[1]), behind, lot, ahead)
+            if self.found is not None:
+                return None
+        return branch
 
-    def look_told(self, rows, looks, others, number):
-        """The look with this number."""
-        if number in looks:
-            return look_at(self.webs[0], rows[0], looks.index(number))
-        return look_at(self.webs[1], rows[1], others.index(number))
+    def refute_lot(self, fork, branch, rows, looks, lot, ahead):
+        """Adds to the branch those of the rows with each point of a lot, of one last key, behind the other one.
 
-    def best_point(self, rows, looks, others):
-        """The point of the first web for which few tries are needed, as far as this can be seen ahead."""
-        images = {point: [image for image, other in enumerate(others) if other == look]
-                  for point, look in enumerate(looks) if look != IN_ROW}
-        rounds = [names_apart(rows, looks, others)]
-        rounds.append(self.next_names(rounds[-1]))
-        names, goals = rounds[-1]
-        sure = [(len(images[point]), point) for point in images
-                if not any([goals[image] == names[point] for image in images[point]])]
-        if sure != []:
-            return min(sure)[1]
-        while are_alike_and_finer(rounds):
-            rounds.append(self.next_names(rounds[-1]))
-        traces = [{}, {}]
-        costs = [(sum([self.cost_of(rounds, traces, point, image) for image in images[point]]), point)
-                 for point in images]
-        return min(costs)[1]
-
-    def next_names(self, names):
-        """The pair of the names of all points of both webs, refined by one round."""
-        keys = [keys_of(near, own) for near, own in zip(self.near, names)]
-        index = indices_of(keys[0] + keys[1])
-        return ([index[key] for key in keys[0]], [index[key] for key in keys[1]])
-
-    def cost_of(self, rounds, traces, point, image):
-        """What the pair of a point and an image is thought to cost."""
-        if rounds[1][0][point] != rounds[1][1][image]:
-            return COST_SOON
-        names = rounds[-1]
-        if names[0][point] != names[1][image]:
-            return COST_LATE
-        for which, here in ((0, point), (1, image)):
-            if here not in traces[which]:
-                traces[which][here] = trace_of(self.near[which], names[which], here)
-        return COST_NEVER if traces[0][point] == traces[1][image] else COST_LATE
+        It is told the looks from the one.
+        """
+        orbits = Orbits(self.sides[1], fork.names[1], [])
+        made = {}
+        for image in lot:
+            head = None if made == {} else orbits.head_of(image)
+            if head is not None and head.point in made:
+                part, led = made[head.point], head.reached[image]
+            else:
+                forks = self.forks
+                others = looks_behind(self.sides[1], fork.looks[1], image)
+                part, led = self.refute((rows[0], rows[1] + (image,)), looks, others, ahead + branch.many), None
+                if part is None:
+                    return
+                if image != lot[-1] and (made != {} or self.forks - forks > FEW_FORKS):
+                    made[orbits.head_of(image).point] = part
+            branch.parts.append((part, led))
+            self.count_more(branch, ahead, part.many)
 
 
-def names_apart(rows, looks, others):
-    """The pair of names for all points of both webs, by their looks and the places of the rows."""
-    keys = []
-    for own, row in zip((looks, others), rows):
-        told = list(own)
-        for place, point in enumerate(row):
-            told[point] = IN_ROW - place
-        keys.append(told)
-    index = indices_of(keys[0] + keys[1])
-    return ([index[key] for key in keys[0]], [index[key] for key in keys[1]])
+def tries_within(sides, rows, looks, is_careful, most):
+    """The pair of tries of two like rows and of None, or of None and a map that leads them.
+
+    It is told the looks from both, of which each comes equally often, and how many tries there may be.
+    """
+    refuter = Refuter(sides, is_careful, most)
+    branch = refuter.refute(rows, looks[0], looks[1], 0)
+    if branch is None:
+        return (None, refuter.found)
+    tries = {}
+    branch.put_in(tries, None)
+    return ({pair: tries[pair] for pair in sorted(tries)}, None)
 
 
-def are_alike_and_finer(rounds):
-    """Whether the last names come equally often in both webs, and are more than those ahead."""
-    names, goals = rounds[-1]
-    return sorted(names) == sorted(goals) and len(set(names)) > len(set(rounds[-2][0]))
+def tries_between(side, row, far, goal):
+    """Such a pair, of tries that are not too many."""
+    rows, looks = (row, goal), (looks_from(side, row), looks_from(far, goal))
+    told, goals = sorted(looks[0]), sorted(looks[1])
+    if told != goals:
+        return ({rows: ("many", look_told(uneven_member(told, goals), len(row)))}, None)
+    # With care the tries are mostly fewer, but it takes long to make them.
+    for is_careful, most in ((False, MANY_TRIES), (True, MOST_TRIES)):
+        try:
+            return tries_within((side, far), rows, looks, is_careful, most)
+        except TooMany:
+            continue
+    return tries_within((side, far), rows, looks, False, MOST_TRIES)
 
 
-def tries_for(one, row, other, goal):
-    """Tries of two like rows, which no map of the same webs leads to one another."""
-    refuter = Refuter(one, other)
-    refuter.refute((row, goal), refuter.looks_from(0, row), refuter.looks_from(1, goal))
-    return {rows: refuter.tries[rows] for rows in sorted(refuter.tries)}
+def tries_for(side, row, far, goal):
+    """Tries of two like rows of two webs, which no map that shows that they are the same leads to one another."""
+    return tries_between(side, row, far, goal)[0]
+
+
+def answer_between(one, row, other, goal):
+    """A map that shows that the webs are the same and leads the row to the goal, like it, or tries."""
+    try:
+        tries, found = tries_between(Side(one), row, Side(other), goal)
+    except TooMany:
+        # There can be a map all the same.
+        found = found_map(one, row, other, goal)
+        if found is None:
+            raise
+        return ("same", found)
+    return ("unlike", tries) if found is None else ("same", found)

@@ -5,9 +5,9 @@ from fivealike.errors import InvalidOperation, InvalidRow, TooMany
 from fivealike.judge.graphs import Graph, are_rows_like
 from fivealike.judge.sames import are_tries, are_tries_of
 from fivealike.plain import are_between, is_told
-from fivealike.same.finding import found_map
-from fivealike.same.groups import form_names, ladder_of, makers_of, reached_from
-from fivealike.same.refuting import look_at, tries_for
+from fivealike.same.groups import form_names, ladder_of, reached_from
+from fivealike.same.refining import Side
+from fivealike.same.refuting import answer_between, look_at, tries_for
 from fivealike.web.checks import check_couple
 from fivealike.web.maps import are_unlike, is_same
 from fivealike.web.webs import check_point, check_web
@@ -74,12 +74,6 @@ def are_like_rows(one, row, other, goal):
     return are_rows_alike(one, row, other, goal)
 
 
-def answer_between(one, row, other, goal):
-    """A map that shows that the webs are the same and leads the row to the goal, or tries."""
-    found = found_map(one, row, other, goal)
-    return ("same", found) if found is not None else ("unlike", tries_for(one, row, other, goal))
-
-
 def is_answer_between(one, row, other, goal, value):
     """Whether the value is a right answer of `answer_between`."""
     if is_told(value, "same"):
@@ -132,21 +126,22 @@ def rows_for_step(point, image):
     return (kept + (point,), kept + (image,))
 
 
-def step_told(web, point, image, reached):
-    """What a ladder of symmetries tells of a point and an image, told the symmetries that there are."""
+def step_told(side, graph, point, image, reached):
+    """What a ladder of symmetries tells of a point and an image of this web, told the symmetries that there are."""
     if image in reached:
         return reached[image]
     row, goal = rows_for_step(point, image)
-    return tries_for(web, row, web, goal) if are_rows_alike(web, row, web, goal) else None
+    return tries_for(side, row, side, goal) if are_rows_like(graph, row, graph, goal) else None
 
 
 def symmetries_of(web):
     """A ladder of symmetries: for each point and each one from it on a symmetry, tries, or None."""
     check_one(web)
     many = len(web)
+    side, graph = Side(web), graph_of_web(web)
     steps = []
-    for point, reached in enumerate(ladder_of(web)):
-        steps.append(tuple([step_told(web, point, image, reached) for image in range(point, many)]))
+    for point, reached in enumerate(ladder_of(side)[0]):
+        steps.append(tuple([step_told(side, graph, point, image, reached) for image in range(point, many)]))
     return tuple(steps)
 
 
@@ -180,7 +175,7 @@ def symmetry_number(web):
     """How many symmetries the web has."""
     check_one(web)
     number = 1
-    for reached in ladder_of(web):
+    for reached in ladder_of(Side(web))[0]:
         number = number * len(reached)
     return number
 
@@ -188,7 +183,7 @@ def symmetry_number(web):
 def moved_points(web):
     """For each point the least one to which some symmetry leads it."""
     check_one(web)
-    makers = makers_of(ladder_of(web))
+    makers = ladder_of(Side(web))[1]
     return tuple([min(reached_from(point, makers, len(web))) for point in range(len(web))])
 
 
