@@ -2,8 +2,8 @@
 
 A look is told by a number: behind that of the colour a digit of base 4 for each place of the row.
 """
-from fivealike.same.finding import Guide, map_by_names, straight_map
-from fivealike.same.refining import STEP, lots_of, refined_behind, trace_of
+from fivealike.same.finding import (STEP, Guide, lots_of, map_by_names, names_by, refined_behind, straight_map,
+                                    trace_of)
 
 TIED = 1
 ITSELF = 2
@@ -42,7 +42,7 @@ class Fork:
         self.sides = sides
         self.looks = (looks, others)
         self.told = sorted(looks)
-        index = sides[0].names_by(self.told)
+        index = names_by(self.told)
         self.names = [[index[look] for look in own] for own in self.looks]
         # The keys of both webs behind the looks, and the last ones that were looked at.
         self.first = self.keys_next()
@@ -61,7 +61,7 @@ class Fork:
             told = sorted(self.last[0])
             if told != sorted(self.last[1]):
                 return False
-            index = self.sides[0].names_by(told)
+            index = names_by(told)
             self.names = [[index[key] for key in own] for own in self.last]
             if len(index) == many:
                 return True

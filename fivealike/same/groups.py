@@ -1,6 +1,5 @@
 """All symmetries of a web, told by a few of them: for each point those that keep all lesser ones."""
-from fivealike.same.finding import Guide, map_along
-from fivealike.same.refining import Side, lot_to_part, refined, refined_behind, trace_of
+from fivealike.same.finding import Guide, Side, lot_to_part, map_along, names_by, refined, refined_behind, trace_of
 
 
 def led_behind(first, second):
@@ -70,7 +69,7 @@ class Orbits:
 
 def names_of_colours(side):
     """The refined names of all points, told apart by their colours."""
-    index = side.names_by(sorted(side.colours))
+    index = names_by(sorted(side.colours))
     return refined(side, [index[colour] for colour in side.colours])[1]
 
 

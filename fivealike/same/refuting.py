@@ -1,9 +1,8 @@
 """The search for tries, which show that no map of two webs leads one row to another."""
 from fivealike.errors import TooMany
-from fivealike.same.finding import found_map
+from fivealike.same.finding import Side, found_map
 from fivealike.same.forks import Fork, look_told, looks_behind, looks_from
 from fivealike.same.groups import Orbits, led_behind
-from fivealike.same.refining import Side
 
 MOST_TRIES = 4000
 MANY_TRIES = 500

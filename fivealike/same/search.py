@@ -5,8 +5,8 @@ from fivealike.errors import InvalidOperation, InvalidRow, TooMany
 from fivealike.judge.graphs import Graph, are_rows_like
 from fivealike.judge.sames import are_tries, are_tries_of
 from fivealike.plain import are_between, is_told
+from fivealike.same.finding import Side
 from fivealike.same.groups import form_names, ladder_of, reached_from
-from fivealike.same.refining import Side
 from fivealike.same.refuting import answer_between, look_at, tries_for
 from fivealike.web.checks import check_couple
 from fivealike.web.maps import are_unlike, is_same
